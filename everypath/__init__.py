@@ -1,0 +1,1 @@
+"""Everypath: a symbolic executor for a small language of functions, integers, loops and inputs."""
