@@ -82,7 +82,7 @@ class Closing:
         low = self.rows[0][at]
         return reduce_strip(None if low is None else -low, self.rows[at][0], rest[0], rest[1]) is not None
 
-    def zone(self):
+    def left(self):
         """The zone that is left."""
         bounds = {}
         for at, row in enumerate(self.rows):
@@ -99,4 +99,4 @@ def close(zone):
     closing = Closing(zone)
     if closing.is_emptied():
         return None
-    return closing.zone()
+    return closing.left()

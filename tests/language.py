@@ -43,6 +43,8 @@ def faults_of_package():
         trees[name[:-3]] = ast.parse(text)
         found.extend(faults_of_text(name, text))
     methods = own_methods(trees)
+    for name in sorted(methods & attributes(trees)):
+        found.append(f"{name} is a method and an attribute")
     for module, tree in trees.items():
         for line, fault in faults_of_tree(tree, trees, methods):
             found.append(f"{module}.py:{line}: {fault}")
@@ -72,6 +74,12 @@ def own_methods(trees):
             if isinstance(node, ast.ClassDef):
                 found.update(part.name for part in node.body if isinstance(part, ast.FunctionDef))
     return found
+
+
+def attributes(trees):
+    """The attributes that some object is given."""
+    return {node.attr for tree in trees.values() for node in ast.walk(tree)
+            if isinstance(node, ast.Attribute) and isinstance(node.ctx, ast.Store)}
 
 
 def faults_of_tree(tree, trees, methods):

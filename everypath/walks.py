@@ -1,0 +1,97 @@
+"""Walks: going along the edges of a program step by step, whatever its values are.
+
+What differs is left to classes beneath: worth(expression) of the running frame, first() for what names are at
+first, chosen(condition) for the side that is taken, and drawn_from(low, high) for an integer that is asked for;
+the last two tell None where there is none.
+"""
+
+
+class Walk:
+    """Frames [f, place, values], how many steps are taken, and why it stopped (None while it goes)."""
+
+    def __init__(self, program, f):
+        self.program = program
+        self.frames = [self.frame(f)]
+        self.taken = 0
+        self.why = None
+
+    def frame(self, f):
+        return [f, 0, {name: self.first() for name in self.program.names[f]}]
+
+    def go(self, steps):
+        """Takes steps until it stops or so many are taken."""
+        while self.why is None and self.taken < steps:
+            self.step()
+        if self.why is None:
+            self.why = ("going",)
+
+    def step(self):
+        """Takes the next step, or tells in why that there is none."""
+        number = self.edge_taken()
+        if number is None:
+            self.why = ("sides",)
+            return
+        f = self.frames[-1][0]
+        edge = self.program.edges[f][number]
+        if self.act(edge[2], f, number):
+            self.taken += 1
+            if edge[2][0] not in ("call", "return"):
+                self.frames[-1][1] = edge[1]
+
+    def edge_taken(self):
+        """The number of the edge that is taken from here, None if a side is wanted and there is none."""
+        f, place, _ = self.frames[-1]
+        numbers = self.program.starts[f][place]
+        if len(numbers) == 1:
+            return numbers[0]
+        side = self.chosen(self.program.edges[f][numbers[0]][2][1])
+        return None if side is None else numbers[side]
+
+    def act(self, action, f, number):
+        """Does what the action of an edge says; False if it stops there."""
+        word = action[0]
+        values = self.frames[-1][2]
+        if word == "set":
+            values[action[1]] = self.worth(action[2])
+        elif word == "any":
+            worth = self.drawn_from(action[2], action[3])
+            if worth is None:
+                self.why = ("asks", f, number)
+                return False
+            values[action[1]] = worth
+        elif word == "call":
+            self.call(action)
+        elif word == "return":
+            return self.come_back(self.worth(action[1]))
+        elif word in ("assert", "assume"):
+            return self.tries(action, f, number)
+        elif word == "print":
+            self.prints(self.worth(action[1]))
+        return True
+
+    def call(self, action):
+        frame = self.frame(action[2])
+        for param, expression in zip(self.program.params[action[2]], action[3]):
+            frame[2][param] = self.worth(expression)
+        self.frames.append(frame)
+
+    def come_back(self, worth):
+        """Takes the running frame away, the value being set in the one below; False if it was the last one."""
+        if len(self.frames) == 1:
+            self.why = ("ends", self.told(worth))
+            return False
+        self.frames.pop()
+        f, place, values = self.frames[-1]
+        edge = self.program.edges[f][self.program.starts[f][place][0]]
+        values[edge[2][1]] = worth
+        self.frames[-1][1] = edge[1]
+        return True
+
+    def tries(self, action, f, number):
+        """Whether an assert or assume lets the run go on."""
+        side = self.chosen(action[1])
+        if side is None:
+            self.why = ("sides",)
+        elif side == 1:
+            self.why = ("breaks" if action[0] == "assert" else "barred", f, number)
+        return side == 0
