@@ -29,7 +29,7 @@ class Following(Walk):
     def told(self, worth):
         return written_sum(worth)
 
-    def chosen(self, condition):
+    def side_of(self, condition):
         """The next of the sides, None if there is no more."""
         if self.gone == len(self.sides):
             return None

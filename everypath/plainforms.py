@@ -3,14 +3,14 @@
 from everypath.conditions import turned
 from everypath.errors import BadCondition, BadExpression
 from everypath.kinds import tupled
-from everypath.plainsums import plain_sum, written_sum
+from everypath.plainsums import plain_expression, plain_sum, written_sum
 from everypath.trees import is_condition, is_expression
 
 
 def plain(expression):
     if not is_expression(expression):
         raise BadExpression(expression)
-    return written_sum(plain_sum(tupled(expression), {}))
+    return plain_expression(tupled(expression))
 
 
 def alternatives(condition):

@@ -34,6 +34,10 @@ def written_sum(form):
     return whole
 
 
+def plain_expression(expression):
+    return written_sum(plain_sum(expression, {}))
+
+
 def plain_condition(condition, sums):
     """The condition with plain expressions, each name being what the dict sums has for it."""
     word = condition[0]

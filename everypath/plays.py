@@ -23,7 +23,7 @@ class Play(Walk):
     def told(self, worth):
         return worth
 
-    def chosen(self, condition):
+    def side_of(self, condition):
         side = 0 if holds(condition, self.frames[-1][2]) else 1
         self.sides.append(side)
         return side

@@ -25,7 +25,7 @@ class Writer:
             self.places[less] = board.first_low
             self.many += 1
 
-    def refutation(self, root):
+    def items_below(self, root):
         """The items of the refutation that the nodes of a search make."""
         items = []
         waiting = [root]

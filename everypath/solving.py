@@ -23,7 +23,7 @@ def least_values(ranges, rows):
     board = Board(ranges, rows, {})
     search = search_board(board, False)
     if search.best is None:
-        return "none", Writer(board, None).refutation(search.root)
+        return "none", Writer(board, None).items_below(search.root)
     return "values", board.lattice.unknowns_at(search.best)
 
 
@@ -33,9 +33,9 @@ def least_sum(ranges, rows, factors):
     board = Board(ranges, rows, toward)
     search = search_board(board, True)
     if search.best is None:
-        return "none", Writer(board, None).refutation(search.root)
+        return "none", Writer(board, None).items_below(search.root)
     found = board.lattice.unknowns_at(search.best)
     n = sum([toward[at] * found[at] for at in toward])
     _, values = least_values(ranges, [*rows, (factors, n), ([-factor for factor in factors], -n)])
     less = board.append((toward, n - 1), None, None)
-    return "least", n, values, Writer(board, less).refutation(search.root)
+    return "least", n, values, Writer(board, less).items_below(search.root)

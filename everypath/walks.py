@@ -1,7 +1,7 @@
 """Walks: going along the edges of a program step by step, whatever its values are.
 
 What differs is left to classes beneath: worth(expression) of the running frame, first() for what names are at
-first, chosen(condition) for the side that is taken, and drawn_from(low, high) for an integer that is asked for;
+first, side_of(condition) for the side that is taken, and drawn_from(low, high) for an integer that is asked for;
 the last two tell None where there is none.
 """
 
@@ -44,7 +44,7 @@ class Walk:
         numbers = self.program.starts[f][place]
         if len(numbers) == 1:
             return numbers[0]
-        side = self.chosen(self.program.edges[f][numbers[0]][2][1])
+        side = self.side_of(self.program.edges[f][numbers[0]][2][1])
         return None if side is None else numbers[side]
 
     def act(self, action, f, number):
@@ -89,7 +89,7 @@ class Walk:
 
     def tries(self, action, f, number):
         """Whether an assert or assume lets the run go on."""
-        side = self.chosen(action[1])
+        side = self.side_of(action[1])
         if side is None:
             self.why = ("sides",)
         elif side == 1:

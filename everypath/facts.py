@@ -1,0 +1,141 @@
+"""Facts over unknowns as rows: each div and mod piece has an unknown more, its QUOTIENT.
+
+COLUMNS are numbers: those of the unknowns, then those of the quotients of all facts that were brought, in the order
+in which they are met, inner ones first. A LINE is a pair (constant, factors), factors a dict from columns.
+"""
+
+from everypath.folds import sum_of
+from everypath.lattices import add_multiples
+from everypath.stripmath import alone, divided, multiple, reduce_strip, remaining, total
+
+UNKNOWN = 0
+DIV = 1
+MOD = 2
+
+
+class FactTable:
+    """The facts that were brought, by numbers, each the row of its line, and the columns of quotients that it meets.
+
+    Of each quotient there are the line and the strip of what is divided, and by what.
+    """
+
+    def __init__(self, ranges):
+        self.ranges = [(low, high) for low, high in ranges]
+        self.many = len(ranges)
+        self.columns = {f"u{at}": at for at in range(self.many)}
+        self.quotient_numbers = {}
+        self.lines = []
+        self.strips = []
+        self.divisors = []
+        self.fact_numbers = {}
+        self.rows = []
+        self.meets = []
+
+    def bring(self, fact):
+        """The number of a fact (e, f), both plain."""
+        met = []
+        one, other = self.line_of(fact[0], met), self.line_of(fact[1], met)
+        factors = dict(one[1])
+        add_multiples(factors, other[1], -1)
+        factors = {column: factors[column] for column in sorted(factors) if factors[column] != 0}
+        bound = other[0] - one[0]
+        key = (tuple(list(factors.items())), bound, tuple(met))
+        if key not in self.fact_numbers:
+            self.fact_numbers[key] = len(self.rows)
+            self.rows.append((factors, bound))
+            self.meets.append(list(dict([(column, True) for column in met])))
+        return self.fact_numbers[key]
+
+    def line_of(self, expression, met):
+        """The line of a plain expression; the columns of its quotients are put behind what is met."""
+        def of_name(name):
+            return 0, [((UNKNOWN, self.columns[name]), 1)]
+
+        def of_quotient(part, inner):
+            number = self.quotient(inner, part[2])
+            met.append(self.many + number)
+            return 0, [((DIV if part[0] == "div" else MOD, number), 1)]
+
+        return self.line_of_sum(sum_of(expression, of_name, of_quotient))
+
+    def quotient(self, form, n):
+        """The number of the quotient of what has this sum by n."""
+        constant, terms = form
+        key = (constant, tuple(terms), n)
+        if key not in self.quotient_numbers:
+            self.quotient_numbers[key] = len(self.lines)
+            self.lines.append(self.line_of_sum(form))
+            self.strips.append(self.strip_of_sum(form))
+            self.divisors.append(n)
+        return self.quotient_numbers[key]
+
+    def line_of_sum(self, form):
+        """The line of a sum whose pieces are unknowns, divs and mods by their numbers."""
+        constant, terms = form
+        factors = {}
+        for (kind, number), factor in terms:
+            if kind == UNKNOWN:
+                add_multiples(factors, {number: 1}, factor)
+            elif kind == DIV:
+                add_multiples(factors, {self.many + number: 1}, factor)
+            else:
+                own, inner = self.lines[number]
+                constant += factor * own
+                add_multiples(factors, inner, factor)
+                add_multiples(factors, {self.many + number: self.divisors[number]}, -factor)
+        return constant, {column: factors[column] for column in factors if factors[column] != 0}
+
+    def strip_of_sum(self, form):
+        """The strip of such a sum."""
+        constant, terms = form
+        strip = alone(constant)
+        for (kind, number), factor in terms:
+            strip = total(strip, multiple(factor, self.piece_strip(kind, number)))
+        return strip
+
+    def piece_strip(self, kind, number):
+        if kind == UNKNOWN:
+            low, high = self.ranges[number]
+            return reduce_strip(low, high, 1, 0)
+        if kind == DIV:
+            return divided(self.strips[number], self.divisors[number])
+        return remaining(self.strips[number], self.divisors[number])
+
+    def column_range(self, column):
+        if column < self.many:
+            return self.ranges[column]
+        return self.piece_strip(DIV, column - self.many)[:2]
+
+    def met_by(self, facts):
+        """The columns of the quotients of facts, in the order in which they are met."""
+        return list(dict([(column, True) for fact in facts for column in self.meets[fact]]))
+
+    def system_by(self, facts):
+        """The system of facts, by their numbers."""
+        quotients = self.met_by(facts)
+        columns = [*list(range(self.many)), *quotients]
+        rows = [self.rows[fact] for fact in facts]
+        for column in quotients:
+            rows.extend(self.quotient_rows(column))
+        return ([self.column_range(column) for column in columns],
+                [([factors.get(column, 0) for column in columns], bound) for factors, bound in rows])
+
+    def quotient_rows(self, column):
+        """The two rows that tell what a quotient is."""
+        number = column - self.many
+        constant, factors = self.lines[number]
+        n = self.divisors[number]
+        above = {inner: -factors[inner] for inner in factors}
+        above[column] = n
+        return (above, constant), ({**factors, column: -n}, n - 1 - constant)
+
+    def worths(self, numbers):
+        """What all columns are for these integers of the unknowns."""
+        found = list(numbers)
+        for (constant, factors), n in zip(self.lines, self.divisors):
+            found.append((constant + sum([factors[column] * found[column] for column in factors])) // n)
+        return found
+
+    def is_true(self, fact, worths):
+        factors, bound = self.rows[fact]
+        return sum([factors[column] * worths[column] for column in factors]) <= bound

@@ -1,0 +1,91 @@
+"""The least integers that meet conditions over unknowns, or a refutation of the conditions."""
+
+from heapq import heappop, heappush
+
+from everypath.choices import Chooser, facts_chosen, open_choice
+from everypath.facts import FactTable
+from everypath.lifting import used_facts
+from everypath.solving import least_values
+
+
+class Part:
+    """What is left of the conditions by what is chosen: the facts that must hold then, in their order.
+
+    refutation: items for the system of the facts of some part; choice: (number, index of its condition), then
+    below has the parts for both sides of it.
+    """
+
+    def __init__(self, chosen, facts):
+        self.chosen = chosen
+        self.facts = facts
+        self.refutation = None
+        self.choice = None
+        self.below = []
+
+
+class Refuted:
+    """Items that refute the system of these facts, and those facts that they use."""
+
+    def __init__(self, items, facts, used):
+        self.items = items
+        self.facts = facts
+        self.used = used
+
+
+class Pursuit:
+    """Goes the choices of conditions, those with the least integers first."""
+
+    def __init__(self, ranges, conditions):
+        self.table = FactTable(ranges)
+        chooser = Chooser(self.table)
+        self.trees = [chooser.tree_of(condition) for condition in conditions]
+        self.refuted = []
+        self.queue = []
+        self.parts = 0
+        self.root = self.new_part({})
+
+    def least(self):
+        """The least integers that meet all conditions, None if none do."""
+        while self.queue:
+            numbers, _, part = heappop(self.queue)
+            worths = self.table.worths(numbers)
+            if not self.chooses(part, worths):
+                return numbers
+        return None
+
+    def new_part(self, chosen):
+        """The part for what is chosen, refuted, or put into the queue."""
+        facts = [fact for tree in self.trees for fact in facts_chosen(tree, chosen)]
+        part = Part(chosen, facts)
+        part.refutation = self.known(facts)
+        if part.refutation is None:
+            self.solve(part)
+        return part
+
+    def known(self, facts):
+        """What refutes some of the facts, as far as it is known; None else."""
+        there = {fact: True for fact in facts}
+        for refuted in self.refuted:
+            if all([fact in there for fact in refuted.used]):
+                return refuted
+        return None
+
+    def solve(self, part):
+        ranges, rows = self.table.system_by(part.facts)
+        kind, found = least_values(ranges, rows)
+        if kind == "none":
+            part.refutation = Refuted(found, part.facts, used_facts(self.table, part.facts, found))
+            self.refuted.append(part.refutation)
+        else:
+            self.parts += 1
+            heappush(self.queue, (found[:self.table.many], self.parts, part))
+
+    def chooses(self, part, worths):
+        """Parts by a choice of a condition that does not hold for these worths; False if all hold."""
+        for index, tree in enumerate(self.trees):
+            number = open_choice(tree, part.chosen, self.table, worths)
+            if number is not None:
+                part.choice = (number, index)
+                part.below = [self.new_part({**part.chosen, number: side}) for side in (0, 1)]
+                return True
+        return False
