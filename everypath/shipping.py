@@ -6,22 +6,44 @@ is cheaper: so all of it together is cheapest at any time.
 """
 
 
-class Shipping:
-    """What is shipped by the bounds of a closed zone; a pair without a bound costs lacking, more than any other way."""
+class Prices:
+    """What a unit costs from thing to thing: its bound in a closed zone.
 
-    def __init__(self, bounds, lacking, flow):
+    A pair without a bound costs more than any way by bounds, and as much as the cheapest way that has one such pair:
+    so no way through other things is ever cheaper than straight on, and what is shipped need not know of those.
+    """
+
+    def __init__(self, bounds):
         self.bounds = bounds
-        self.lacking = lacking
+        greatest = max([abs(bounds[pair]) for pair in bounds], default=0)
+        self.lacking = 8 * (len(bounds) + 2) * (greatest + 1)
+        self.from_there = {}
+        self.to_there = {}
+        for u, v in bounds:
+            self.from_there[u] = min(bounds[(u, v)], self.from_there.get(u, 0))
+            self.to_there[v] = min(bounds[(u, v)], self.to_there.get(v, 0))
+
+    def price(self, u, v):
+        if (u, v) in self.bounds:
+            return self.bounds[(u, v)]
+        return self.lacking + self.from_there.get(u, 0) + self.to_there.get(v, 0)
+
+
+class Shipping:
+    """How many units are shipped from thing to thing, at these prices."""
+
+    def __init__(self, prices, flow):
+        self.prices = prices
         self.flow = flow
 
     def copied(self):
-        return Shipping(self.bounds, self.lacking, {pair: self.flow[pair] for pair in self.flow})
+        return Shipping(self.prices, {pair: self.flow[pair] for pair in self.flow})
 
     def cost_from(self, u, v):
         """What the next unit from u to v costs, taken back if one was shipped the other way."""
         if (v, u) in self.flow:
-            return -self.bounds.get((v, u), self.lacking)
-        return self.bounds.get((u, v), self.lacking)
+            return -self.prices.price(v, u)
+        return self.prices.price(u, v)
 
     def ship(self, u, v, units):
         """Ships so many units from u to v."""
@@ -73,15 +95,15 @@ class Shipping:
 
     def cost(self):
         """What all of it costs, None if a pair without a bound is needed."""
-        if not all([pair in self.bounds for pair in self.flow]):
+        bounds = self.prices.bounds
+        if not all([pair in bounds for pair in self.flow]):
             return None
-        return sum([self.flow[pair] * self.bounds[pair] for pair in self.flow])
+        return sum([self.flow[pair] * bounds[pair] for pair in self.flow])
 
 
 def shipping_of(bounds, terms):
     """The shipping of terms, pairs (thing, factor)."""
-    greatest = max([abs(bounds[pair]) for pair in bounds], default=0)
-    shipping = Shipping(bounds, 4 * (len(bounds) + 2) * (greatest + 1), {})
+    shipping = Shipping(Prices(bounds), {})
     for thing, factor in terms:
         if factor > 0:
             shipping.ship(thing, "0", factor)
