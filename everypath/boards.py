@@ -54,9 +54,9 @@ class Board:
         factors, bound = self.rows[number]
         if common_divisor(list(factors.values())) == 1:
             return number
-        return self.append(divided_row(factors, bound), None, {number: 1})
+        return self.put_behind(divided_row(factors, bound), None, {number: 1})
 
-    def append(self, row, over_t, made):
+    def put_behind(self, row, over_t, made):
         self.rows.append(row)
         self.over_t.append(over_t)
         self.made.append(made)
@@ -72,7 +72,7 @@ class Board:
         if common_divisor(list(row.values())) == 1:
             self.over_t[number] = (row, bound)
             return number
-        return self.append(None, divided_row(row, bound), {number: 1})
+        return self.put_behind(None, divided_row(row, bound), {number: 1})
 
     def brought(self, row):
         """A row over x as one over t, not divided."""
@@ -92,7 +92,7 @@ class Board:
             made[self.first_low + 2 * at + side] = abs(self.toward[at])
             bound -= self.toward[at] * self.ranges[at][side]
         row, bound = self.brought(({at: -self.toward[at] for at in self.toward}, bound))
-        return self.append(None, divided_row(row, bound), made)
+        return self.put_behind(None, divided_row(row, bound), made)
 
     def enter_sum(self, multipliers):
         """The number of the sum of rows over t, each times its multiplier, divided by its common divisor."""
@@ -103,7 +103,7 @@ class Board:
             add_multiples(factors, row, multipliers[number])
             bound += multipliers[number] * own
         factors = {at: factors[at] for at in factors if factors[at] != 0}
-        return self.append(None, divided_row(factors, bound), multipliers)
+        return self.put_behind(None, divided_row(factors, bound), multipliers)
 
 
 def all_rows(ranges, rows):

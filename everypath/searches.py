@@ -79,7 +79,7 @@ class Search:
                 self.leave(node)
                 return True
             if node.cuts_made == self.cuts:
-                self.split(node)
+                self.part(node)
                 return True
             self.cut(node, broken)
         return False
@@ -140,13 +140,13 @@ class Search:
         node.cuts.append(self.board.enter_sum({number: made[number] for number in made if made[number] != 0}))
         node.cuts_made += 1
 
-    def split(self, node):
+    def part(self, node):
         """Parts a node by the unknown that is farthest from integers; the nearer side is gone first."""
         at, start, whole = self.farthest(node.corner)
         bound = start // whole
         below = []
         for factor, limit in ((1, bound), (-1, -bound - 1)):
-            number = self.board.append(({at: factor}, limit), None, None)
+            number = self.board.put_behind(({at: factor}, limit), None, None)
             standing = [*node.standing, self.board.enter(number)]
             below.append(Node(node.corner.copied(), standing, node.cuts, [*node.splits, number]))
         node.below = (at, bound, below)

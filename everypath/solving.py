@@ -37,5 +37,5 @@ def least_sum(ranges, rows, factors):
     found = board.lattice.unknowns_at(search.best)
     n = sum([toward[at] * found[at] for at in toward])
     _, values = least_values(ranges, [*rows, (factors, n), ([-factor for factor in factors], -n)])
-    less = board.append((toward, n - 1), None, None)
+    less = board.put_behind((toward, n - 1), None, None)
     return "least", n, values, Writer(board, less).items_below(search.root)

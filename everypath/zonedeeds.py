@@ -48,7 +48,9 @@ def step(zone, action):
     if word == "set":
         if zone is None:
             return None
-        return draw(zone, {**{thing: ("name", thing) for thing in zone[0]}, action[1]: action[2]})
+        drawing = {thing: ("name", thing) for thing in zone[0]}
+        drawing[action[1]] = action[2]
+        return draw(zone, drawing)
     if word == "any":
         return free(zone, action[1], action[2], action[3])
     if word in ("when", "assume", "assert"):

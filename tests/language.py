@@ -20,6 +20,7 @@ VIEWS = ("items", "keys", "values")
 AT_ONCE = ("zip", "enumerate", "reversed", "range")
 TAKERS = ("list", "tuple", "dict", "sorted", "sum", "any", "all", "enumerate", "zip", "min", "max")
 CHANGES = ("append", "clear", "extend", "insert", "pop", "remove", "reverse", "setdefault", "update", "add", "discard")
+ONE_ARGUMENT = ("append", "extend", "remove", "add", "discard", "update")
 STATEMENTS = (ast.Assign, ast.AugAssign, ast.If, ast.While, ast.For, ast.Return, ast.Break, ast.Continue, ast.Pass,
               ast.Raise, ast.Delete, ast.Expr, ast.FunctionDef, ast.ClassDef, ast.ImportFrom)
 BARRED_NODES = (ast.GeneratorExp, ast.Yield, ast.YieldFrom, ast.NamedExpr, ast.Await, ast.AnnAssign, ast.Div,
@@ -213,8 +214,17 @@ def call_faults(node, methods):
             yield node.lineno, f"method {func.attr}"
         if func.attr in METHODS and node.keywords:
             yield node.lineno, f"keyword of {func.attr}"
+        if func.attr in ONE_ARGUMENT and len(node.args) != 1:
+            yield node.lineno, f"{func.attr} takes one argument"
     else:
         yield node.lineno, "call of what is no name and no method"
+    if any(isinstance(part, ast.Starred) for part in node.args):
+        if not isinstance(func, ast.Name) or func.id in BUILTINS and func.id not in ("min", "max", "zip"):
+            yield node.lineno, "star in a call"
+        if func.id in [name for names in LIBRARY.values() for name in names]:
+            yield node.lineno, "star in a call of the library"
+    if any(word.arg is None for word in node.keywords):
+        yield node.lineno, "two stars in a call"
 
 
 def is_iterated(node):

@@ -1,0 +1,49 @@
+"""The interface: each name is defined in the file that tells it, with the parameters shown."""
+
+import importlib
+import inspect
+import unittest
+
+INTERFACE = {
+    "callsteps": "begun(program, f, zone); returned(program, f, zone, expression); "
+                 "called(program, f, zone, g, expressions); come_back(program, f, zone, x, g, expressions, end)",
+    "deciding": "system_of(ranges, facts); decided(ranges, conditions); is_refutation(ranges, conditions, thing)",
+    "forms": "form_of(expression); strip_of(expression, strips)",
+    "graphs": "places(program, f); edges(program, f); assertions(program)",
+    "papers": "things_of(program, f); sided(zone, cuts, sides); sides_of(cuts, numbers); is_paper(program, thing)",
+    "paths": "path_of(program, inputs, steps); followed(program, sides, steps)",
+    "plainforms": "plain(expression); alternatives(condition)",
+    "programs": "Program(functions); names_of(program, f)",
+    "runs": "played(program, inputs, steps); printed(program, inputs, steps); "
+            "breaking(program, assertion, inputs, steps)",
+    "strips": "reduced(low, high, modulus, remainder); strip_has(strip, n); strip_many(strip); "
+              "strip_within(strip, other); strip_joined(strip, other); strip_met(strip, other); "
+              "strip_without(strip, n); strip_sum(strip, other); strip_times(n, strip); strip_div(strip, n); "
+              "strip_mod(strip, n)",
+    "systems": "is_met(system, thing); is_none(system, thing); solved(system); least_of(system, factors); "
+               "greatest_of(system, factors)",
+    "zones": "is_zone(thing); closed(zone); is_in(zone, values); is_even(zone); is_below(zone, other); "
+             "is_within(zone, other); joined(zone, other); met(zone, other); strip_in(zone, thing); "
+             "kept(zone, things); renamed(zone, names)",
+    "zonesteps": "most(zone, expression); drawn(zone, expressions); freed(zone, thing, low, high); "
+                 "when(zone, condition); stepped(zone, action)"}
+
+
+class InterfaceTest(unittest.TestCase):
+    def test_names_and_parameters(self):
+        for module, told in INTERFACE.items():
+            found = importlib.import_module(f"everypath.{module}")
+            for entry in told.split("; "):
+                name, _, parameters = entry.rstrip(")").partition("(")
+                thing = getattr(found, name)
+                self.assertEqual(thing.__module__, f"everypath.{module}")
+                self.assertEqual(list(inspect.signature(thing).parameters), parameters.split(", "))
+
+    def test_methods_of_program(self):
+        program = importlib.import_module("everypath.programs").Program
+        self.assertIn("functions", vars(program))
+        self.assertIn("__eq__", vars(program))
+
+
+if __name__ == "__main__":
+    unittest.main()
