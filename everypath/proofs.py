@@ -6,24 +6,11 @@ from everypath.lattices import add_multiples, dot
 
 
 class Writer:
-    """For each number of a row that is a sum: the multipliers of rows over x, with lesser numbers, that make it.
+    """For each number of a row that is a sum: the multipliers of rows over x, with lesser numbers, that make it."""
 
-    If the number of a row less is told, which stands behind the rows of the system and lets only what is better than
-    the best that a search found, then it writes that with this row nothing is let.
-    """
-
-    def __init__(self, board, less):
+    def __init__(self, board):
         self.board = board
         self.sums = {}
-        self.less = None
-        self.places = {number: number for number in range(board.many)}
-        self.many = board.many
-        if less is not None:
-            self.less = board.enter(less)
-            for number in range(board.first_low, board.many):
-                self.places[number] = number + 1
-            self.places[less] = board.first_low
-            self.many += 1
 
     def items_below(self, root):
         """The items of the refutation that the nodes of a search make."""
@@ -39,29 +26,15 @@ class Writer:
                 waiting.extend(below[::-1])
         return items
 
-    def proof_of(self, node):
-        """The multipliers over t of rows whose sum lets nothing."""
-        if node.proof is not None:
-            return node.proof
-        if node.floor is None or self.less is None:
-            return self.board.hopeless
-        denominator, multipliers = node.floor
-        return {**multipliers, self.less: multipliers.get(self.less, 0) + denominator}
-
     def lists(self, node):
-        """The lists of multipliers of a node that is left."""
-        proof = self.proof_of(node)
-        for number in self.made_of(proof, self.board.made):
+        """The lists of multipliers of a node that has a proof."""
+        for number in self.made_of(node.proof, self.board.made):
             self.write(number)
-        last = self.over_x(proof)
+        last = self.over_x(node.proof)
         needed = self.made_of(last, self.sums)
-        places = dict(self.places)
-        many = self.many
-        for number in [*node.splits, *needed]:
-            places[number] = many
-            many += 1
+        many = self.board.many + len(node.splits)
+        places = {number: self.board.many + at for at, number in enumerate([*node.splits, *needed])}
         sums = [*[self.sums[number] for number in needed], last]
-        many -= len(needed)
         return [listed(multipliers, places, many + at) for at, multipliers in enumerate(sums)]
 
     def made_of(self, multipliers, table):
@@ -126,8 +99,8 @@ class Writer:
 
 
 def listed(multipliers, places, many):
-    """Multipliers as a list for so many rows, each at its place."""
+    """Multipliers as a list for so many rows; places has where those stand that do not stand at their number."""
     found = [0 for _ in range(many)]
     for number in multipliers:
-        found[places[number]] = multipliers[number]
+        found[places.get(number, number)] = multipliers[number]
     return found

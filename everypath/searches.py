@@ -6,8 +6,7 @@ from everypath.corners import Corner
 class Node:
     """A part of a search: its corner, the rows that stand, the cuts that do, the rows of splits, what came of it.
 
-    proof: multipliers of rows whose sum lets nothing. floor: the denominator of the first t where the node was left,
-    and the multipliers of rows by which it is no less there. below: (unknown, bound, the two nodes of a split).
+    proof: multipliers of rows whose sum lets nothing; below: (unknown, bound, the two nodes of a split).
     """
 
     def __init__(self, corner, standing, cuts, splits):
@@ -17,20 +16,15 @@ class Node:
         self.splits = splits
         self.cuts_made = 0
         self.proof = None
-        self.floor = None
         self.below = None
 
 
 class Search:
-    """Goes a board with at most so many cuts a node.
+    """Goes a board with at most so many cuts a node; best is the least that it has found, as lists compare."""
 
-    If it aims at the first of the t alone, any with the least first one is found, else the least, as lists compare.
-    """
-
-    def __init__(self, board, cuts, is_first_alone):
+    def __init__(self, board, cuts):
         self.board = board
         self.cuts = cuts
-        self.is_first_alone = is_first_alone
         self.best = None
         self.changes = 0
         self.root = Node(None, board.standing, [], [])
@@ -68,21 +62,24 @@ class Search:
             self.changes -= 1
             if not self.is_settled(node):
                 continue
-            if node.proof is not None:
-                return True
-            if self.is_no_better(node.corner):
-                self.leave(node)
+            if node.proof is not None or self.is_no_better(node.corner):
                 return True
             broken = first_broken(node.corner)
             if broken is None:
                 self.best = [start // denominator for start, _, denominator in node.corner.unknowns]
-                self.leave(node)
                 return True
             if node.cuts_made == self.cuts:
                 self.part(node)
                 return True
             self.cut(node, broken)
         return False
+
+    def lowest_first(self):
+        """The least integer that the first of the t may be by the rows alone, before any is cut or split."""
+        while not self.is_settled(self.root):
+            pass
+        start, _, denominator = self.root.corner.unknowns[0]
+        return -(-start // denominator)
 
     def is_settled(self, node):
         """Whether all rows are met at the corner, or none can be; else it takes one of those not met."""
@@ -119,17 +116,9 @@ class Search:
         if self.best is None:
             return False
         for (start, _, denominator), found in zip(corner.unknowns, self.best):
-            if self.is_first_alone:
-                return -(-start // denominator) >= found
             if start != found * denominator:
                 return start > found * denominator
         return True
-
-    def leave(self, node):
-        """Keeps by which rows the first of the t is no less than at the corner."""
-        if node.corner.unknowns:
-            _, multiples, denominator = node.corner.unknowns[0]
-            node.floor = (denominator, node.corner.by_rows(multiples))
 
     def cut(self, node, broken):
         """Puts a row behind that what is left over of integers in the multiples of an unknown makes."""

@@ -3,7 +3,7 @@
 from everypath.kinds import are_integers, are_ranges, is_integer, is_list, is_list_of
 from everypath.refusals import BadFactors, BadSystem
 from everypath.rowjudge import is_refuted_by
-from everypath.solving import least_sum, least_values
+from everypath.solving import least_sum, least_values, sum_at
 
 
 def is_met(system, thing):
@@ -39,10 +39,6 @@ def greatest_of(system, factors):
     if told[0] == "none":
         return told
     return "greatest", -told[1], told[2], told[3]
-
-
-def sum_at(factors, values):
-    return sum([factor * worth for factor, worth in zip(factors, values)])
 
 
 def is_system(thing):
