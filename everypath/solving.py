@@ -19,11 +19,13 @@ def least_values(ranges, rows):
 
 def finished_search(board):
     """The first search that is done, each of a kind being gone on with in its turn."""
-    searches = [(Search(board, cuts), changes) for cuts, changes in KINDS]
+    searches = []
     while True:
-        for search, changes in searches:
-            if search.is_done(changes):
-                return search
+        for at, (cuts, changes) in enumerate(KINDS):
+            if at == len(searches):
+                searches.append(Search(board, cuts))
+            if searches[at].is_done(changes):
+                return searches[at]
 
 
 def least_sum(ranges, rows, factors):
