@@ -1,46 +1,53 @@
-"""Boards: all rows that stand while a system is gone through, by numbers in the order in which they came.
+"""Boards: rows of a ledger told by the t of a lattice, which holds the equalities among them."""
 
-A row over the unknowns x is a pair (factors, bound), factors a dict from unknowns to factors other than 0. The x are
-told by the t of a lattice, which knows the equalities among the rows; so each row is one over the t, too, divided by
-the common divisor of its factors there.
-"""
+from everypath.divisors import common_divisor, common_multiple
+from everypath.lattices import Lattice
+from everypath.ledgers import divided_row
+from everypath.multiples import add_multiples, dot, without_zeros
 
-from everypath.divisors import common_divisor
-from everypath.lattices import Lattice, add_multiples, dot
+
+class Line:
+    """A row over t, its factors without a common divisor; written: the number of just it over x, None till then.
+
+    It is what comes of the row of the ledger called source, or else of other lines, by their multipliers.
+    """
+
+    def __init__(self, row, source, multipliers):
+        self.row = row
+        self.source = source
+        self.multipliers = multipliers
+        self.written = None
+
+    def excess(self, numerators, whole):
+        """By how much the t, numerators over whole, exceed it, times whole."""
+        factors, bound = self.row
+        return dot(factors, numerators) - bound * whole
 
 
 class Board:
-    """For each number the row over x (None, till it is asked for), the one over t, and what it is MADE of.
+    """Some rows of a ledger, by their numbers, and the lines that they and what is made of them come to.
 
-    The row over t is None for one that another one stands for. What it is made of, over t, is a dict from numbers
-    to multipliers, None for what simply stands: a row of the system or one of a split.
+    hopeless: the number of a row that lets nothing, None if there is none.
     """
 
-    def __init__(self, ranges, rows, toward):
-        self.ranges = ranges
-        self.toward = toward
-        self.rows = all_rows(ranges, rows)
-        self.many = len(self.rows)
-        self.first_low = len(rows)
-        self.over_t = [None for _ in self.rows]
-        self.made = [None for _ in self.rows]
+    def __init__(self, ledger, numbers):
+        self.ledger = ledger
+        self.numbers = numbers
+        self.lattice = Lattice(len(ledger.ranges))
         self.equalities = []
-        self.lattice = Lattice(len(ranges))
         self.find_equalities()
-        self.sums = [toward, *[{at: 1} for at in range(len(ranges))]]
-        self.lattice.order(self.sums)
+        self.sums = []
+        self.lines = []
+        self.standing = []
         self.hopeless = None
-        self.entered = [self.enter(number) for number in range(self.many)]
-        self.standing = [number for number in self.entered if number is not None]
 
     def find_equalities(self):
         """Lets the lattice hold each two rows that are met only if both are with nothing to spare."""
         best = {}
-        for number in range(self.many):
-            factors, bound = self.rows[number]
+        for number in self.numbers:
+            factors, bound = divided_row(self.ledger.rows[number])
             if factors:
-                key, bound = divided_row(factors, bound)
-                key = tuple(sorted(list(key.items())))
+                key = tuple(sorted(list(factors.items())))
                 if key not in best or bound < best[key][0]:
                     best[key] = (bound, number)
         for key in best:
@@ -51,71 +58,99 @@ class Board:
 
     def divided(self, number):
         """The number of the row divided by the common divisor of its factors over x."""
-        factors, bound = self.rows[number]
-        if common_divisor(list(factors.values())) == 1:
+        if common_divisor(list(self.ledger.rows[number][0].values())) == 1:
             return number
-        return self.put_behind(divided_row(factors, bound), None, {number: 1})
+        return self.ledger.sum_up({number: 1})
 
-    def put_behind(self, row, over_t, made):
-        self.rows.append(row)
-        self.over_t.append(over_t)
-        self.made.append(made)
-        return len(self.rows) - 1
+    def stand(self, sums):
+        """Orders the t by sums over x and brings all rows there."""
+        self.sums = sums
+        self.lattice.order(sums)
+        self.lines = []
+        brought = [self.bring(number) for number in self.numbers]
+        self.standing = [line for line in brought if line is not None]
 
-    def enter(self, number):
-        """Brings a row over x to the t; tells the number of what stands for it there, None if nothing need stand."""
-        row, bound = self.brought(self.rows[number])
-        if not row:
-            if bound < 0 and self.hopeless is None:
-                self.hopeless = {number: 1}
+    def bring(self, number):
+        """The number of the line that a row comes to, None if it has no t."""
+        row, bound = self.ledger.rows[number]
+        along = self.lattice.along(row)
+        factors = {at: part for at, part in enumerate(along) if part != 0}
+        bound -= dot(row, self.lattice.start)
+        if not factors:
+            if bound < 0:
+                self.hopeless = number
             return None
-        if common_divisor(list(row.values())) == 1:
-            self.over_t[number] = (row, bound)
-            return number
-        return self.put_behind(None, divided_row(row, bound), {number: 1})
+        line = Line(divided_row((factors, bound)), number, {})
+        if common_divisor(list(factors.values())) == 1:
+            line.written = number
+        return self.put(line)
 
-    def brought(self, row):
-        """A row over x as one over t, not divided."""
-        factors, bound = row
-        along = self.lattice.along(factors)
-        return {at: part for at, part in enumerate(along) if part != 0}, bound - dot(factors, self.lattice.start)
+    def put(self, line):
+        self.lines.append(line)
+        return len(self.lines) - 1
 
-    def enter_low(self, place):
-        """The number of the row by which the leading sum of a column has its least value by the ranges alone."""
-        leading = self.lattice.leading[place]
-        if leading > 0:
-            return self.entered[self.first_low + 2 * (leading - 1)]
-        made = {}
-        bound = 0
-        for at in self.toward:
-            side = 0 if self.toward[at] > 0 else 1
-            made[self.first_low + 2 * at + side] = abs(self.toward[at])
-            bound -= self.toward[at] * self.ranges[at][side]
-        row, bound = self.brought(({at: -self.toward[at] for at in self.toward}, bound))
-        return self.put_behind(None, divided_row(row, bound), made)
+    def lowest(self, place):
+        """The line by which the leading sum of a column has its least value by the ranges alone."""
+        factors = self.sums[self.lattice.leading[place]]
+        multipliers = {self.ledger.range_row(at, 0 if factors[at] > 0 else 1): abs(factors[at]) for at in factors}
+        if list(multipliers.values()) == [1]:
+            return self.bring(list(multipliers)[0])
+        return self.bring(self.ledger.sum_up(multipliers))
 
-    def enter_sum(self, multipliers):
-        """The number of the sum of rows over t, each times its multiplier, divided by its common divisor."""
+    def sum_up(self, multipliers):
+        """The line that lines come to, each times its multiplier."""
         factors = {}
         bound = 0
         for number in multipliers:
-            row, own = self.over_t[number]
+            row, own = self.lines[number].row
             add_multiples(factors, row, multipliers[number])
             bound += multipliers[number] * own
-        factors = {at: factors[at] for at in factors if factors[at] != 0}
-        return self.put_behind(None, divided_row(factors, bound), multipliers)
+        return self.put(Line(divided_row((without_zeros(factors), bound)), None, multipliers))
 
+    def write(self, number):
+        """The number in the ledger of the row over x that is just this line."""
+        for at in self.unwritten([number]):
+            line = self.lines[at]
+            multipliers = {line.source: 1} if line.source is not None else self.rows_of(line.multipliers)
+            line.written = self.ledger.sum_up(self.over_x(multipliers))
+        return self.lines[number].written
 
-def all_rows(ranges, rows):
-    """The rows of a system and those of its ranges, factors as dicts without 0s."""
-    found = [({at: factor for at, factor in enumerate(factors) if factor != 0}, bound) for factors, bound in rows]
-    for at, (low, high) in enumerate(ranges):
-        found.append(({at: -1}, -low))
-        found.append(({at: 1}, high))
-    return found
+    def unwritten(self, numbers):
+        """The lines that are yet to be written for these ones to be, ascending."""
+        found = {}
+        waiting = list(numbers)
+        while waiting:
+            at = waiting.pop()
+            if at not in found and self.lines[at].written is None:
+                found[at] = True
+                waiting.extend(list(self.lines[at].multipliers))
+        return sorted(found)
 
+    def rows_of(self, multipliers):
+        """Multipliers of lines as those of the rows that are just these lines."""
+        found = {}
+        for at in multipliers:
+            add_multiples(found, {self.write(at): 1}, multipliers[at])
+        return found
 
-def divided_row(factors, bound):
-    """A row with factors other than 0 divided by their common divisor, the bound rounded down."""
-    common = common_divisor(list(factors.values()))
-    return {at: factors[at] // common for at in factors}, bound // common
+    def refuted_by(self, multipliers):
+        """Lines whose sum lets nothing as rows of the ledger whose sum does."""
+        return self.over_x(self.rows_of(multipliers))
+
+    def over_x(self, multipliers):
+        """Multipliers of rows whose sum over x is one over t, but for what the common divisor divides."""
+        factors = self.ledger.summed(multipliers)[0]
+        common = common_divisor(self.lattice.along(factors))
+        over = [(dot(factors, hold.column), hold) for hold in self.lattice.holds]
+        over = [(times % common if common > 0 else times, hold) for times, hold in over]
+        over = [(times, hold) for times, hold in over if times != 0]
+        whole = common_multiple([hold.whole for _, hold in over])
+        amounts = {}
+        for times, hold in over:
+            add_multiples(amounts, hold.multiples, -times * (whole // hold.whole))
+        found = {number: multipliers[number] * whole for number in multipliers}
+        for equality in amounts:
+            number = self.equalities[equality][0 if amounts[equality] > 0 else 1]
+            add_multiples(found, {number: 1}, abs(amounts[equality]))
+        common = common_divisor(list(found.values()))
+        return {number: found[number] // common for number in found if found[number] != 0}

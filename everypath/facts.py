@@ -5,7 +5,7 @@ in which they are met, inner ones first. A LINE is a pair (constant, factors), f
 """
 
 from everypath.folds import sum_of
-from everypath.lattices import add_multiples
+from everypath.multiples import add_multiples
 from everypath.stripmath import alone, divided, multiple, reduce_strip, remaining, total
 
 UNKNOWN = 0

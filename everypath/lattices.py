@@ -5,6 +5,7 @@ tells the t of its column, but for a constant. What a column that is no more fre
 """
 
 from everypath.divisors import common_divisor, common_multiple
+from everypath.multiples import add_multiples, dot
 
 
 class Hold:
@@ -77,6 +78,7 @@ class Lattice:
 
         The leading sum of each column is the first one that grows with it; it does not with any column behind.
         """
+        self.leading = []
         for number, factors in enumerate(sums):
             done = len(self.leading)
             along = self.along(factors)
@@ -97,6 +99,10 @@ class Lattice:
             if times != 0:
                 self.lessen(place, done, times)
 
+    def reverse_columns(self):
+        self.columns = self.columns[::-1]
+        self.functionals = self.functionals[::-1]
+
     def exchange(self, one, other):
         for rows in (self.columns, self.functionals):
             rows[one], rows[other] = rows[other], rows[one]
@@ -105,27 +111,16 @@ class Lattice:
         """What the columns come to by these factors."""
         return [dot(factors, column) for column in self.columns]
 
-    def unknowns_at(self, numbers):
-        """The unknowns for these multiples of the columns."""
-        found = list(self.start)
+    def moved(self, numbers):
+        """By how much the unknowns for these multiples of the columns differ from the start."""
+        found = [0] * len(self.start)
         for number, column in zip(numbers, self.columns):
-            if number != 0:
-                found = [one + number * part for one, part in zip(found, column)]
+            found = [one + number * part for one, part in zip(found, column)]
         return found
 
-
-def dot(factors, column):
-    """The sum of factors, a dict, times the parts of a column."""
-    total = 0
-    for at in factors:
-        total += factors[at] * column[at]
-    return total
-
-
-def add_multiples(multiples, others, times):
-    """Adds so many times others to multiples, both dicts."""
-    for number in others:
-        multiples[number] = multiples.get(number, 0) + times * others[number]
+    def unknowns_at(self, numbers):
+        """The unknowns for these multiples of the columns."""
+        return [one + part for one, part in zip(self.start, self.moved(numbers))]
 
 
 def lowest(multiples, whole):

@@ -1,168 +1,105 @@
-"""Searches for the least integers that meet the rows of a board, going from corner to corner, by cuts and splits."""
+"""Searches from corner to corner by cuts, for the least t of a board that are met, as lists compare."""
 
 from everypath.corners import Corner
-
-
-class Node:
-    """A part of a search: its corner, the rows that stand, the cuts that do, the rows of splits, what came of it.
-
-    proof: multipliers of rows whose sum lets nothing; below: (unknown, bound, the two nodes of a split).
-    """
-
-    def __init__(self, corner, standing, cuts, splits):
-        self.corner = corner
-        self.standing = standing
-        self.cuts = cuts
-        self.splits = splits
-        self.cuts_made = 0
-        self.proof = None
-        self.below = None
+from everypath.multiples import add_multiples, without_zeros
 
 
 class Search:
-    """Goes a board with at most so many cuts a node; best is the least that it has found, as lists compare."""
+    """Goes on from the corner at which the leading sums of all columns have their least values by the ranges alone.
 
-    def __init__(self, board, cuts):
+    found: the t that are met, refuted: multipliers of rows of the ledger whose sum lets nothing; None till it is done.
+    """
+
+    def __init__(self, board):
         self.board = board
-        self.cuts = cuts
-        self.best = None
-        self.changes = 0
-        self.root = Node(None, board.standing, [], [])
+        self.cuts = []
+        self.found = None
+        self.refuted = None
+        self.corner = None
         if board.hopeless is None:
-            self.root.corner = self.first_corner()
-            self.waiting = [self.root]
+            self.corner = first_corner(board)
+            self.settle()
         else:
-            self.root.proof = board.hopeless
-            self.waiting = []
+            self.refuted = board.over_x({board.hopeless: 1})
 
-    def is_done(self, changes):
-        """Goes on; False if so many changes of corners did not suffice."""
-        self.changes = changes
-        while self.waiting:
-            node = self.waiting.pop()
-            if not self.is_gone(node):
-                self.waiting.append(node)
+    def is_done(self, cuts):
+        """Goes on with so many cuts at most; False if they did not suffice."""
+        while self.found is None and self.refuted is None:
+            broken = self.first_broken()
+            if broken is None:
+                self.found = [start // denominator for start, _, denominator in self.corner.unknowns]
+            elif cuts == 0:
                 return False
-            node.corner = None
+            else:
+                cuts -= 1
+                self.cut(broken)
         return True
 
-    def first_corner(self):
-        """The corner at which the leading sums of all columns have their least values by the ranges."""
-        many = len(self.board.lattice.columns)
-        corner = Corner([[0, {at: 1}, 1] for at in range(many)], [None for _ in range(many)])
-        for at in range(many):
-            number = self.board.enter_low(at)
-            excess, multiples, whole = corner.grown(self.board.over_t[number])
-            corner.put_in(number, at, excess, multiples, whole)
-        return corner
+    def settle(self):
+        """Goes on till all lines are met at the corner, or none can be."""
+        number = self.worst_line()
+        while number is not None:
+            self.take(number)
+            number = None if self.refuted is not None else self.worst_line()
 
-    def is_gone(self, node):
-        """Goes a node till it is met, hopeless, no better, or split; False if the changes did not suffice."""
-        while self.changes > 0:
-            self.changes -= 1
-            if not self.is_settled(node):
-                continue
-            if node.proof is not None or self.is_no_better(node.corner):
-                return True
-            broken = first_broken(node.corner)
-            if broken is None:
-                self.best = [start // denominator for start, _, denominator in node.corner.unknowns]
-                return True
-            if node.cuts_made == self.cuts:
-                self.part(node)
-                return True
-            self.cut(node, broken)
-        return False
-
-    def lowest_first(self):
-        """The least integer that the first of the t may be by the rows alone, before any is cut or split."""
-        while not self.is_settled(self.root):
-            pass
-        start, _, denominator = self.root.corner.unknowns[0]
-        return -(-start // denominator)
-
-    def is_settled(self, node):
-        """Whether all rows are met at the corner, or none can be; else it takes one of those not met."""
-        corner = node.corner
-        number = self.worst_row(node)
-        if number is None:
-            return True
-        excess, multiples, whole = corner.grown(self.board.over_t[number])
-        slot = corner.slot_to_leave(multiples)
+    def take(self, number):
+        """Goes on to the corner at which this line, which is not met, is met; or finds that none can be."""
+        excess, multiples, whole = self.corner.grown(self.board.lines[number].row)
+        slot = self.corner.slot_to_leave(multiples)
         if slot is None:
-            node.proof = corner.by_rows(multiples)
-            node.proof[number] = node.proof.get(number, 0) + whole
-            return True
-        corner.put_in(number, slot, excess, multiples, whole)
-        return False
+            proof = self.corner.by_rows(multiples)
+            add_multiples(proof, {number: 1}, whole)
+            self.refuted = self.board.refuted_by(proof)
+        else:
+            self.corner.put_in(number, slot, excess, multiples, whole)
 
-    def worst_row(self, node):
-        """The number of the standing row that is exceeded most, None if all are met."""
-        starts, whole = node.corner.at_one_denominator()
-        over_t = self.board.over_t
+    def worst_line(self):
+        """The number of the line that is exceeded most, None if all are met."""
+        starts, whole = self.corner.at_one_denominator()
         worst = None
         most = 0
-        for number in [*node.standing, *node.cuts]:
-            factors, bound = over_t[number]
-            excess = -bound * whole
-            for at in factors:
-                excess += factors[at] * starts[at]
+        for number in [*self.board.standing, *self.cuts]:
+            excess = self.board.lines[number].excess(starts, whole)
             if excess > most:
                 worst, most = number, excess
         return worst
 
-    def is_no_better(self, corner):
-        """Whether nothing beyond the corner is better than the best that was found."""
-        if self.best is None:
-            return False
-        for (start, _, denominator), found in zip(corner.unknowns, self.best):
-            if start != found * denominator:
-                return start > found * denominator
-        return True
+    def first_broken(self):
+        """The first of the t whose value is no integer, None if all are."""
+        for at, (start, _, denominator) in enumerate(self.corner.unknowns):
+            if start % denominator != 0:
+                return at
+        return None
 
-    def cut(self, node, broken):
-        """Puts a row behind that what is left over of integers in the multiples of an unknown makes."""
-        slots = node.corner.slots
-        _, multiples, whole = node.corner.unknowns[broken]
-        made = node.corner.by_rows({slot: multiples[slot] % whole for slot in multiples})
-        node.cuts = [number for number in node.cuts if number in slots]
-        node.cuts.append(self.board.enter_sum({number: made[number] for number in made if made[number] != 0}))
-        node.cuts_made += 1
+    def cut(self, broken):
+        """Cuts by what is left over of integers in the multiples of one of the t."""
+        _, multiples, whole = self.corner.unknowns[broken]
+        made = self.corner.by_rows({slot: multiples[slot] % whole for slot in multiples})
+        self.put_in(self.board.sum_up(without_zeros(made)))
 
-    def part(self, node):
-        """Parts a node by the unknown that is farthest from integers; the nearer side is gone first."""
-        at, start, whole = self.farthest(node.corner)
-        bound = start // whole
-        below = []
-        for factor, limit in ((1, bound), (-1, -bound - 1)):
-            number = self.board.put_behind(({at: factor}, limit), None, None)
-            standing = [*node.standing, self.board.enter(number)]
-            below.append(Node(node.corner.copied(), standing, node.cuts, [*node.splits, number]))
-        node.below = (at, bound, below)
-        if 2 * (start - bound * whole) > whole:
-            self.waiting.extend(below)
-        else:
-            self.waiting.extend([below[1], below[0]])
+    def put_in(self, number):
+        """Goes on with one more line, which is not met at the corner; cuts that the corner is not on are dropped."""
+        self.cuts = [cut for cut in self.cuts if cut in self.corner.slots]
+        self.cuts.append(number)
+        self.take(number)
+        if self.refuted is None:
+            self.settle()
 
-    def farthest(self, corner):
-        """The unknown whose value is farthest from integers: (its number, numerator, denominator)."""
-        starts, whole = corner.at_one_denominator()
-        lattice = self.board.lattice
-        found = None
-        most = 0
-        for at, start in enumerate(lattice.start):
-            worth = start * whole
-            for column, part in zip(lattice.columns, starts):
-                worth += column[at] * part
-            apart = min(worth % whole, -worth % whole)
-            if apart > most:
-                found, most = (at, worth, whole), apart
-        return found
+    def lowest_line(self):
+        """The line by which the first of the t is at least what it is at the corner."""
+        return self.board.sum_up(self.corner.by_rows(self.corner.unknowns[0][1]))
+
+    def lowest_first(self):
+        """The least integer that the first of the t may be by the corner."""
+        start, _, denominator = self.corner.unknowns[0]
+        return -(-start // denominator)
 
 
-def first_broken(corner):
-    """The first of the t whose value is no integer, None if all are."""
-    for at, (start, _, denominator) in enumerate(corner.unknowns):
-        if start % denominator != 0:
-            return at
-    return None
+def first_corner(board):
+    many = len(board.lattice.columns)
+    corner = Corner([[0, {at: 1}, 1] for at in range(many)], [None for _ in range(many)])
+    for at in range(many):
+        number = board.lowest(at)
+        excess, multiples, whole = corner.grown(board.lines[number].row)
+        corner.put_in(number, at, excess, multiples, whole)
+    return corner

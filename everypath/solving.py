@@ -1,67 +1,112 @@
-"""The least integers that meet a system, or a refutation: by searches of several kinds, gone on with in turns."""
+"""The least integers that meet a system, or a refutation."""
 
 from everypath.boards import Board
-from everypath.proofs import Writer
+from everypath.ledgers import Ledger
+from everypath.multiples import without_zeros
 from everypath.searches import Search
+from everypath.slices import some_values
 
-# how many cuts a node may have, and how many changes of corners a turn: cuts alone; splits alone where those take long
-KINDS = ((1000000000, 600), (0, 200))
+# how many cuts are tried ahead of slices
+CUTS = 60
 
 
 def least_values(ranges, rows):
     """("values", values) of the least ones that meet the system, or ("none", refutation)."""
-    board = Board(ranges, rows, {})
-    search = finished_search(board)
-    if search.best is None:
-        return "none", Writer(board).items_below(search.root)
-    return "values", board.lattice.unknowns_at(search.best)
+    search = search_toward(ranges, rows, [])
+    if search.is_done(CUTS):
+        return told(search)
+    kind, found = sliced_values(ranges, rows)
+    if kind == "none":
+        return kind, found
+    at = first_free(ranges)
+    n = lowest_sum(ranges, rows, unit(len(ranges), at), found)
+    return least_values([*ranges[:at], (n, n), *ranges[at + 1:]], rows)
 
 
-def finished_search(board):
-    """The first search that is done, each of a kind being gone on with in its turn."""
-    searches = []
-    while True:
-        for at, (cuts, changes) in enumerate(KINDS):
-            if at == len(searches):
-                searches.append(Search(board, cuts))
-            if searches[at].is_done(changes):
-                return searches[at]
+def any_values(ranges, rows):
+    """("values", values) of some that meet the system, or ("none", refutation)."""
+    search = search_toward(ranges, rows, [])
+    if search.is_done(CUTS):
+        return told(search)
+    return sliced_values(ranges, rows)
+
+
+def sliced_values(ranges, rows):
+    ledger = Ledger(ranges, rows)
+    kind, found = some_values(ledger, list(range(ledger.many)))
+    if kind == "values":
+        return kind, found
+    return kind, refutation_by(ledger, found)
+
+
+def search_toward(ranges, rows, factors):
+    """A search for what is least by these factors, then as lists compare."""
+    ledger = Ledger(ranges, rows)
+    board = Board(ledger, list(range(ledger.many)))
+    board.stand([without_zeros(dict(list(enumerate(factors)))), *[{at: 1} for at in range(len(ranges))]])
+    return Search(board)
+
+
+def told(search):
+    """What a search tells that is done."""
+    if search.refuted is None:
+        return "values", search.board.lattice.unknowns_at(search.found)
+    return "none", refutation_by(search.board.ledger, search.refuted)
+
+
+def refutation_by(ledger, multipliers):
+    return [("sums", ledger.lists(multipliers))]
+
+
+def first_free(ranges):
+    """The first unknown that may have more than one value."""
+    return [at for at, (low, high) in enumerate(ranges) if low < high][0]
+
+
+def unit(many, at):
+    return [1 if to == at else 0 for to in range(many)]
 
 
 def least_sum(ranges, rows, factors):
     """("least", n, values, refutation) for the least sum, or ("none", refutation)."""
-    kind, found = least_values(ranges, rows)
+    kind, found = any_values(ranges, rows)
     if kind == "none":
         return kind, found
-    tried = {}
+    n = lowest_sum(ranges, rows, factors, found)
+    values = least_values(ranges, [*rows, (factors, n)])[1]
+    return "least", n, values, any_values(ranges, [*rows, (factors, n - 1)])[1]
+
+
+def lowest_sum(ranges, rows, factors, found):
+    """The least sum of all values that meet the system, found being some of them."""
     n = sum_at(factors, found)
-    start, apart, low = sums_from(ranges, rows, factors)
+    search = search_toward(ranges, rows, factors)
+    start, apart = sums_of(search.board.lattice, factors)
+    if apart == 0:
+        return n
+    if search.is_done(CUTS):
+        return start + apart * search.found[0]
+    low = search.lowest_first()
     reach = 0
     # sums that can be have the distance apart; the first ones are tried first, since the least is seldom far from them
     while start + apart * low < n:
         middle = low + min(reach, ((n - start) // apart - 1 - low) // 2)
-        bound = start + apart * middle
-        tried[bound] = least_values(ranges, [*rows, (factors, bound)])
-        if tried[bound][0] == "values":
-            n = sum_at(factors, tried[bound][1])
+        kind, values = any_values(ranges, [*rows, (factors, start + apart * middle)])
+        if kind == "values":
+            n = sum_at(factors, values)
         else:
             low = middle + 1
             reach = 2 * reach + 1
-    for bound in (n, n - 1):
-        if bound not in tried:
-            tried[bound] = least_values(ranges, [*rows, (factors, bound)])
-    return "least", n, tried[n][1], tried[n - 1][1]
+    return n
 
 
 def sum_at(factors, values):
     return sum([factor * worth for factor, worth in zip(factors, values)])
 
 
-def sums_from(ranges, rows, factors):
-    """What sums there can be by the rows alone: start + apart * t, the last being the least t."""
-    board = Board(ranges, rows, {at: factor for at, factor in enumerate(factors) if factor != 0})
-    lattice = board.lattice
+def sums_of(lattice, factors):
+    """What sums there may be: (start, apart), start and any integer times apart more; apart 0 for start alone."""
     start = sum_at(factors, lattice.start)
     if not lattice.leading or lattice.leading[0] != 0:
-        return start, 1, 0
-    return start, sum_at(factors, lattice.columns[0]), Search(board, 0).lowest_first()
+        return start, 0
+    return start, sum_at(factors, lattice.columns[0])

@@ -1,0 +1,19 @@
+"""Dicts from numbers to how often each of them is taken."""
+
+
+def add_multiples(multiples, others, times):
+    """Adds so many times others to multiples, both dicts."""
+    for at in others:
+        multiples[at] = multiples.get(at, 0) + times * others[at]
+
+
+def without_zeros(multiples):
+    return {at: multiples[at] for at in multiples if multiples[at] != 0}
+
+
+def dot(factors, column):
+    """The sum of factors, a dict, times the parts of a list."""
+    total = 0
+    for at in factors:
+        total += factors[at] * column[at]
+    return total
