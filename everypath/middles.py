@@ -1,11 +1,11 @@
 """The middle of what some lines let, and a measure of lengths by how far they leave room around it."""
 
 # numerators of middles are over this, times how many corners there are
-SCALE = 2 ** 64
+SCALE = 1000000000000000000
 # a line leaves room for one by this at least
 LEAST_ROOM = 1000
 # how fine weights of lines are, the least one being the square of this
-FINE = 2 ** 20
+FINE = 1000000
 
 
 def corners_around(board, corner):

@@ -8,21 +8,21 @@ and itself. Of each column what is upright on all columns ahead counts.
 class Reduction:
     """The columns of a lattice while they are made short.
 
-    grown[at + 1] is the determinant of the measure of the columns up to at, grown[0] 1; leans[at][to] over
-    grown[to + 1] is how often what is upright of column to is in column at.
+    sizes[at + 1] is the determinant of the measure of the columns up to at, sizes[0] 1; leans[at][to] over
+    sizes[to + 1] is how often what is upright of column to is in column at.
     """
 
     def __init__(self, lattice, measure):
         self.lattice = lattice
-        self.grown = [1]
+        self.sizes = [1]
         self.leans = [[0 for _ in measure] for _ in measure]
         for at in range(len(measure)):
             for to in range(at + 1):
                 worth = measure[at][to]
                 for by in range(to):
-                    worth = (self.grown[by + 1] * worth - self.leans[at][by] * self.leans[to][by]) // self.grown[by]
+                    worth = (self.sizes[by + 1] * worth - self.leans[at][by] * self.leans[to][by]) // self.sizes[by]
                 self.leans[at][to] = worth
-            self.grown.append(self.leans[at][at])
+            self.sizes.append(self.leans[at][at])
 
     def shorten(self):
         """Makes the columns short."""
@@ -39,17 +39,17 @@ class Reduction:
 
     def straighten(self, at, to):
         """Takes column to from column at as often as it is in it, rounded."""
-        times = nearest(self.leans[at][to], self.grown[to + 1])
+        times = nearest(self.leans[at][to], self.sizes[to + 1])
         if times != 0:
             self.lattice.lessen(at, to, times)
-            self.leans[at][to] -= times * self.grown[to + 1]
+            self.leans[at][to] -= times * self.sizes[to + 1]
             for by in range(to):
                 self.leans[at][by] -= times * self.leans[to][by]
 
     def is_exchange_due(self, at):
         """Whether a column is much shorter than the one ahead, as far as both are upright."""
         lean = self.leans[at][at - 1]
-        return 4 * self.grown[at + 1] * self.grown[at - 1] < 3 * self.grown[at] * self.grown[at] - 4 * lean * lean
+        return 4 * self.sizes[at + 1] * self.sizes[at - 1] < 3 * self.sizes[at] * self.sizes[at] - 4 * lean * lean
 
     def exchange(self, at):
         """Exchanges a column with the one ahead."""
@@ -58,12 +58,12 @@ class Reduction:
         for by in range(at - 1):
             one[by], other[by] = other[by], one[by]
         lean = one[at - 1]
-        fresh = (self.grown[at - 1] * self.grown[at + 1] + lean * lean) // self.grown[at]
+        fresh = (self.sizes[at - 1] * self.sizes[at + 1] + lean * lean) // self.sizes[at]
         for behind in self.leans[at + 1:]:
             old = behind[at]
-            behind[at] = (self.grown[at + 1] * behind[at - 1] - lean * old) // self.grown[at]
-            behind[at - 1] = (fresh * old + lean * behind[at]) // self.grown[at + 1]
-        self.grown[at] = fresh
+            behind[at] = (self.sizes[at + 1] * behind[at - 1] - lean * old) // self.sizes[at]
+            behind[at - 1] = (fresh * old + lean * behind[at]) // self.sizes[at + 1]
+        self.sizes[at] = fresh
         other[at - 1] = fresh
 
     def nearest_to(self, point, scale):
@@ -74,7 +74,7 @@ class Reduction:
             over = left[at] - times * scale
             left[at] = times
             for to in range(at):
-                left[to] += over * self.leans[at][to] // self.grown[to + 1]
+                left[to] += over * self.leans[at][to] // self.sizes[to + 1]
         return left
 
 

@@ -8,11 +8,11 @@ from everypath.reductions import Reduction
 from everypath.searches import Search
 
 # how many cuts are tried ahead of each slice
-CUTS = 20
+CUTS = 100
 
 
 def some_values(ledger, numbers):
-    """("values", values) of some that meet these rows of a ledger, or ("none", multipliers of rows that let nothing)."""
+    """("values", values) of some that meet these rows, or ("none", multipliers of rows whose sum lets nothing)."""
     board = Board(ledger, numbers)
     board.stand(functionals_of(board))
     search = Search(board)

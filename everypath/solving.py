@@ -91,7 +91,7 @@ def lowest_sum(ranges, rows, factors, found):
     # sums that can be have the distance apart; the first ones are tried first, since the least is seldom far from them
     while start + apart * low < n:
         middle = low + min(reach, ((n - start) // apart - 1 - low) // 2)
-        kind, values = any_values(ranges, [*rows, (factors, start + apart * middle)])
+        kind, values = sliced_values(ranges, [*rows, (factors, start + apart * middle)])
         if kind == "values":
             n = sum_at(factors, values)
         else:
