@@ -26,7 +26,8 @@ class Denial:
         missing = [fact for fact in part.refutation.used if fact not in facts]
         if missing:
             return self.write_all(part, taken, self.owner(part, taken, missing[0]))
-        return ("rows", lifted(self.table, part.refutation.items, part.refutation.facts, facts))
+        lists = lifted(self.table, part.refutation.lists, part.refutation.facts, facts)
+        return ("rows", [("sums", lists)])
 
     def write_all(self, part, taken, index):
         """The refutation by all alternatives of a condition."""

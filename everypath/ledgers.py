@@ -55,7 +55,7 @@ class Ledger:
                 waiting.extend(list(self.made[number]))
         return sorted(found)
 
-    def lists(self, multipliers):
+    def listed_sums(self, multipliers):
         """The lists of multipliers, as refutations have them, of a sum of rows none of which is let for a while."""
         needed = self.needed(multipliers)
         places = {number: self.many + at for at, number in enumerate(needed)}

@@ -1,4 +1,4 @@
-"""Refutations of the system of some facts made into refutations of the system of more facts."""
+"""Refutations of the system of some facts, lists of multipliers, made into those of the system of more facts."""
 
 
 class Places:
@@ -23,20 +23,15 @@ class Places:
         return found
 
 
-def used_facts(table, facts, items):
-    """Facts the system of which has all that these items, which refute that of facts, make use of."""
-    places = Places(table, facts)
+def used_facts(table, facts, lists):
+    """Facts the system of which has all that these lists, which refute that of facts, make use of."""
     found = {}
     columns = {}
-    for item in items:
-        if item[0] == "split":
-            columns[places.columns[item[1]]] = True
+    for row in rows_used(Places(table, facts).rows, lists):
+        if row[0] == "fact":
+            found[row[1]] = True
         else:
-            for row in rows_used(places.rows, item[1]):
-                if row[0] == "fact":
-                    found[row[1]] = True
-                else:
-                    columns[row[1]] = True
+            columns[row[1]] = True
     met = {column: True for column in table.met_by(list(found))}
     for column in columns:
         if column >= table.many and column not in met:
@@ -56,17 +51,12 @@ def rows_used(rows, lists):
     return list(found)
 
 
-def lifted(table, items, facts, more):
-    """Items that refute the system of facts, as those that refute the system of more, which has all that they use."""
-    small, great = Places(table, facts), Places(table, more)
-    return [lifted_item(item, small, great) for item in items]
-
-
-def lifted_item(item, small, great):
-    if item[0] == "split":
-        return ("split", great.columns.index(small.columns[item[1]]), item[2])
+def lifted(table, lists, facts, more):
+    """Lists that refute the system of facts, as those that refute the system of more, which has all that they use."""
+    rows = Places(table, facts).rows
+    great = Places(table, more)
     places = great.first_places()
-    return ("sums", [lifted_list(multipliers, small.rows, places, len(great.rows)) for multipliers in item[1]])
+    return [lifted_list(multipliers, rows, places, len(great.rows)) for multipliers in lists]
 
 
 def lifted_list(multipliers, rows, places, many):

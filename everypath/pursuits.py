@@ -11,7 +11,7 @@ from everypath.solving import least_values
 class Part:
     """What is left of the conditions by what is chosen: the facts that must hold then, in their order.
 
-    refutation: items for the system of the facts of some part; choice: (number, index of its condition), then
+    refutation: of the system of the facts of some part; choice: (number, index of its condition), then
     below has the parts for both sides of it.
     """
 
@@ -24,10 +24,10 @@ class Part:
 
 
 class Refuted:
-    """Items that refute the system of these facts, and those facts that they use."""
+    """Lists of multipliers that refute the system of these facts, and those facts that they use."""
 
-    def __init__(self, items, facts, used):
-        self.items = items
+    def __init__(self, lists, facts, used):
+        self.lists = lists
         self.facts = facts
         self.used = used
 

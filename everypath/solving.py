@@ -1,4 +1,4 @@
-"""The least integers that meet a system, or a refutation."""
+"""The least integers that meet a system, or lists of multipliers that refute it."""
 
 from everypath.boards import Board
 from everypath.ledgers import Ledger
@@ -11,7 +11,7 @@ CUTS = 60
 
 
 def least_values(ranges, rows):
-    """("values", values) of the least ones that meet the system, or ("none", refutation)."""
+    """("values", values) of the least ones that meet the system, or ("none", lists)."""
     search = search_toward(ranges, rows, [])
     if search.is_done(CUTS):
         return told(search)
@@ -24,7 +24,7 @@ def least_values(ranges, rows):
 
 
 def any_values(ranges, rows):
-    """("values", values) of some that meet the system, or ("none", refutation)."""
+    """("values", values) of some that meet the system, or ("none", lists)."""
     search = search_toward(ranges, rows, [])
     if search.is_done(CUTS):
         return told(search)
@@ -34,9 +34,7 @@ def any_values(ranges, rows):
 def sliced_values(ranges, rows):
     ledger = Ledger(ranges, rows)
     kind, found = some_values(ledger, list(range(ledger.many)))
-    if kind == "values":
-        return kind, found
-    return kind, refutation_by(ledger, found)
+    return kind, found if kind == "values" else ledger.listed_sums(found)
 
 
 def search_toward(ranges, rows, factors):
@@ -51,11 +49,7 @@ def told(search):
     """What a search tells that is done."""
     if search.refuted is None:
         return "values", search.board.lattice.unknowns_at(search.found)
-    return "none", refutation_by(search.board.ledger, search.refuted)
-
-
-def refutation_by(ledger, multipliers):
-    return [("sums", ledger.lists(multipliers))]
+    return "none", search.board.ledger.listed_sums(search.refuted)
 
 
 def first_free(ranges):
@@ -68,7 +62,7 @@ def unit(many, at):
 
 
 def least_sum(ranges, rows, factors):
-    """("least", n, values, refutation) for the least sum, or ("none", refutation)."""
+    """("least", n, values, lists) for the least sum, or ("none", lists)."""
     kind, found = any_values(ranges, rows)
     if kind == "none":
         return kind, found
