@@ -156,6 +156,18 @@ class DecidedTest(unittest.TestCase):
         self.assertEqual(decided([wide], conditions), ("met", [2 ** 20]))
         self.never([wide], [*conditions, lt(U, num(2 ** 20))])
 
+    def test_remainders_of_remainders(self):
+        """A sum that is taken thrice, each time of the remainder that it left: some inputs of millions, or none."""
+        steps = [U]
+        for _ in range(3):
+            steps.append(mod(add(times(1103, steps[-1]), num(12345)), 65536))
+        few = [lt(steps[3], num(100)), lt(steps[2], num(1000))]
+        kind, inputs = decided([(0, 4 * 10 ** 6)], few)
+        self.assertEqual(kind, "met")
+        expected = next(n for n in range(4 * 10 ** 6) if all(holds(condition, {"u0": n}) for condition in few))
+        self.assertEqual(inputs, [expected])
+        self.never([(0, expected - 1)], few)
+
     def test_many_choices(self):
         names = [name(f"u{at}") for at in range(5)]
         unlike = [ne(one, other) for one, other in itertools.combinations(names, 2)]

@@ -3,7 +3,9 @@
 import itertools
 import random
 import unittest
+from unittest import mock
 
+from everypath import slices, solving
 from everypath.refusals import BadFactors, BadSystem
 from everypath.systems import greatest_of, is_met, is_none, least_of, solved
 from tests.helpers import any_objects, refused, shape, told
@@ -83,6 +85,47 @@ class SystemsTest(unittest.TestCase):
                 self.assertEqual(shape(found[:3]), shape((word, sign * n, values)))
                 row = ([sign * factor for factor in factors], n - 1)
                 self.assertIs(is_none((ranges, [*rows, row]), found[3]), True)
+
+    def test_slices_alone(self):
+        """Where no cuts are let, all is found by slices."""
+        source = random.Random(5)
+        none = 0
+        for _ in range(150):
+            system = random_system(source)
+            all_values = values_of(system)
+            factors = [source.randrange(-6, 7) for _ in system[0]]
+            with mock.patch.object(solving, "CUTS", 0), mock.patch.object(slices, "CUTS", source.randrange(3)):
+                found = solved(system)
+                least = least_of(system, factors)
+            if all_values:
+                self.assertEqual(found, ("values", all_values[0]))
+                n = least[1]
+                self.assertEqual(n, min(sum(f * x for f, x in zip(factors, values)) for values in all_values))
+                self.assertIs(is_none((system[0], [*system[1], (factors, n - 1)]), least[3]), True)
+            else:
+                none += 1
+                self.assertIs(is_none(system, found[1]), True)
+        self.assertTrue(40 < none < 120)
+
+    def test_thin_bands(self):
+        """Eight unknowns, five sums of which have two values each: cuts alone would take very long."""
+        source = random.Random(6)
+        wide = 10 ** 9
+        for _ in range(2):
+            rows = []
+            for _ in range(5):
+                factors = [source.randrange(-100, 101) for _ in range(8)]
+                low = sum(f * source.randrange(-wide, wide) for f in factors) // 10
+                rows += [(factors, low + 1), ([-factor for factor in factors], -low)]
+            system = ([(-wide, wide)] * 8, rows)
+            kind, values = solved(system)
+            self.assertEqual(kind, "values")
+            self.assertTrue(is_met(system, values))
+            factors = [source.randrange(-100, 101) for _ in range(8)]
+            kind, n, least, refutation = least_of(system, factors)
+            self.assertEqual((kind, n), ("least", sum(f * x for f, x in zip(factors, least))))
+            self.assertTrue(is_met(system, least) and values <= least)
+            self.assertIs(is_none((system[0], [*rows, (factors, n - 1)]), refutation), True)
 
     def test_edges(self):
         self.assertEqual(told(self, solved, system=([], [])), ("values", []))
