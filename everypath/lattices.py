@@ -9,11 +9,10 @@ from everypath.multiples import add_multiples, dot
 
 
 class Hold:
-    """A column that an equality holds, and its functional: the sum of equalities times multiples, over whole."""
+    """A column that an equality holds; what undid it is the sum of equalities times multiples, over whole."""
 
-    def __init__(self, column, functional, multiples, whole):
+    def __init__(self, column, multiples, whole):
         self.column = column
-        self.functional = functional
         self.multiples = multiples
         self.whole = whole
 
@@ -36,10 +35,11 @@ class Lattice:
         at = self.gather(along, list(range(len(along))))
         if along[at] < 0:
             self.turn(at)
-        column, functional = self.columns.pop(at), self.functionals.pop(at)
+        column = self.columns.pop(at)
+        del self.functionals[at]
         self.start = [one + left // common * part for one, part in zip(self.start, column)]
         multiples, whole = self.multiples_of(number, factors, common)
-        self.holds.append(Hold(column, functional, multiples, whole))
+        self.holds.append(Hold(column, multiples, whole))
 
     def gather(self, along, places):
         """Changes the columns until along, what they come to, is other than 0 at one of the places; tells it."""
