@@ -83,9 +83,9 @@ class Board:
         line = Line(divided_row((factors, bound)), number, {})
         if common_divisor(list(factors.values())) == 1:
             line.written = number
-        return self.put(line)
+        return self.put_line(line)
 
-    def put(self, line):
+    def put_line(self, line):
         self.lines.append(line)
         return len(self.lines) - 1
 
@@ -105,7 +105,7 @@ class Board:
             row, own = self.lines[number].row
             add_multiples(factors, row, multipliers[number])
             bound += multipliers[number] * own
-        return self.put(Line(divided_row((without_zeros(factors), bound)), None, multipliers))
+        return self.put_line(Line(divided_row((without_zeros(factors), bound)), None, multipliers))
 
     def write(self, number):
         """The number in the ledger of the row over x that is just this line."""

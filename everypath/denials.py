@@ -13,26 +13,26 @@ class Denial:
         self.root = pursuit.root
 
     def told_refutation(self):
-        return self.write(self.root, {})
+        return self.deny(self.root, {})
 
-    def write(self, part, taken):
+    def deny(self, part, taken):
         """The refutation of the conditions, with what is taken, that lie within a part."""
         while part.refutation is None:
             number, index = part.choice
             if index not in taken:
-                return self.write_all(part, taken, index)
+                return self.deny_all(part, taken, index)
             part = part.below[taken[index][1][number]]
         facts = facts_left(self.trees, {index: taken[index][0] for index in taken})
         missing = [fact for fact in part.refutation.used if fact not in facts]
         if missing:
-            return self.write_all(part, taken, self.owner(part, taken, missing[0]))
+            return self.deny_all(part, taken, self.owner(part, taken, missing[0]))
         lists = lifted(self.table, part.refutation.lists, part.refutation.facts, facts)
         return ("rows", [("sums", lists)])
 
-    def write_all(self, part, taken, index):
+    def deny_all(self, part, taken, index):
         """The refutation by all alternatives of a condition."""
         alternatives = alternatives_of(self.trees[index])
-        return ("or", index, [self.write(part, {**taken, index: alternative}) for alternative in alternatives])
+        return ("or", index, [self.deny(part, {**taken, index: alternative}) for alternative in alternatives])
 
     def owner(self, part, taken, fact):
         """The index of a condition not yet taken that has this fact whatever is chosen for it."""

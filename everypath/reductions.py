@@ -30,7 +30,7 @@ class Reduction:
         while at < len(self.leans):
             self.straighten(at, at - 1)
             if self.is_exchange_due(at):
-                self.exchange(at)
+                self.exchange_ahead(at)
                 at = max(1, at - 1)
             else:
                 for to in reversed(range(at - 1)):
@@ -51,7 +51,7 @@ class Reduction:
         lean = self.leans[at][at - 1]
         return 4 * self.sizes[at + 1] * self.sizes[at - 1] < 3 * self.sizes[at] * self.sizes[at] - 4 * lean * lean
 
-    def exchange(self, at):
+    def exchange_ahead(self, at):
         """Exchanges a column with the one ahead."""
         self.lattice.exchange(at, at - 1)
         one, other = self.leans[at], self.leans[at - 1]

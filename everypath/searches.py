@@ -75,9 +75,9 @@ class Search:
         """Cuts by what is left over of integers in the multiples of one of the t."""
         _, multiples, whole = self.corner.unknowns[broken]
         made = self.corner.by_rows({slot: multiples[slot] % whole for slot in multiples})
-        self.put_in(self.board.sum_up(without_zeros(made)))
+        self.put_behind(self.board.sum_up(without_zeros(made)))
 
-    def put_in(self, number):
+    def put_behind(self, number):
         """Goes on with one more line, which is not met at the corner; cuts that the corner is not on are dropped."""
         self.cuts = [cut for cut in self.cuts if cut in self.corner.slots]
         self.cuts.append(number)

@@ -25,7 +25,7 @@ def some_values(ledger, numbers):
         kind, found = without_slice(search, numbers)
         if kind != "row":
             return kind, found
-        search.put_in(board.bring(found))
+        search.put_behind(board.bring(found))
     if search.refuted is not None:
         return "none", search.refuted
     return "values", board.lattice.unknowns_at(search.found)
