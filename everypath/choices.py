@@ -10,11 +10,11 @@ from everypath.plainsums import plain_sum
 
 
 class Chooser:
-    """Makes trees of conditions over the unknowns of a table of facts."""
+    """Makes trees of conditions over the unknowns of a table of facts; choices tells how many it has numbered."""
 
-    def __init__(self, table):
+    def __init__(self, table, choices):
         self.table = table
-        self.choices = 0
+        self.choices = choices
 
     def tree_of(self, condition):
         word = condition[0]

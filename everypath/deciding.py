@@ -1,14 +1,14 @@
 """Conditions over unknowns in ranges: the least inputs that meet them, or refutations."""
 
-from everypath.choices import Chooser, alternatives_of, facts_left, has_choice, many_alternatives
-from everypath.denials import Denial
+from everypath.choices import alternatives_of, facts_left, has_choice, many_alternatives
 from everypath.facts import FactTable
+from everypath.grounds import Grounds, refutation_by
 from everypath.kinds import are_ranges, is_list, is_list_of, is_number, tupled
-from everypath.paths import unknown
 from everypath.plainsums import plain_expression
 from everypath.pursuits import Pursuit
 from everypath.refusals import BadConditions, BadFacts, BadRanges
 from everypath.rowjudge import is_refuted_by
+from everypath.trails import unknown
 from everypath.trees import is_condition_over, is_expression_over
 
 
@@ -26,20 +26,27 @@ def system_of(ranges, facts):
 def decided(ranges, conditions):
     check_ranges(ranges)
     check_conditions(ranges, conditions)
-    pursuit = Pursuit(ranges, tupled(conditions))
+    grounds = grounds_of(ranges, conditions)
+    pursuit = Pursuit(grounds.table, grounds.trees, list(range(len(grounds.trees))))
     numbers = pursuit.least()
     if numbers is None:
-        return "never", Denial(pursuit).told_refutation()
+        return "never", refutation_by(pursuit)
     return "met", numbers
 
 
 def is_refutation(ranges, conditions, thing):
     check_ranges(ranges)
     check_conditions(ranges, conditions)
-    table = FactTable(ranges)
-    chooser = Chooser(table)
-    trees = [chooser.tree_of(condition) for condition in tupled(conditions)]
-    return refutes(table, trees, {}, thing)
+    grounds = grounds_of(ranges, conditions)
+    return refutes(grounds.table, grounds.trees, {}, thing)
+
+
+def grounds_of(ranges, conditions):
+    """The grounds of these conditions."""
+    grounds = Grounds(ranges)
+    for condition in tupled(conditions):
+        grounds.add_condition(condition)
+    return grounds
 
 
 def refutes(table, trees, taken, thing):

@@ -9,7 +9,7 @@ class Places:
 
     def __init__(self, table, facts):
         quotients = table.met_by(facts)
-        self.columns = [*list(range(table.many)), *quotients]
+        self.columns = [*list(range(len(table.ranges))), *quotients]
         self.rows = [("fact", fact) for fact in facts]
         self.rows.extend([("quotient", column, side) for column in quotients for side in (0, 1)])
         self.rows.extend([("range", column, side) for column in self.columns for side in (0, 1)])
@@ -34,7 +34,7 @@ def used_facts(table, facts, lists):
             columns[row[1]] = True
     met = {column: True for column in table.met_by(list(found))}
     for column in columns:
-        if column >= table.many and column not in met:
+        if column < 0 and column not in met:
             fact = [fact for fact in facts if column in table.meets[fact]][0]
             found[fact] = True
             met.update({other: True for other in table.meets[fact]})

@@ -2,7 +2,7 @@
 
 from everypath.closing import close
 from everypath.cuts import are_cuts, is_row, row_of, with_sides
-from everypath.errors import BadCuts, BadSides
+from everypath.errors import BadCuts, BadPaper, BadSides
 from everypath.kinds import is_integer, is_list_of, is_text
 from everypath.programs import check_function, check_program
 from everypath.refusals import BadNumbers
@@ -35,6 +35,16 @@ def sides_of(cuts, numbers):
 
 def is_paper(program, thing):
     check_program(program)
+    return is_paper_of(program, thing)
+
+
+def check_paper(program, paper):
+    if not is_paper_of(program, paper):
+        raise BadPaper(paper)
+
+
+def is_paper_of(program, thing):
+    """Whether it is a paper of this right program."""
     if not is_list_of(thing, 4) or not all([is_by_function(program, part) for part in thing]):
         return False
     cuts, entries, exits, cells = thing

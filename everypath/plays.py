@@ -5,13 +5,12 @@ from everypath.walks import Walk
 
 
 class Play(Walk):
-    """A run of main: its sides, what it printed and when, how many inputs it took."""
+    """A run of main: its sides, how many inputs it took."""
 
     def __init__(self, program, inputs):
         self.inputs = inputs
         self.drawn = 0
         self.sides = []
-        self.printed = []
         Walk.__init__(self, program, "main")
 
     def first(self):
@@ -35,8 +34,8 @@ class Play(Walk):
         self.drawn += 1
         return self.inputs[self.drawn - 1]
 
-    def prints(self, worth):
-        self.printed.append((self.taken, worth))
+    def told_prints(self):
+        return [(moment, event[1]) for moment, event in zip(self.moments, self.events) if event[0] == "prints"]
 
     def told_state(self):
         """The state as it is told, all of it new."""

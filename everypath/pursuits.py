@@ -2,8 +2,7 @@
 
 from heapq import heappop, heappush
 
-from everypath.choices import Chooser, facts_chosen, open_choice
-from everypath.facts import FactTable
+from everypath.choices import facts_chosen, open_choice
 from everypath.lifting import used_facts
 from everypath.solving import least_values
 
@@ -33,12 +32,15 @@ class Refuted:
 
 
 class Pursuit:
-    """Goes the choices of conditions, those with the least integers first."""
+    """Goes the choices of conditions, those with the least integers first.
 
-    def __init__(self, ranges, conditions):
-        self.table = FactTable(ranges)
-        chooser = Chooser(self.table)
-        self.trees = [chooser.tree_of(condition) for condition in conditions]
+    trees: those of all conditions; active: the numbers of those that are to be met, or refuted.
+    """
+
+    def __init__(self, table, trees, active):
+        self.table = table
+        self.trees = trees
+        self.active = active
         self.refuted = []
         self.queue = []
         self.parts = 0
@@ -55,7 +57,7 @@ class Pursuit:
 
     def new_part(self, chosen):
         """The part for what is chosen, refuted, or put into the queue."""
-        facts = [fact for tree in self.trees for fact in facts_chosen(tree, chosen)]
+        facts = [fact for index in self.active for fact in facts_chosen(self.trees[index], chosen)]
         part = Part(chosen, facts)
         part.refutation = self.known(facts)
         if part.refutation is None:
@@ -78,12 +80,12 @@ class Pursuit:
             self.refuted.append(part.refutation)
         else:
             self.parts += 1
-            heappush(self.queue, (found[:self.table.many], self.parts, part))
+            heappush(self.queue, (found[:len(self.table.ranges)], self.parts, part))
 
     def chooses(self, part, worths):
         """Parts by a choice of a condition that does not hold for these worths; False if all hold."""
-        for index, tree in enumerate(self.trees):
-            number = open_choice(tree, part.chosen, self.table, worths)
+        for index in self.active:
+            number = open_choice(self.trees[index], part.chosen, self.table, worths)
             if number is not None:
                 part.choice = (number, index)
                 part.below = [self.new_part({**part.chosen, number: side}) for side in (0, 1)]

@@ -24,7 +24,7 @@ def printed(program, inputs, steps):
     check_program(program)
     check_inputs(inputs)
     check_steps(steps)
-    return played_for(program, inputs, steps).printed
+    return played_for(program, inputs, steps).told_prints()
 
 
 def breaking(program, assertion, inputs, steps):

@@ -4,7 +4,7 @@ from everypath.boards import Board
 from everypath.ledgers import Ledger
 from everypath.multiples import without_zeros
 from everypath.searches import Search
-from everypath.slices import some_values
+from everypath.thinslices import some_values
 
 # how many cuts are tried ahead of slices
 CUTS = 60

@@ -1,19 +1,24 @@
 """Walks: going along the edges of a program step by step, whatever its values are.
 
-What differs is left to classes beneath: worth(expression) of the running frame, first() for what names are at
-first, side_of(condition) for the side that is taken, and drawn_from(low, high) for an integer that is asked for;
-the last two tell None where there is none.
+What differs is left to classes beneath: worth(expression) of the running frame, told(worth) for how that is told,
+first() for what names are at first, side_of(condition) for the side that is taken, and drawn_from(low, high) for an
+integer that is asked for; the last two tell None where there is none.
 """
 
 
 class Walk:
-    """Frames [f, place, values], how many steps are taken, and why it stopped (None while it goes)."""
+    """Frames [f, place, values], how many steps are taken, and why it stopped (None while it goes).
+
+    events: ("asks", low, high) and ("prints", worth) that were met, in their order, moments: at which moments.
+    """
 
     def __init__(self, program, f):
         self.program = program
         self.frames = [self.frame(f)]
         self.taken = 0
         self.why = None
+        self.events = []
+        self.moments = []
 
     def frame(self, f):
         return [f, 0, {name: self.first() for name in self.program.names[f]}]
@@ -54,6 +59,7 @@ class Walk:
         if word == "set":
             values[action[1]] = self.worth(action[2])
         elif word == "any":
+            self.note(("asks", action[2], action[3]))
             worth = self.drawn_from(action[2], action[3])
             if worth is None:
                 self.why = ("asks", f, number)
@@ -66,8 +72,20 @@ class Walk:
         elif word in ("assert", "assume"):
             return self.tries(action, f, number)
         elif word == "print":
-            self.prints(self.worth(action[1]))
+            self.note(("prints", self.told(self.worth(action[1]))))
         return True
+
+    def note(self, event):
+        self.events.append(event)
+        self.moments.append(self.taken)
+
+    def all_events(self):
+        """The events with the one by which it stopped, if it did."""
+        if self.why[0] == "ends":
+            return [*self.events, self.why]
+        if self.why[0] in ("breaks", "barred"):
+            return [*self.events, (self.why[0],)]
+        return list(self.events)
 
     def call(self, action):
         frame = self.frame(action[2])

@@ -5,7 +5,7 @@ import random
 import unittest
 from unittest import mock
 
-from everypath import slices, solving
+from everypath import solving, thinslices
 from everypath.refusals import BadFactors, BadSystem
 from everypath.systems import greatest_of, is_met, is_none, least_of, solved
 from tests.helpers import any_objects, refused, shape, told
@@ -94,7 +94,7 @@ class SystemsTest(unittest.TestCase):
             system = random_system(source)
             all_values = values_of(system)
             factors = [source.randrange(-6, 7) for _ in system[0]]
-            with mock.patch.object(solving, "CUTS", 0), mock.patch.object(slices, "CUTS", source.randrange(3)):
+            with mock.patch.object(solving, "CUTS", 0), mock.patch.object(thinslices, "CUTS", source.randrange(3)):
                 found = solved(system)
                 least = least_of(system, factors)
             if all_values:

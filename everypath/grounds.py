@@ -1,0 +1,92 @@
+"""Conditions that come one behind another, over unknowns that do, and the least integers that meet them."""
+
+from everypath.choices import Chooser, is_true
+from everypath.denials import Denial
+from everypath.facts import FactTable
+from everypath.pursuits import Pursuit
+
+
+class Grounds:
+    """A table of facts over the unknowns, the tree of each condition, and which unknowns it reads.
+
+    inputs: the least integers that meet all conditions, as far as settle was called behind each.
+    """
+
+    def __init__(self, ranges):
+        self.table = FactTable(ranges)
+        self.trees = []
+        self.reads = []
+        self.choices = 0
+        self.inputs = [low for low, _ in self.table.ranges]
+
+    def copied(self):
+        grounds = Grounds([])
+        grounds.table = self.table.copied()
+        grounds.trees = list(self.trees)
+        grounds.reads = list(self.reads)
+        grounds.choices = self.choices
+        grounds.inputs = list(self.inputs)
+        return grounds
+
+    def add_unknown(self, low, high):
+        self.table.add_unknown(low, high)
+        self.inputs.append(low)
+
+    def add_condition(self, condition):
+        chooser = Chooser(self.table, self.choices)
+        tree = chooser.tree_of(condition)
+        self.choices = chooser.choices
+        self.trees.append(tree)
+        self.reads.append(self.table.unknowns_of(facts_in(tree)))
+
+    def holds_last(self):
+        """Whether inputs meet the last condition."""
+        return is_true(self.trees[-1], self.table, self.table.worths(self.inputs))
+
+    def settle(self):
+        """Makes inputs the least integers that meet the last condition, too; if there are none, tells what found none.
+
+        What does not hang together with the last condition stays as it is.
+        """
+        if self.holds_last():
+            return None
+        active = self.hanging_together(len(self.trees) - 1)
+        pursuit = Pursuit(self.table, self.trees, active)
+        numbers = pursuit.least()
+        if numbers is None:
+            return pursuit
+        for index in active:
+            for column in self.reads[index]:
+                self.inputs[column] = numbers[column]
+        return None
+
+    def hanging_together(self, index):
+        """The numbers of the conditions that share unknowns with this one, at once or by way of others, ascending."""
+        found = {index: True}
+        columns = {column: True for column in self.reads[index]}
+        many = 0
+        while many < len(found):
+            many = len(found)
+            for at, reads in enumerate(self.reads):
+                if at not in found and any([column in columns for column in reads]):
+                    found[at] = True
+                    columns.update({column: True for column in reads})
+        return sorted(found)
+
+
+def facts_in(tree):
+    """All facts of a tree."""
+    found = []
+    waiting = [tree]
+    while waiting:
+        part = waiting.pop()
+        if part[0] == "fact":
+            found.append(part[1])
+        else:
+            waiting.extend(part[-2:])
+    return found
+
+
+def refutation_by(pursuit):
+    """The refutation of all conditions that a pursuit which has found nothing comes to."""
+    return Denial(pursuit).told_refutation()
