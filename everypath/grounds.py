@@ -9,7 +9,7 @@ from everypath.pursuits import Pursuit
 class Grounds:
     """A table of facts over the unknowns, the tree of each condition, and which unknowns it reads.
 
-    inputs: the least integers that meet all conditions, as far as settle was called behind each.
+    inputs: the least integers that meet all conditions, if settle was called behind each that was put in.
     """
 
     def __init__(self, ranges):
@@ -33,24 +33,26 @@ class Grounds:
         self.inputs.append(low)
 
     def add_condition(self, condition):
+        """Puts a condition behind all others, and tells its index."""
+        return self.put_condition(condition, len(self.trees))
+
+    def put_condition(self, condition, index):
+        """Puts a condition at this index among the others, and tells it."""
         chooser = Chooser(self.table, self.choices)
         tree = chooser.tree_of(condition)
         self.choices = chooser.choices
-        self.trees.append(tree)
-        self.reads.append(self.table.unknowns_of(facts_in(tree)))
+        self.trees.insert(index, tree)
+        self.reads.insert(index, self.table.unknowns_of(facts_in(tree)))
+        return index
 
-    def holds_last(self):
-        """Whether inputs meet the last condition."""
-        return is_true(self.trees[-1], self.table, self.table.worths(self.inputs))
+    def settle(self, index):
+        """Makes inputs the least integers that meet this condition, too; if there are none, tells what found none.
 
-    def settle(self):
-        """Makes inputs the least integers that meet the last condition, too; if there are none, tells what found none.
-
-        What does not hang together with the last condition stays as it is.
+        What does not hang together with this condition stays as it is.
         """
-        if self.holds_last():
+        if is_true(self.trees[index], self.table, self.table.worths(self.inputs)):
             return None
-        active = self.hanging_together(len(self.trees) - 1)
+        active = self.hanging_together(index)
         pursuit = Pursuit(self.table, self.trees, active)
         numbers = pursuit.least()
         if numbers is None:

@@ -5,7 +5,8 @@ from everypath.evaluating import holds, value_of
 from everypath.graphs import assertions, is_assertion
 from everypath.kinds import is_integer, is_list
 from everypath.programs import check_program
-from everypath.refusals import BadMany, BadStates, BadWidth
+from everypath.refusals import BadStates, BadWidth
+from everypath.runs import check_many
 from everypath.spreads import first_state, spread_of
 from everypath.states import (action_at, check_state, inputs_at, is_state, key_of, next_by, number_at, told_state,
                               width_of)
@@ -105,11 +106,6 @@ def next_of(program, state):
 def check_states(program, states):
     if not is_list(states) or not all([is_state(program, state) for state in states]):
         raise BadStates(states)
-
-
-def check_many(many):
-    if not is_integer(many) or many < 1:
-        raise BadMany(many)
 
 
 def check_width(width):

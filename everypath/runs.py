@@ -2,9 +2,10 @@
 
 from everypath.errors import BadAssertion, BadInputs, BadSteps
 from everypath.graphs import is_assertion
-from everypath.kinds import are_integers, is_number
+from everypath.kinds import are_integers, is_integer, is_number
 from everypath.plays import Play, played_for
 from everypath.programs import check_program
+from everypath.refusals import BadMany
 
 
 def played(program, inputs, steps):
@@ -44,3 +45,8 @@ def check_inputs(inputs):
 def check_steps(steps):
     if not is_number(steps):
         raise BadSteps(steps)
+
+
+def check_many(many):
+    if not is_integer(many) or many < 1:
+        raise BadMany(many)

@@ -5,12 +5,16 @@ from everypath.walks import Walk
 
 
 class Trail(Walk):
-    """Goes on where another side comes: the ranges of the unknowns, and the condition of each side, as met so far."""
+    """Goes on where another side comes: the ranges of the unknowns, and the condition of each side, as met so far.
+
+    asked: the condition by which the next side is taken, plain, where one is wanted.
+    """
 
     def __init__(self, program):
         self.sides = []
         self.ranges = []
         self.conditions = []
+        self.asked = None
         Walk.__init__(self, program, "main")
 
     def copied(self):
@@ -18,6 +22,7 @@ class Trail(Walk):
         trail.sides = list(self.sides)
         trail.ranges = list(self.ranges)
         trail.conditions = list(self.conditions)
+        trail.asked = self.asked
         trail.frames = [[f, place, {name: values[name] for name in values}] for f, place, values in self.frames]
         trail.taken = self.taken
         trail.why = self.why
@@ -43,11 +48,14 @@ class Trail(Walk):
     def side_of(self, condition):
         """The side that is taken next, None if it is not told yet."""
         if len(self.conditions) == len(self.sides):
+            self.asked = plain_condition(condition, self.frames[-1][2])
             return None
-        side = self.sides[-1]
-        here = plain_condition(condition, self.frames[-1][2])
-        self.conditions.append(here if side == 0 else ("not", here))
-        return side
+        self.conditions.append(self.condition_of(self.sides[-1]))
+        return self.sides[-1]
+
+    def condition_of(self, side):
+        """The condition with which the side is taken that is wanted."""
+        return self.asked if side == 0 else ("not", self.asked)
 
     def drawn_from(self, low, high):
         """The next unknown."""
