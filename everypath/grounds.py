@@ -4,6 +4,7 @@ from everypath.choices import Chooser, is_true
 from everypath.denials import Denial
 from everypath.facts import FactTable
 from everypath.pursuits import Pursuit
+from everypath.treefacts import facts_in
 
 
 class Grounds:
@@ -74,19 +75,6 @@ class Grounds:
                     found[at] = True
                     columns.update({column: True for column in reads})
         return sorted(found)
-
-
-def facts_in(tree):
-    """All facts of a tree."""
-    found = []
-    waiting = [tree]
-    while waiting:
-        part = waiting.pop()
-        if part[0] == "fact":
-            found.append(part[1])
-        else:
-            waiting.extend(part[-2:])
-    return found
 
 
 def refutation_by(pursuit):

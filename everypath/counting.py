@@ -1,0 +1,44 @@
+"""Counting: how many lists of integers meet conditions, unknowns that do not hang together being counted apart."""
+
+from everypath.choices import is_true
+from everypath.deciding import check_conditions, check_ranges, grounds_of
+from everypath.lots import Lot
+from everypath.treefacts import clauses_of, facts_in
+
+
+def count(ranges, conditions):
+    check_ranges(ranges)
+    check_conditions(ranges, conditions)
+    grounds = grounds_of(ranges, conditions)
+    clauses = [clause for tree in grounds.trees for clause in clauses_of(tree)]
+    return count_clauses(grounds.table, clauses)
+
+
+def count_clauses(table, clauses):
+    """How many lists of integers of all unknowns of a table meet these trees."""
+    lots = {column: [column] for column in range(len(table.ranges))}
+    reads = [columns_read(table, tree) for tree in clauses]
+    for tree, columns in zip(clauses, reads):
+        if not columns and not is_true(tree, table, table.worths([low for low, _ in table.ranges])):
+            return 0
+        put_together(lots, columns)
+    many = 1
+    for column in lots:
+        if lots[column][0] == column and many > 0:
+            trees = [tree for tree, columns in zip(clauses, reads) if columns and columns[0] in lots[column]]
+            many *= Lot(table, lots[column], trees).count_from(0)
+    return many
+
+
+def columns_read(table, tree):
+    """The columns of the unknowns on which it hangs whether a tree holds."""
+    return table.unknowns_among([column for fact in facts_in(tree) for column in table.rows[fact][0]])
+
+
+def put_together(lots, columns):
+    """Makes one lot, ascending, of those of these columns."""
+    for column in columns[1:]:
+        if lots[column] != lots[columns[0]]:
+            merged = sorted([*lots[columns[0]], *lots[column]])
+            for each in merged:
+                lots[each] = merged
