@@ -7,9 +7,21 @@ import unittest
 INTERFACE = {
     "callsteps": "begun(program, f, zone); returned(program, f, zone, expression); "
                  "called(program, f, zone, g, expressions); come_back(program, f, zone, x, g, expressions, end)",
+    "comparetrees": "judged_tree(program, other, steps, thing)",
+    "comparing": "compared(program, other, steps, many); unlike_from(program, other, steps, many); "
+                 "unlike_sides(program, other, steps, many)",
+    "counting": "count(ranges, conditions)",
+    "covers": "cover(program, steps, many); paths(program, steps, many); judged_cover(program, steps, thing); "
+              "closed_by(program, steps, many); broken(program, steps, many)",
     "deciding": "system_of(ranges, facts); decided(ranges, conditions); is_refutation(ranges, conditions, thing)",
     "forms": "form_of(expression); strip_of(expression, strips)",
     "graphs": "places(program, f); edges(program, f); assertions(program)",
+    "judge": "demands(program, paper); judged(program, paper); lies(program, paper, state); "
+             "met_papers(program, paper, other)",
+    "ladders": "rounded(zone, ladder)",
+    "layers": "next_states(program, state, width); layers(program, many, width); way_to(program, state, many, width); "
+              "first_break(program, assertion, many, width); open_at(program, states, width); "
+              "broken_in(program, states); ends_in(program, states)",
     "papers": "things_of(program, f); sided(zone, cuts, sides); sides_of(cuts, numbers); is_paper(program, thing)",
     "paths": "path_of(program, inputs, steps); followed(program, sides, steps)",
     "plainforms": "plain(expression); alternatives(condition)",
@@ -22,6 +34,8 @@ INTERFACE = {
               "strip_mod(strip, n)",
     "systems": "is_met(system, thing); is_none(system, thing); solved(system); least_of(system, factors); "
                "greatest_of(system, factors)",
+    "traces": "trace(program, inputs, steps); is_parting(program, other, inputs, steps); "
+              "traced(program, sides, steps)",
     "zones": "is_zone(thing); closed(zone); is_in(zone, values); is_even(zone); is_below(zone, other); "
              "is_within(zone, other); joined(zone, other); met(zone, other); strip_in(zone, thing); "
              "kept(zone, things); renamed(zone, names)",
