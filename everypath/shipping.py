@@ -7,26 +7,26 @@ is cheaper: so all of it together is cheapest at any time.
 
 
 class Prices:
-    """What a unit costs from thing to thing: its bound in a closed zone.
+    """What a unit costs from thing to thing of these nodes: its bound in a closed zone.
 
     A pair without a bound costs more than any way by bounds, and as much as the cheapest way that has one such pair:
     so no way through other things is ever cheaper than straight on, and what is shipped need not know of those.
     """
 
-    def __init__(self, bounds):
+    def __init__(self, bounds, nodes):
         self.bounds = bounds
         greatest = max([abs(bounds[pair]) for pair in bounds], default=0)
-        self.lacking = 8 * (len(bounds) + 2) * (greatest + 1)
-        self.from_there = {}
-        self.to_there = {}
+        lacking = 8 * (len(bounds) + 2) * (greatest + 1)
+        from_there = {u: 0 for u in nodes}
+        to_there = {u: 0 for u in nodes}
         for u, v in bounds:
-            self.from_there[u] = min(bounds[(u, v)], self.from_there.get(u, 0))
-            self.to_there[v] = min(bounds[(u, v)], self.to_there.get(v, 0))
-
-    def price(self, u, v):
-        if (u, v) in self.bounds:
-            return self.bounds[(u, v)]
-        return self.lacking + self.from_there.get(u, 0) + self.to_there.get(v, 0)
+            from_there[u] = min(bounds[(u, v)], from_there.get(u, 0))
+            to_there[v] = min(bounds[(u, v)], to_there.get(v, 0))
+        self.straight = {}
+        for u in nodes:
+            for v in nodes:
+                if u != v:
+                    self.straight[(u, v)] = bounds.get((u, v), lacking + from_there[u] + to_there[v])
 
 
 class Shipping:
@@ -38,12 +38,6 @@ class Shipping:
 
     def copied(self):
         return Shipping(self.prices, {pair: self.flow[pair] for pair in self.flow})
-
-    def cost_from(self, u, v):
-        """What the next unit from u to v costs, taken back if one was shipped the other way."""
-        if (v, u) in self.flow:
-            return -self.prices.price(v, u)
-        return self.prices.price(u, v)
 
     def ship(self, u, v, units):
         """Ships so many units from u to v."""
@@ -64,22 +58,27 @@ class Shipping:
             del self.flow[(v, u)]
 
     def cheapest_way(self, u, v):
-        """The pairs along a cheapest way from u to v, over what is shipped from or to so far."""
+        """The pairs along a cheapest way from u to v, over what is shipped from or to so far.
+
+        Straight on is cheapest but where something is taken back, so only behind that ways are looked at anew.
+        """
         nodes = self.stops(u, v)
-        costs = {u: 0}
-        before = {}
+        straight = self.prices.straight
+        costs = {node: 0 if node == u else straight[(u, node)] for node in nodes}
+        before = {node: u for node in nodes}
         changed = True
         while changed:
             changed = False
-            for at in nodes:
-                for to in nodes:
-                    if at == to or at not in costs:
-                        continue
-                    cost = costs[at] + self.cost_from(at, to)
-                    if to not in costs or cost < costs[to]:
-                        costs[to] = cost
-                        before[to] = at
-                        changed = True
+            for to, at in self.flow:
+                cost = costs[at] - straight[(to, at)]
+                if cost < costs[to]:
+                    changed = True
+                    before[to] = at
+                    costs[to] = cost
+                    for node in nodes:
+                        if node != to and cost + straight[(to, node)] < costs[node]:
+                            before[node] = to
+                            costs[node] = cost + straight[(to, node)]
         way = []
         while v != u:
             way.append((before[v], v))
@@ -101,9 +100,9 @@ class Shipping:
         return sum([self.flow[pair] * bounds[pair] for pair in self.flow])
 
 
-def shipping_of(bounds, terms):
-    """The shipping of terms, pairs (thing, factor)."""
-    shipping = Shipping(Prices(bounds), {})
+def shipping_of(bounds, terms, nodes):
+    """The shipping of terms, pairs (thing, factor), among these nodes."""
+    shipping = Shipping(Prices(bounds, nodes), {})
     for thing, factor in terms:
         if factor > 0:
             shipping.ship(thing, "0", factor)
@@ -116,7 +115,7 @@ def cost_of(bounds, terms):
     """The cost of terms, pairs (thing, factor); None if there is none."""
     sources, sinks = balanced(terms)
     if len(sources) > 1 and len(sinks) > 1:
-        return shipping_of(bounds, terms).cost()
+        return shipping_of(bounds, terms, ["0", *[thing for thing, _ in terms]]).cost()
     total = 0
     for at, units in sources:
         for to, asked in sinks:

@@ -123,8 +123,8 @@ def sharpen(zone, form):
     terms = name_terms(form)
     times = sorted(set([1, *[abs(factor) for _, factor in terms]]))
     bounds = {pair: zone[1][pair] for pair in zone[1]}
-    shipped = shipping_of(bounds, terms)
     nodes = ["0", *zone[0]]
+    shipped = shipping_of(bounds, terms, nodes)
     for u in nodes:
         for v in nodes:
             bound = None if u == v else least_by(shipped.copied(), u, v, times, end)
