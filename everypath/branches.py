@@ -2,6 +2,7 @@
 
 from everypath.evaluating import value_of
 from everypath.grounds import Grounds
+from everypath.leaps import rounds_left
 from everypath.trails import trail_at_first, unknown
 
 
@@ -12,30 +13,53 @@ class Branch:
         self.trail = trail
         self.grounds = grounds
         self.steps = steps
-        for low, high in trail.ranges[len(grounds.inputs):]:
-            grounds.add_unknown(low, high)
+        grounds.add_unknowns(trail.ranges)
 
-    def wants_side(self):
-        return self.trail.why == ("sides",)
-
-    def grounds_by(self, side):
-        """The grounds with the condition of a side that is wanted, ahead of all that comes behind it."""
-        grounds = self.grounds.copied()
-        grounds.add_condition(self.trail.condition_of(side))
-        return grounds
-
-    def gone_by(self, side, grounds):
-        """The branch behind this side, with these grounds."""
-        trail = self.trail.copied()
-        trail.take(side, self.steps)
-        return Branch(trail, grounds, self.steps)
+    def forks(self):
+        """What comes of the sides that are let, in their order; none where no side is wanted."""
+        return [Fork(self, side) for side in self.trail.lets] if self.trail.wants_side() else []
 
     def why_for(self, inputs):
         """Why it stops as a run with these inputs tells it."""
         why = self.trail.why
-        if why[0] != "ends":
-            return why
-        return ("ends", value_of(why[1], {unknown(at): n for at, n in enumerate(inputs)}))
+        return ("ends", value_of(why[1], by_unknowns(inputs))) if why[0] == "ends" else why
+
+
+class Fork:
+    """A branch that takes a side: its trail right behind that, and the grounds with the conditions of the side."""
+
+    def __init__(self, branch, side):
+        self.steps = branch.steps
+        self.trail = branch.trail.copied()
+        self.trail.turn(side)
+        self.grounds = branch.grounds.copied()
+        self.grounds.add_unknowns(self.trail.ranges)
+        for condition in self.trail.conditions[len(branch.trail.conditions):]:
+            self.grounds.add_condition(condition)
+        self.many = len(self.trail.conditions) - len(branch.trail.conditions)
+
+    def settle(self):
+        """Has the grounds' inputs meet the side, too; if there are none, tells what found none.
+
+        By the first condition of the side all others hold for just one number of rounds, which is told by the inputs.
+        """
+        first = len(self.grounds.trees) - self.many
+        pursuit = self.grounds.settle(first, first + 1)
+        if pursuit is None and self.many > 1:
+            numbers = by_unknowns(self.grounds.inputs)
+            spares = [(value_of(spare, numbers), change) for spare, change in self.trail.spares]
+            self.grounds.inputs[-1] = rounds_left(spares)
+        return pursuit
+
+    def gone_on(self):
+        """The branch behind the side."""
+        self.trail.go(self.steps)
+        return Branch(self.trail, self.grounds, self.steps)
+
+
+def by_unknowns(inputs):
+    """The integers by the names of their unknowns."""
+    return {unknown(at): n for at, n in enumerate(inputs)}
 
 
 def branch_at_first(program, steps):

@@ -27,7 +27,7 @@ def decided(ranges, conditions):
     check_ranges(ranges)
     check_conditions(ranges, conditions)
     grounds = grounds_of(ranges, conditions)
-    pursuit = Pursuit(grounds.table, grounds.trees, list(range(len(grounds.trees))))
+    pursuit = Pursuit(grounds.table, grounds.trees, list(range(len(grounds.trees))), {})
     numbers = pursuit.least()
     if numbers is None:
         return "never", refutation_by(pursuit)

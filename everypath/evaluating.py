@@ -2,21 +2,23 @@
 
 
 def value_of(expression, values):
+    """What it is; sums are gone through from their last part on, since they may have many."""
+    behind = 0
+    while expression[0] in ("add", "sub"):
+        part = value_of(expression[2], values)
+        behind += part if expression[0] == "add" else -part
+        expression = expression[1]
     word = expression[0]
     if word == "number":
-        return expression[1]
+        return expression[1] + behind
     if word == "name":
-        return values[expression[1]]
+        return values[expression[1]] + behind
     if word == "times":
-        return expression[1] * value_of(expression[2], values)
-    one = value_of(expression[1], values)
-    if word == "add":
-        return one + value_of(expression[2], values)
-    if word == "sub":
-        return one - value_of(expression[2], values)
+        return expression[1] * value_of(expression[2], values) + behind
+    inner = value_of(expression[1], values)
     if word == "div":
-        return one // expression[2]
-    return one % expression[2]
+        return inner // expression[2] + behind
+    return inner % expression[2] + behind
 
 
 def holds(condition, values):

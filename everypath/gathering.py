@@ -1,6 +1,5 @@
 """All paths gone from side to side, the sides that no inputs take being refuted."""
 
-from everypath.branches import branch_at_first
 from everypath.grounds import refutation_by
 
 
@@ -11,33 +10,37 @@ class Gathering:
     branch, or the pursuit that found no inputs for a side.
     """
 
-    def __init__(self, program, steps, many):
+    def __init__(self, branch, many):
         self.many = many
         self.found = []
         self.nodes = []
-        self.sides_to_go = []
-        self.visit(branch_at_first(program, steps))
+        self.forks_to_go = []
+        self.visit(branch)
 
     def go(self):
-        while self.sides_to_go and not self.are_too_many():
-            branch, side = self.sides_to_go.pop()
-            grounds = branch.grounds_by(side)
-            pursuit = grounds.settle(len(grounds.trees) - 1)
+        while self.forks_to_go and not self.are_too_many():
+            fork = self.forks_to_go.pop()
+            pursuit = fork.settle()
             if pursuit is None:
-                self.visit(branch.gone_by(side, grounds))
+                self.visit(fork.gone_on())
             else:
                 self.nodes.append((None, pursuit))
 
     def visit(self, branch):
         """Has a branch among the nodes, and its sides, should it want one, gone next."""
         self.nodes.append((branch, None))
-        if branch.wants_side():
-            self.sides_to_go.extend([(branch, 1), (branch, 0)])
+        if branch.trail.wants_side():
+            self.forks_to_go.extend(branch.forks()[::-1])
         else:
             self.found.append(branch)
 
     def are_too_many(self):
         return len(self.found) > self.many
+
+    def told_paths(self):
+        """(sides, why, least inputs) of all paths."""
+        return [(list(branch.trail.sides), branch.why_for(branch.grounds.inputs), list(branch.grounds.inputs))
+                for branch in self.found]
 
     def told_cover(self):
         """The cover that the nodes make, put together from the last one on."""
@@ -45,7 +48,7 @@ class Gathering:
         for branch, pursuit in self.nodes[::-1]:
             if pursuit is not None:
                 behind.append(("never", refutation_by(pursuit)))
-            elif branch.wants_side():
+            elif branch.trail.wants_side():
                 one = behind.pop()
                 behind.append(("sides", one, behind.pop()))
             else:
@@ -53,8 +56,8 @@ class Gathering:
         return behind[0]
 
 
-def gathered(program, steps, many):
-    """The gathering of all paths, None if there are more than many."""
-    gathering = Gathering(program, steps, many)
+def gathered(branch, many):
+    """The gathering of all paths that go on from a branch, None if there are more than many."""
+    gathering = Gathering(branch, many)
     gathering.go()
     return None if gathering.are_too_many() else gathering

@@ -33,6 +33,11 @@ class Grounds:
         self.table.add_unknown(low, high)
         self.inputs.append(low)
 
+    def add_unknowns(self, ranges):
+        """Those that these ranges have behind the ones that there are."""
+        for low, high in ranges[len(self.inputs):]:
+            self.add_unknown(low, high)
+
     def add_condition(self, condition):
         """Puts a condition behind all others, and tells its index."""
         return self.put_condition(condition, len(self.trees))
@@ -46,15 +51,22 @@ class Grounds:
         self.reads.insert(index, self.table.unknowns_of(facts_in(tree)))
         return index
 
-    def settle(self, index):
+    def are_met_by(self, numbers):
+        """Whether these integers, one for each unknown, lie in the ranges and meet all conditions."""
+        if not all([low <= n <= high for (low, high), n in zip(self.table.ranges, numbers)]):
+            return False
+        worths = self.table.worths(numbers)
+        return all([is_true(tree, self.table, worths) for tree in self.trees])
+
+    def settle(self, index, many):
         """Makes inputs the least integers that meet this condition, too; if there are none, tells what found none.
 
-        What does not hang together with this condition stays as it is.
+        What does not hang together with this condition, among the first so many, stays as it is.
         """
         if is_true(self.trees[index], self.table, self.table.worths(self.inputs)):
             return None
-        active = self.hanging_together(index)
-        pursuit = Pursuit(self.table, self.trees, active)
+        active = self.hanging_together(index, many)
+        pursuit = Pursuit(self.table, self.trees, active, {})
         numbers = pursuit.least()
         if numbers is None:
             return pursuit
@@ -63,14 +75,14 @@ class Grounds:
                 self.inputs[column] = numbers[column]
         return None
 
-    def hanging_together(self, index):
-        """The numbers of the conditions that share unknowns with this one, at once or by way of others, ascending."""
+    def hanging_together(self, index, many):
+        """The numbers, below many, of what shares unknowns with this one, at once or by way of others, ascending."""
         found = {index: True}
         columns = {column: True for column in self.reads[index]}
-        many = 0
-        while many < len(found):
-            many = len(found)
-            for at, reads in enumerate(self.reads):
+        before = 0
+        while before < len(found):
+            before = len(found)
+            for at, reads in enumerate(self.reads[:many]):
                 if at not in found and any([column in columns for column in reads]):
                     found[at] = True
                     columns.update({column: True for column in reads})

@@ -4,11 +4,12 @@ from everypath.trees import told_statement
 
 
 class Layout:
-    """The places and edges of a function while its statements are laid one behind another."""
+    """The places and edges of a function while its statements are laid one behind another, and its loops by heads."""
 
     def __init__(self):
         self.places = 2
         self.edges = []
+        self.loops = {}
 
     def new_place(self):
         self.places += 1
@@ -51,17 +52,35 @@ class Layout:
     def lay_while(self, statement, place):
         condition = statement[1]
         head = self.lay_on(place, ("skip",))
-        last = self.lay_all(statement[2], self.lay_on(head, ("when", condition)))
-        self.lay_edge(last, head, ("skip",))
-        return self.lay_on(head, ("when", ("not", condition)))
+        loop = Loop(head, statement)
+        self.loops[head] = loop
+        loop.last = self.lay_all(statement[2], self.lay_on(head, ("when", condition)))
+        self.lay_edge(loop.last, head, ("skip",))
+        loop.behind = self.lay_on(head, ("when", ("not", condition)))
+        return loop.behind
+
+
+class Loop:
+    """A while: its head, its condition and statements, the place from which its back edge goes, the place behind it."""
+
+    def __init__(self, head, statement):
+        self.head = head
+        self.condition = statement[1]
+        self.statements = statement[2]
+        self.last = None
+        self.behind = None
+
+    def inner_places(self):
+        """Its inner places, ascending."""
+        return list(range(self.head + 1, self.behind))
 
 
 def laid_out(statements):
-    """How many places a function with these statements has, and its edges."""
+    """The layout of a function with these statements."""
     layout = Layout()
     last = layout.lay_all(statements, 0)
     layout.lay_edge(last, 1, ("return", ("number", 0)))
-    return layout.places, layout.edges
+    return layout
 
 
 def starting(places, edges):

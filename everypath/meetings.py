@@ -31,7 +31,7 @@ class Meeting:
         while self.sides_to_go and not self.are_too_many():
             pair, side = self.sides_to_go.pop()
             grounds, index = pair.grounds_by(side)
-            pursuit = grounds.settle(index)
+            pursuit = grounds.settle(index, len(grounds.trees))
             if pursuit is None:
                 self.visit(pair.gone_by(side, grounds))
             else:
@@ -56,7 +56,7 @@ class Meeting:
             pursuits = []
             for at in (0, 1):
                 grounds, index = pair.grounds_less(at)
-                pursuits.append(grounds.settle(index))
+                pursuits.append(grounds.settle(index, len(grounds.trees)))
                 if pursuits[-1] is None:
                     self.ends += 1
                     self.parted.append((pair, grounds.inputs))

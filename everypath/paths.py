@@ -5,7 +5,7 @@ from everypath.kinds import are_sides
 from everypath.plays import played_for
 from everypath.programs import check_program
 from everypath.runs import check_inputs, check_steps
-from everypath.trails import trail_along
+from everypath.trails import gone_along, trail_at_first
 
 
 def path_of(program, inputs, steps):
@@ -18,8 +18,7 @@ def path_of(program, inputs, steps):
 
 def followed(program, sides, steps):
     trail = checked_trail(program, sides, steps)
-    prints = [event[1] for event in trail.events if event[0] == "prints"]
-    return trail.why, trail.ranges, trail.conditions, prints
+    return trail.why, trail.ranges, trail.conditions, trail.values_printed()
 
 
 def checked_trail(program, sides, steps):
@@ -28,7 +27,7 @@ def checked_trail(program, sides, steps):
     if not are_sides(sides):
         raise BadSides(sides)
     check_steps(steps)
-    trail = trail_along(program, sides, steps)
-    if trail is None:
+    trail = trail_at_first(program, steps)
+    if not gone_along(trail, sides, steps):
         raise BadSides(sides)
     return trail

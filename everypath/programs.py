@@ -7,7 +7,7 @@ from everypath.trees import is_name, is_tree, leaves_of, statements_in, told_sta
 
 
 class Program:
-    """Functions, kept as tuples throughout, with what is made of them once: names, places, edges."""
+    """Functions, kept as tuples throughout, with what is made of them once: names, places, edges, loops."""
 
     def __init__(self, functions):
         index = first_fault(functions)
@@ -19,11 +19,13 @@ class Program:
         self.places = {}
         self.edges = {}
         self.starts = {}
+        self.loops = {}
         for name, params, statements in self.trees:
             self.params[name] = params
             self.names[name] = [*params, *other_names(params, statements)]
-            self.places[name], self.edges[name] = laid_out(statements)
-            self.starts[name] = starting(self.places[name], self.edges[name])
+            layout = laid_out(statements)
+            self.places[name], self.edges[name], self.loops[name] = layout.places, layout.edges, layout.loops
+            self.starts[name] = starting(layout.places, layout.edges)
 
     def functions(self):
         return [(name, list(params), told_statements(statements)) for name, params, statements in self.trees]

@@ -4,7 +4,7 @@ from heapq import heappop, heappush
 
 from everypath.choices import facts_chosen, open_choice
 from everypath.lifting import used_facts
-from everypath.solving import least_values
+from everypath.solving import least_toward
 
 
 class Part:
@@ -32,15 +32,17 @@ class Refuted:
 
 
 class Pursuit:
-    """Goes the choices of conditions, those with the least integers first.
+    """Goes the choices of conditions, those with the least sum first, then those with the least integers.
 
-    trees: those of all conditions; active: the numbers of those that are to be met, or refuted.
+    trees: those of all conditions; active: the numbers of those that are to be met, or refuted; toward: factors of
+    unknowns, by columns, whose sum is to be least ahead of all else.
     """
 
-    def __init__(self, table, trees, active):
+    def __init__(self, table, trees, active, toward):
         self.table = table
         self.trees = trees
         self.active = active
+        self.toward = toward
         self.refuted = []
         self.queue = []
         self.parts = 0
@@ -49,7 +51,7 @@ class Pursuit:
     def least(self):
         """The least integers that meet all conditions, None if none do."""
         while self.queue:
-            numbers, _, part = heappop(self.queue)
+            _, numbers, _, part = heappop(self.queue)
             worths = self.table.worths(numbers)
             if not self.chooses(part, worths):
                 return numbers
@@ -74,13 +76,18 @@ class Pursuit:
 
     def solve(self, part):
         ranges, rows = self.table.system_by(part.facts)
-        kind, found = least_values(ranges, rows)
+        kind, found = least_toward(ranges, rows, [self.toward.get(column, 0) for column in range(len(ranges))])
         if kind == "none":
             part.refutation = Refuted(found, part.facts, used_facts(self.table, part.facts, found))
             self.refuted.append(part.refutation)
         else:
             self.parts += 1
-            heappush(self.queue, (found[:len(self.table.ranges)], self.parts, part))
+            numbers = found[:len(self.table.ranges)]
+            heappush(self.queue, (self.sum_of(numbers), numbers, self.parts, part))
+
+    def sum_of(self, numbers):
+        """The sum that is to be least."""
+        return sum([self.toward[column] * numbers[column] for column in self.toward])
 
     def chooses(self, part, worths):
         """Parts by a choice of a condition that does not hold for these worths; False if all hold."""

@@ -23,6 +23,19 @@ def least_values(ranges, rows):
     return least_values([*ranges[:at], (n, n), *ranges[at + 1:]], rows)
 
 
+def least_toward(ranges, rows, factors):
+    """("values", values) of the least ones, as lists compare, of those with the least sum; or ("none", lists)."""
+    if not any(factors):
+        return least_values(ranges, rows)
+    search = search_toward(ranges, rows, factors)
+    if search.is_done(CUTS):
+        return told(search)
+    kind, found = sliced_values(ranges, rows)
+    if kind == "none":
+        return kind, found
+    return least_values(ranges, [*rows, (factors, lowest_sum(ranges, rows, factors, found))])
+
+
 def any_values(ranges, rows):
     """("values", values) of some that meet the system, or ("none", lists)."""
     search = search_toward(ranges, rows, [])

@@ -26,9 +26,13 @@ class Walk:
     def go(self, steps):
         """Takes steps until it stops or so many are taken."""
         while self.why is None and self.taken < steps:
-            self.step()
+            self.move()
         if self.why is None:
             self.why = ("going",)
+
+    def move(self):
+        """Goes on by one; what that is may be told otherwise beneath."""
+        self.step()
 
     def step(self):
         """Takes the next step, or tells in why that there is none."""

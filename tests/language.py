@@ -331,7 +331,8 @@ def name_faults(tree):
         if binds:
             if name in BUILTIN_NAMES or name in BARRED_NAMES:
                 yield node_line(node), f"{name} is the name of something else"
-            if name in own and not isinstance(node.parent, ast.Module) and not is_method(node):
+            barred = taken if isinstance(node, ast.arg) else own
+            if name in barred and not isinstance(node.parent, ast.Module) and not is_method(node):
                 yield node_line(node), f"{name} is a name of the file"
             if name.startswith("__") and not is_method(node):
                 yield node_line(node), name
