@@ -28,7 +28,7 @@ def parts_to_judge(branch, node):
 
 
 def is_node_there(branch, thing):
-    """Whether it is "sides" where a side is wanted, else a path with as many unknowns as are met, that take its sides."""
+    """Whether it is "sides" where a side is wanted, else a path with as many unknowns as are met, taking its sides."""
     if branch.trail.wants_side():
         return is_list_of(thing, 3) and thing[0] == "sides"
     if not is_list_of(thing, 2) or thing[0] != "path" or not are_integers(thing[1]):
