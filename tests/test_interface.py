@@ -14,6 +14,11 @@ INTERFACE = {
     "covers": "cover(program, steps, many); paths(program, steps, many); judged_cover(program, steps, thing); "
               "closed_by(program, steps, many); broken(program, steps, many)",
     "deciding": "system_of(ranges, facts); decided(ranges, conditions); is_refutation(ranges, conditions, thing)",
+    "endings": "judged_depths(program, paper, depths); longest(program, paper, rankings, depths)",
+    "evens": "gains(program, f, place)",
+    "farpaths": "far_cover(program, leaps, many); far_paths(program, leaps, many); all_told(program, leaps, many); "
+                "endless(program, leaps, many); far_longest(program, leaps, many); judged_far(program, leaps, thing)",
+    "farwalks": "far_followed(program, sides, leaps)",
     "forms": "form_of(expression); strip_of(expression, strips)",
     "graphs": "places(program, f); edges(program, f); assertions(program)",
     "judge": "demands(program, paper); judged(program, paper); lies(program, paper, state); "
@@ -22,10 +27,15 @@ INTERFACE = {
     "layers": "next_states(program, state, width); layers(program, many, width); way_to(program, state, many, width); "
               "first_break(program, assertion, many, width); open_at(program, states, width); "
               "broken_in(program, states); ends_in(program, states)",
+    "leaps": "far_path_of(program, inputs, leaps)",
+    "loops": "heads(program, f); inner_places(program, f, head); leads(program, f, head)",
     "papers": "things_of(program, f); sided(zone, cuts, sides); sides_of(cuts, numbers); is_paper(program, thing)",
     "paths": "path_of(program, inputs, steps); followed(program, sides, steps)",
     "plainforms": "plain(expression); alternatives(condition)",
     "programs": "Program(functions); names_of(program, f)",
+    "rankings": "is_ranking(program, paper, f, head, thing)",
+    "rankjudge": "judged_ranking(program, paper, f, head, ranking); rounds_at_most(program, paper, f, head, ranking); "
+                 "ranking(program, paper, f, head, ranks, ladder); found_ranking(program, paper, f, head, ladder)",
     "runs": "played(program, inputs, steps); printed(program, inputs, steps); "
             "breaking(program, assertion, inputs, steps)",
     "strips": "reduced(low, high, modulus, remainder); strip_has(strip, n); strip_many(strip); "
