@@ -38,13 +38,13 @@ class Fork:
             self.grounds.add_condition(condition)
         self.many = len(self.trail.conditions) - len(branch.trail.conditions)
 
-    def settle(self):
+    def settle_side(self):
         """Has the grounds' inputs meet the side, too; if there are none, tells what found none.
 
         By the first condition of the side all others hold for just one number of rounds, which is told by the inputs.
         """
         first = len(self.grounds.trees) - self.many
-        pursuit = self.grounds.settle(first, first + 1)
+        pursuit = self.grounds.meet_condition(first, first + 1)
         if pursuit is None and self.many > 1:
             numbers = by_unknowns(self.grounds.inputs)
             spares = [(value_of(spare, numbers), change) for spare, change in self.trail.spares]

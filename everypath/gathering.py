@@ -17,10 +17,10 @@ class Gathering:
         self.forks_to_go = []
         self.visit(branch)
 
-    def go(self):
+    def go_through(self):
         while self.forks_to_go and not self.are_too_many():
             fork = self.forks_to_go.pop()
-            pursuit = fork.settle()
+            pursuit = fork.settle_side()
             if pursuit is None:
                 self.visit(fork.gone_on())
             else:
@@ -59,5 +59,5 @@ class Gathering:
 def gathered(branch, many):
     """The gathering of all paths that go on from a branch, None if there are more than many."""
     gathering = Gathering(branch, many)
-    gathering.go()
+    gathering.go_through()
     return None if gathering.are_too_many() else gathering

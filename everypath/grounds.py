@@ -10,7 +10,7 @@ from everypath.treefacts import facts_in
 class Grounds:
     """A table of facts over the unknowns, the tree of each condition, and which unknowns it reads.
 
-    inputs: the least integers that meet all conditions, if settle was called behind each that was put in.
+    inputs: the least integers that meet all conditions, if meet_condition was called behind each that was put in.
     """
 
     def __init__(self, ranges):
@@ -58,7 +58,7 @@ class Grounds:
         worths = self.table.worths(numbers)
         return all([is_true(tree, self.table, worths) for tree in self.trees])
 
-    def settle(self, index, many):
+    def meet_condition(self, index, many):
         """Makes inputs the least integers that meet this condition, too; if there are none, tells what found none.
 
         What does not hang together with this condition, among the first so many, stays as it is.

@@ -27,11 +27,11 @@ class Meeting:
         self.sides_to_go = []
         self.visit(pair_at_first(program, other, steps))
 
-    def go(self):
+    def go_through(self):
         while self.sides_to_go and not self.are_too_many():
             pair, side = self.sides_to_go.pop()
             grounds, index = pair.grounds_by(side)
-            pursuit = grounds.settle(index, len(grounds.trees))
+            pursuit = grounds.meet_condition(index, len(grounds.trees))
             if pursuit is None:
                 self.visit(pair.gone_by(side, grounds))
             else:
@@ -56,7 +56,7 @@ class Meeting:
             pursuits = []
             for at in (0, 1):
                 grounds, index = pair.grounds_less(at)
-                pursuits.append(grounds.settle(index, len(grounds.trees)))
+                pursuits.append(grounds.meet_condition(index, len(grounds.trees)))
                 if pursuits[-1] is None:
                     self.ends += 1
                     self.parted.append((pair, grounds.inputs))
@@ -84,5 +84,5 @@ class Meeting:
 def met_side_by_side(program, other, steps, many):
     """The meeting of both, None if there are more than many ends."""
     meeting = Meeting(program, other, steps, many)
-    meeting.go()
+    meeting.go_through()
     return None if meeting.are_too_many() else meeting

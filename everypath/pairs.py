@@ -59,7 +59,7 @@ class Pair:
         at = 0 if self.word == "one" else 1
         trails = list(self.trails)
         trails[at] = trails[at].copied()
-        trails[at].take(side, self.steps)
+        trails[at].take_side(side, self.steps)
         return Pair(trails, self.index, grounds, self.steps)
 
     def grounds_less(self, at):

@@ -46,10 +46,10 @@ class Shipping:
             back = [self.flow[(to, at)] for at, to in way if (to, at) in self.flow]
             part = min([units, *back])
             for at, to in way:
-                self.move(at, to, part)
+                self.shift(at, to, part)
             units -= part
 
-    def move(self, u, v, units):
+    def shift(self, u, v, units):
         if (v, u) not in self.flow:
             self.flow[(u, v)] = self.flow.get((u, v), 0) + units
         elif self.flow[(v, u)] > units:

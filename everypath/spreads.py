@@ -16,7 +16,7 @@ class Spread:
         self.ways = {key_of(program, first): []}
         self.why = None
 
-    def go(self):
+    def go_through(self):
         while self.why is None:
             self.spread()
 
@@ -64,5 +64,5 @@ def first_state(program):
 def spread_of(program, many, width):
     """All layers that are told."""
     spread = Spread(program, many, width)
-    spread.go()
+    spread.go_through()
     return spread

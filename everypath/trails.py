@@ -49,7 +49,7 @@ class Trail(Walk):
         self.why = None
         self.move()
 
-    def take(self, side, steps):
+    def take_side(self, side, steps):
         """Goes on by this side as far as it gets without another one, or so many steps are taken in all."""
         self.turn(side)
         self.go(steps)
@@ -104,7 +104,7 @@ def gone_along(trail, sides, steps):
     for side in sides:
         if not trail.wants_side() or side not in trail.lets:
             return False
-        trail.take(side, steps)
+        trail.take_side(side, steps)
     return True
 
 

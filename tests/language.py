@@ -31,6 +31,17 @@ def package_files():
     return sorted(name for name in os.listdir(FOLDER) if name != "__pycache__")
 
 
+def unlike_methods(trees):
+    """The names of methods that take more arguments in one class than in another one."""
+    many = {}
+    for tree in trees.values():
+        for node in [node for node in ast.walk(tree) if isinstance(node, ast.ClassDef)]:
+            for part in node.body:
+                if isinstance(part, ast.FunctionDef) and not part.name.startswith("__"):
+                    many.setdefault(part.name, set()).add(len(part.args.args))
+    return sorted(name for name in many if len(many[name]) > 1)
+
+
 def faults_of_package():
     """All faults found, as texts: file, line, what is wrong."""
     found = []
@@ -46,6 +57,8 @@ def faults_of_package():
     methods = own_methods(trees)
     for name in sorted(methods & attributes(trees)):
         found.append(f"{name} is a method and an attribute")
+    for name in unlike_methods(trees):
+        found.append(f"methods called {name} take unlike many arguments")
     for module, tree in trees.items():
         for line, fault in faults_of_tree(tree, trees, methods):
             found.append(f"{module}.py:{line}: {fault}")
