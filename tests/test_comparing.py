@@ -238,9 +238,7 @@ class ComparingTest(unittest.TestCase):
             for way, node in nodes(tree):
                 sides = sides_there(tree, way)
                 for thing in self.changes(node):
-                    found = told(self, judged_tree, program=program, other=other, steps=steps,
-                                 thing=put(tree, way, thing))
-                    self.assertEqual(shape(found), shape(sides))
+                    self.assertEqual(shape(judged_tree(program, other, steps, put(tree, way, thing))), shape(sides))
                 if node[0] == "equal":
                     self.assertEqual(judged_tree(program, other, steps, put(tree, way, node[3])), sides)
                 elif node[0] in ("one", "other"):
