@@ -26,9 +26,14 @@ def round_up(zone, ladder):
     if zone is None:
         return None
     things, bounds, rests = zone
-    rounded_bounds = {}
-    for pair in bounds:
-        rungs = [rung for rung in ladder if rung >= bounds[pair]]
-        if rungs:
-            rounded_bounds[pair] = rungs[0]
+    rungs = {pair: least_rung(ladder, bounds[pair]) for pair in bounds}
+    rounded_bounds = {pair: rungs[pair] for pair in rungs if rungs[pair] is not None}
     return list(things), rounded_bounds, {thing: tuple(rests[thing]) for thing in rests}
+
+
+def least_rung(ladder, bound):
+    """The least rung that is at least the bound, None if there is none."""
+    for rung in ladder:
+        if rung >= bound:
+            return rung
+    return None

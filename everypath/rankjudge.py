@@ -43,7 +43,8 @@ def found_ranking(program, paper, f, head, ladder):
         names = tuple(names_ranked(ranks))
         if names not in known:
             known[names] = RankedLoop(program, paper, f, head, ranks).least_cells(ladder)
-        if ranking_fault(program, paper, f, head, (ranks, known[names])) is None:
+        # what the cells demand of each other they hold, being the least ones
+        if ranks_fault(program.loops[f][head], ranks, known[names]) is None:
             return ranks, [{sides: copied(rows[sides]) for sides in rows} for rows in known[names]]
     return None
 
@@ -70,11 +71,16 @@ def ranking_fault(program, paper, f, head, thing):
             there = cells[place - head - 1].get(sides)
             if there is None or not lies_below(zone, there):
                 return origin
+    return ranks_fault(ranked.loop, ranks, cells)
+
+
+def ranks_fault(loop, ranks, cells):
+    """The first of the words (3) and (4) by which ranks with these cells are not taken, None if they are."""
     for sides, view in views_of(cells[0]):
         for index, rank in enumerate(ranks):
             if not is_at_most(view, ("sub", ("number", 0), rank), 0):
                 return "low", sides, index
-    for sides, view in views_of(cells[ranked.loop.last - head - 1]):
+    for sides, view in views_of(cells[loop.last - loop.head - 1]):
         if not falls(view, ranks):
             return "falls", sides
     return None
