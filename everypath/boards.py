@@ -1,9 +1,8 @@
 """Boards: rows of a ledger told by the t of a lattice, which holds the equalities among them."""
 
-from everypath.divisors import common_divisor, common_multiple
 from everypath.lattices import Lattice
 from everypath.ledgers import divided_row
-from everypath.multiples import add_multiples, dot, without_zeros
+from everypath.multiples import add_multiples, common_divisor, common_multiple, dot, without_zeros
 
 
 class Line:

@@ -4,9 +4,9 @@ A TREE is ("fact", number of a fact), ("and", tree, tree), or ("or", number of t
 dict from numbers of choices to 0 or 1.
 """
 
-from everypath.conditions import turned
 from everypath.plainforms import at_most
 from everypath.plainsums import plain_sum
+from everypath.trees import turned
 
 
 class Chooser:
@@ -110,3 +110,23 @@ def is_true(tree, table, worths):
     if tree[0] == "and":
         return is_true(tree[1], table, worths) and is_true(tree[2], table, worths)
     return is_true(tree[2], table, worths) or is_true(tree[3], table, worths)
+
+
+def facts_in(tree):
+    """All facts of a tree."""
+    found = []
+    waiting = [tree]
+    while waiting:
+        part = waiting.pop()
+        if part[0] == "fact":
+            found.append(part[1])
+        else:
+            waiting.extend(part[-2:])
+    return found
+
+
+def clauses_of(tree):
+    """The trees that have to hold all together where this one does, none of them an and."""
+    if tree[0] == "and":
+        return [*clauses_of(tree[1]), *clauses_of(tree[2])]
+    return [tree]

@@ -6,7 +6,7 @@ SLOTS, has to spare. Each sparing grown alone makes the unknowns greater, as lis
 least of all that its rows let.
 """
 
-from everypath.divisors import common_divisor, common_multiple
+from everypath.multiples import common_divisor, common_multiple
 
 
 class Corner:

@@ -1,9 +1,8 @@
 """Counting: how many lists of integers meet conditions, unknowns that do not hang together being counted apart."""
 
-from everypath.choices import is_true
+from everypath.choices import clauses_of, facts_in, is_true
 from everypath.deciding import check_conditions, check_ranges, grounds_of
 from everypath.lots import Lot
-from everypath.treefacts import clauses_of, facts_in
 
 
 def count(ranges, conditions):

@@ -2,7 +2,7 @@
 
 from everypath.branches import Branch
 from everypath.coverjudge import cover_fault
-from everypath.fartrails import far_trail_at_first
+from everypath.farwalks import far_trail_at_first
 from everypath.gathering import gathered
 from everypath.grounds import Grounds
 from everypath.leaps import check_leaps

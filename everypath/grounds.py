@@ -1,10 +1,8 @@
 """Conditions that come one behind another, over unknowns that do, and the least integers that meet them."""
 
-from everypath.choices import Chooser, is_true
-from everypath.denials import Denial
+from everypath.choices import Chooser, facts_in, is_true
 from everypath.facts import FactTable
-from everypath.pursuits import Pursuit
-from everypath.treefacts import facts_in
+from everypath.pursuits import Denial, Pursuit
 
 
 class Grounds:

@@ -4,8 +4,7 @@ Unknowns x are start + columns times t, t any integers, one for each column. The
 tells the t of its column, but for a constant. What a column that is no more free had is told by its HOLD.
 """
 
-from everypath.divisors import common_divisor, common_multiple
-from everypath.multiples import add_multiples, dot
+from everypath.multiples import add_multiples, common_divisor, common_multiple, dot
 
 
 class Hold:

@@ -7,9 +7,8 @@ from everypath.kinds import is_integer, is_list
 from everypath.programs import check_program
 from everypath.refusals import BadStates, BadWidth
 from everypath.runs import check_many
-from everypath.spreads import first_state, spread_of
-from everypath.states import (action_at, check_state, inputs_at, is_state, key_of, next_by, number_at, told_state,
-                              width_of)
+from everypath.states import (action_at, check_state, first_state, inputs_at, is_state, key_of, next_by, number_at,
+                              spread_of, told_state, width_of)
 
 
 def next_states(program, state, width):

@@ -4,8 +4,7 @@ A row is a pair (factors, bound), factors a dict from unknowns to factors other 
 numbers of rows to how often each of them is taken.
 """
 
-from everypath.divisors import common_divisor
-from everypath.multiples import add_multiples, without_zeros
+from everypath.multiples import add_multiples, common_divisor, without_zeros
 
 
 class Ledger:

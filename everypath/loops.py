@@ -1,9 +1,9 @@
 """Loops: the heads of functions, the places within their loops, and what may count the rounds down."""
 
-from everypath.conditions import turned
 from everypath.kinds import is_integer
 from everypath.programs import check_function
 from everypath.refusals import BadHead
+from everypath.trees import turned
 
 
 def heads(program, f):

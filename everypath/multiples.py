@@ -1,4 +1,6 @@
-"""Dicts from numbers to how often each of them is taken."""
+"""Dicts from numbers to how often each of them is taken, and common divisors of rows."""
+
+from math import gcd, lcm
 
 
 def add_multiples(multiples, others, times):
@@ -17,3 +19,20 @@ def dot(factors, column):
     for at in factors:
         total += factors[at] * column[at]
     return total
+
+
+def common_divisor(numbers):
+    """The greatest common divisor, 0 of none and of zeros alone."""
+    found = 0
+    for number in numbers:
+        found = gcd(found, number)
+        if found == 1:
+            break
+    return found
+
+
+def common_multiple(numbers):
+    found = 1
+    for number in numbers:
+        found = lcm(found, number)
+    return found

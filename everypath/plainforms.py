@@ -1,10 +1,9 @@
 """Plain expressions, and the facts one lot of which holds where a condition does."""
 
-from everypath.conditions import turned
 from everypath.errors import BadCondition, BadExpression
 from everypath.kinds import tupled
 from everypath.plainsums import plain_expression, plain_sum, written_sum
-from everypath.trees import is_condition, is_expression
+from everypath.trees import is_condition, is_expression, turned
 
 
 def plain(expression):

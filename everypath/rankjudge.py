@@ -1,14 +1,13 @@
 """The judge of rankings, how often loops go round by them, and rankings that are found."""
 
 from everypath.closing import close
+from everypath.folds import with_names
 from everypath.kinds import tupled
 from everypath.ladders import check_ladder
 from everypath.loops import leads_of
 from everypath.mosts import View
-from everypath.rankings import check_ranked
-from everypath.ranks import RankedLoop, are_ranks, begun_thing, is_ranking_of, names_ranked
+from everypath.rankings import RankedLoop, are_ranks, begun_thing, check_ranked, is_ranking_of, names_ranked
 from everypath.refusals import BadRanking, BadRanks, NotRanked
-from everypath.replacing import with_names
 from everypath.zonemath import copied, lies_below
 
 

@@ -1,7 +1,7 @@
 """The small judge of refutations of systems, which knows nothing of how they are found."""
 
-from everypath.divisors import common_divisor
 from everypath.kinds import is_integer, is_list, is_list_of, is_number
+from everypath.multiples import common_divisor
 
 
 def is_refuted_by(ranges, rows, thing):

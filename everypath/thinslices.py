@@ -1,9 +1,8 @@
 """Searches by slices: where cuts take long, by the values of a sum that has but few, each a search by itself."""
 
 from everypath.boards import Board
-from everypath.divisors import common_divisor
 from everypath.middles import SCALE, corners_around, measure_around, middle_of
-from everypath.multiples import add_multiples, dot, without_zeros
+from everypath.multiples import add_multiples, common_divisor, dot, without_zeros
 from everypath.reductions import Reduction
 from everypath.searches import Search
 

@@ -17,6 +17,7 @@ STATEMENTS = {"set": "te", "any": "tnn", "call": "tfE", "if": "cSS", "while": "c
 ACTIONS = {"set": "te", "any": "tnn", "call": "tfE", "assert": "c", "assume": "c", "print": "e", "return": "e",
            "when": "c", "skip": ""}
 PLAIN_KINDS = "ndrtf"
+TURNED_WORDS = {"eq": "ne", "ne": "eq"}
 
 
 def is_name(thing):
@@ -158,3 +159,19 @@ def told_statement(statement):
 
 def told_statements(statements):
     return [told_statement(statement) for statement in statements]
+
+
+def turned(condition):
+    """A condition with no not at its top that holds just where this one does not, nots being left right within."""
+    word = condition[0]
+    if word == "not":
+        return condition[1]
+    if word == "and":
+        return ("or", ("not", condition[1]), ("not", condition[2]))
+    if word == "or":
+        return ("and", ("not", condition[1]), ("not", condition[2]))
+    if word == "lt":
+        return ("le", condition[2], condition[1])
+    if word == "le":
+        return ("lt", condition[2], condition[1])
+    return (TURNED_WORDS[word], condition[1], condition[2])

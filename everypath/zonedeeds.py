@@ -1,12 +1,12 @@
 """What expressions, conditions and actions make of zones, without any checks of what is handed over."""
 
 from everypath.closing import close
-from everypath.conditions import turned
 from everypath.folds import added
+from everypath.forms import strip_over
 from everypath.mosts import View, high_end, name_terms
 from everypath.rests import ANY, rest_met
-from everypath.forms import strip_over
 from everypath.shipping import shipping_of
+from everypath.trees import turned
 from everypath.zonemath import join_zones, keep
 
 NOTHING = (0, ())
