@@ -5,7 +5,7 @@ SCALE = 1000000000000000000
 # a line leaves room for one by this at least
 LEAST_ROOM = 1000
 # how fine weights of lines are, the least one being the square of this
-FINE = 1000000
+FINE = 16
 
 
 def corners_around(board, corner):
