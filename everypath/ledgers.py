@@ -11,10 +11,12 @@ class Ledger:
     """All rows of a system, in their order, and those that came behind them.
 
     made has for each number the multipliers of the rows with lesser numbers whose sum the row is, None for one that
-    simply stands: a row of the system, or one that is let for a while.
+    simply stands: a row of the system, or one that is let for a while. slices_left is how many searches of slices are
+    let, None if as many as come.
     """
 
     def __init__(self, ranges, rows):
+        self.slices_left = None
         self.ranges = ranges
         self.first_range = len(rows)
         self.rows = all_rows(ranges, rows)

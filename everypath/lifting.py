@@ -1,4 +1,4 @@
-"""Refutations of the system of some facts, lists of multipliers, made into those of the system of more facts."""
+"""Refutations of the system of some facts made into those of the system of more facts."""
 
 
 class Places:
@@ -23,11 +23,13 @@ class Places:
         return found
 
 
-def used_facts(table, facts, lists):
-    """Facts the system of which has all that these lists, which refute that of facts, make use of."""
+def used_facts(table, facts, items):
+    """Facts the system of which has all that these items, which refute that of facts, make use of."""
     found = {}
     columns = {}
-    for row in rows_used(Places(table, facts).rows, lists):
+    own = Places(table, facts)
+    columns.update({own.columns[item[1]]: True for item in items if item[0] == "split"})
+    for row in rows_used(own.rows, [part for item in items if item[0] == "sums" for part in item[1]]):
         if row[0] == "fact":
             found[row[1]] = True
         else:
@@ -51,12 +53,18 @@ def rows_used(rows, lists):
     return list(found)
 
 
-def lifted(table, lists, facts, more):
-    """Lists that refute the system of facts, as those that refute the system of more, which has all that they use."""
-    rows = Places(table, facts).rows
+def lifted(table, items, facts, more):
+    """Items that refute the system of facts, as those that refute the system of more, which has all that they use."""
+    own = Places(table, facts)
     great = Places(table, more)
     places = great.first_places()
-    return [lifted_list(multipliers, rows, places, len(great.rows)) for multipliers in lists]
+    found = []
+    for item in items:
+        if item[0] == "split":
+            found.append(("split", great.columns.index(own.columns[item[1]]), item[2]))
+        else:
+            found.append(("sums", [lifted_list(part, own.rows, places, len(great.rows)) for part in item[1]]))
+    return found
 
 
 def lifted_list(multipliers, rows, places, many):

@@ -23,10 +23,10 @@ class Part:
 
 
 class Refuted:
-    """Lists of multipliers that refute the system of these facts, and those facts that they use."""
+    """Items that refute the system of these facts, and those facts that they use."""
 
-    def __init__(self, lists, facts, used):
-        self.lists = lists
+    def __init__(self, items, facts, used):
+        self.items = items
         self.facts = facts
         self.used = used
 
@@ -122,8 +122,7 @@ class Denial:
         missing = [fact for fact in part.refutation.used if fact not in facts]
         if missing:
             return self.deny_all(part, taken, self.owner(part, taken, missing[0]))
-        lists = lifted(self.table, part.refutation.lists, part.refutation.facts, facts)
-        return ("rows", [("sums", lists)])
+        return ("rows", lifted(self.table, part.refutation.items, part.refutation.facts, facts))
 
     def deny_all(self, part, taken, index):
         """The refutation by all alternatives of a condition."""

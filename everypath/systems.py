@@ -23,29 +23,22 @@ def is_none(system, thing):
 
 def solved(system):
     check_system(system)
-    return with_refutation(least_values(system[0], system[1]))
+    return least_values(system[0], system[1])
 
 
 def least_of(system, factors):
     check_system(system)
     check_factors(system, factors)
-    return with_refutation(least_sum(system[0], system[1], factors))
+    return least_sum(system[0], system[1], factors)
 
 
 def greatest_of(system, factors):
     check_system(system)
     check_factors(system, factors)
-    told = with_refutation(least_sum(system[0], system[1], [-factor for factor in factors]))
+    told = least_sum(system[0], system[1], [-factor for factor in factors])
     if told[0] == "none":
         return told
     return "greatest", -told[1], told[2], told[3]
-
-
-def with_refutation(told):
-    """What is told, a refutation standing in the place of its lists of multipliers, which are the last thing in it."""
-    if told[0] == "values":
-        return told
-    return (*told[:-1], [("sums", told[-1])])
 
 
 def is_system(thing):

@@ -11,7 +11,14 @@ CUTS = 100
 
 
 def some_values(ledger, numbers):
-    """("values", values) of some that meet these rows, or ("none", multipliers of rows whose sum lets nothing)."""
+    """("values", values) of some that meet these rows, or ("none", multipliers of rows whose sum lets nothing).
+
+    ("late", None) if more searches are needed than are let.
+    """
+    if ledger.slices_left is not None:
+        if ledger.slices_left == 0:
+            return "late", None
+        ledger.slices_left -= 1
     board = Board(ledger, numbers)
     board.stand(functionals_of(board))
     search = Search(board)
@@ -56,14 +63,14 @@ def is_met_at(board, numbers):
 
 
 def without_slice(search, numbers):
-    """Searches the first slice: tells values, or ("none", multipliers), or ("row", number) of what leaves it out."""
+    """Searches the first slice: tells what some_values does, or ("row", number) of what leaves it out."""
     board = search.board
     ledger = board.ledger
     low = board.write(search.lowest_line())
     factors, bound = ledger.rows[low]
     high = ledger.put(({at: -factors[at] for at in factors}, -bound), None)
     kind, found = some_values(ledger, [*numbers, low, high])
-    if kind == "values":
+    if kind != "none":
         return kind, found
     return lifted(ledger, found, low, high)
 

@@ -87,25 +87,36 @@ class SystemsTest(unittest.TestCase):
                 self.assertIs(is_none((ranges, [*rows, row]), found[3]), True)
 
     def test_slices_alone(self):
-        """Where no cuts are let, all is found by slices."""
+        """Where no cuts and no narrowed ranges are let, all is found by slices."""
         source = random.Random(5)
-        none = 0
         for _ in range(150):
-            system = random_system(source)
-            all_values = values_of(system)
-            factors = [source.randrange(-6, 7) for _ in system[0]]
-            with mock.patch.object(solving, "CUTS", 0), mock.patch.object(thinslices, "CUTS", source.randrange(3)):
-                found = solved(system)
-                least = least_of(system, factors)
-            if all_values:
-                self.assertEqual(found, ("values", all_values[0]))
-                n = least[1]
-                self.assertEqual(n, min(sum(f * x for f, x in zip(factors, values)) for values in all_values))
-                self.assertIs(is_none((system[0], [*system[1], (factors, n - 1)]), least[3]), True)
-            else:
-                none += 1
-                self.assertIs(is_none(system, found[1]), True)
-        self.assertTrue(40 < none < 120)
+            with mock.patch.object(solving, "CUTS", 0), mock.patch.object(solving, "FEW_LOOKS", -1), \
+                    mock.patch.object(solving, "MANY_LOOKS", -1), \
+                    mock.patch.object(thinslices, "CUTS", source.randrange(3)):
+                self.found_and_least(source)
+
+    def test_narrowed_ranges_alone(self):
+        """Where no cuts and no slices are let first, nearly all is found by narrowed ranges."""
+        source = random.Random(8)
+        with mock.patch.object(solving, "CUTS", 0), mock.patch.object(solving, "FEW_SLICES", 0):
+            for _ in range(200):
+                self.found_and_least(source)
+
+    def found_and_least(self, source):
+        """Checks what is told of a random system."""
+        system = random_system(source)
+        all_values = values_of(system)
+        factors = [source.randrange(-6, 7) for _ in system[0]]
+        found = solved(system)
+        least = least_of(system, factors)
+        if all_values:
+            self.assertEqual(found, ("values", all_values[0]))
+            n = least[1]
+            self.assertEqual(n, min(sum(f * x for f, x in zip(factors, values)) for values in all_values))
+            self.assertIs(is_none((system[0], [*system[1], (factors, n - 1)]), least[3]), True)
+        else:
+            self.assertIs(is_none(system, found[1]), True)
+            self.assertIs(is_none(system, least[1]), True)
 
     def test_thin_bands(self):
         """Eight unknowns, five sums of which have two values each: cuts alone would take very long."""
