@@ -92,6 +92,13 @@ class CoversTest(unittest.TestCase):
                              [(one, first[one]) for one in assertions(program) if one in first])
         self.assertGreater(gone, 25)
 
+    def test_broken_in_the_order_of_assertions(self):
+        program = program_in("""def main() { x = any(0, 3); y = b(x); y = a(x); if x > 1 { assert x == 9; } return y; }
+                                def b(k) { assert k != 1; return k; } def a(k) { assert k != 0; assert k != 1; }""")
+        one, two, three, four = assertions(program)
+        self.assertEqual(told(self, broken, program=program, steps=40, many=9), [(one, [2]), (two, [1]), (three, [0])])
+        self.assertEqual(four[0], "a")
+
     def test_many(self):
         for program, steps in ((p_program(), 9), (RECURS, 60), (LOOP, 40)):
             many = len(paths(program, steps, 1000))

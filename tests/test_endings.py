@@ -117,6 +117,11 @@ class EndingsTest(unittest.TestCase):
             self.assertLessEqual(len(played(EVEN, inputs, 300)[1]), found)
         why = judged_depths(EVEN, paper, {**DEPTHS, "odd": add(name("k"), num(1))})
         self.assertEqual(why[:2], ("deep", "even"))
+        self.assertEqual(judged_depths(EVEN, paper, {**DEPTHS, "even": num(0), "odd": num(0)})[1], "even")
+        parted = taken_paper(EVEN, LADDER, {"even": [("n", 2)], "odd": [("k", 1)]})
+        self.assertIsNone(judged_depths(EVEN, parted, DEPTHS))
+        self.assertEqual(judged_depths(EVEN, parted, {**DEPTHS, "even": num(1)})[:2], ("deep", "even"))
+        self.assertEqual(judged_depths(EVEN, parted, {**DEPTHS, "even": num(1)})[3], (1,))
         why = judged_depths(EVEN, paper, {**DEPTHS, "even": add(name("n"), num(1))})
         self.assertEqual(why[:2], ("deep", "odd"))
 

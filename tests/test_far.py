@@ -345,6 +345,15 @@ class FarPathsTest(unittest.TestCase):
         self.assertIsNone(judged_far(R, 0, ("path", [])))
         self.assertEqual(far_longest(main_of(""), 1, 1), (0, []))
 
+    def test_endless_ones_ascending(self):
+        program = program_in("""def main() { x = any(0, 3); if x < 1 { y = b(x); } if x < 3 { y = a(x); } while x > 2 { }
+                                while x > 1 { y = 0; } return x; } def b(k) { while k <= 0 { k = k - 1; } return k; }
+                                def a(k) { if k > 1 { while 0 < 1 { } } while k >= 0 { k = k + 1; } return k; }""")
+        first, second = heads(program, "a")
+        self.assertEqual(told(self, endless, program=program, leaps=30, many=30), [
+            ("a", first, [2]), ("a", second, [1]), ("b", heads(program, "b")[0], [0]),
+            ("main", heads(program, "main")[0], [3])])
+
     def test_no_run_stops(self):
         program = main_of("x = any(0, 3); while 0 <= x { x = x + 1; }")
         self.assertEqual(far_paths(program, 9, 9), [([2], ("endless", "main", 3), [0])])

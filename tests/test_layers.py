@@ -166,6 +166,33 @@ class LayersTest(unittest.TestCase):
         self.assertEqual(layers(program, 50, 10)[0], ("closed",))
         self.assertIsNone(way_to(program, [("main", 4, {"x": 0, "y": 0, "z": 0})], 50, 5))
 
+    def test_wide_ones_of_several_functions(self):
+        program = program_in("""def main() { x = any(0, 1); if x == 0 { y = any(0, 9); } else { x = a(); y = b(); } }
+                                def b() { z = any(0, 9); return z; } def a() { z = 1; z = any(0, 9); return z; }""")
+        self.assertEqual(layers(program, 50, 9)[0], ("wide", "main", 2))
+        program = program_in("""def main() { x = any(0, 1); if x == 0 { y = b(); } else { y = a(); } }
+                                def b() { z = any(0, 9); return z; } def a() { z = any(0, 9); return z; }""")
+        why, found = layers(program, 50, 9)
+        self.assertEqual((why, [len(layer) for layer in found]), (("wide", "a", 0), [1, 2, 2, 2]))
+
+    def test_ways_of_layers_that_are_not_told(self):
+        _, found = layers(EXAMPLE, 21, 3)
+        for at, layer in enumerate(found):
+            for state in layer:
+                told_way = way_to(EXAMPLE, state, 16, 3)
+                self.assertEqual(told_way, way_to(EXAMPLE, state, 21, 3) if at < 6 else None)
+        self.assertIsNone(first_break(EXAMPLE, ("main", 6), 16, 3))
+
+    def test_assertions_in_their_order(self):
+        program = program_in("def main() { x = 0; assert x == 1; assert x == 2; y = a(); } def a() { z = 3; assert z == 1; }")
+        at = {edge: edges(program, edge[0])[edge[1]][0] for edge in assertions(program)}
+        states = [[("main", at[edge], {"x": 0, "y": 0})] for edge in assertions(program) if edge[0] == "main"]
+        call = [edge[0] for edge in edges(program, "main") if edge[2][0] == "call"][0]
+        inner = [[("main", call, {"x": 0, "y": 0}), ("a", at[edge], {"z": 3})] for edge in assertions(program)
+                 if edge[0] == "a"]
+        self.assertEqual(broken_in(program, inner + states[::-1]), assertions(program))
+        self.assertEqual([f for f, _ in assertions(program)], ["main", "main", "a"])
+
     def test_breaks(self):
         program = main_of("x = any(0, 3); if x == 3 { assert x == 0; } x = x + 0; assert x != 2; assert x < 3;")
         numbers = [number for _, number in assertions(program)]
