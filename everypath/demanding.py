@@ -66,10 +66,21 @@ def parts_of_zone(zone, cuts):
         return []
     found = []
     for sides in rows_of(cuts):
-        part = close(with_sides(zone, cuts, sides))
-        if part is not None:
-            found.append((sides, part))
+        part = with_sides(zone, cuts, sides)
+        shut = None if is_crossed(part, cuts) else close(part)
+        if shut is not None:
+            found.append((sides, shut))
     return found
+
+
+def is_crossed(zone, cuts):
+    """Whether a thing of the cuts is bound below what it is bound to from below: then nothing is left of the zone."""
+    bounds = zone[1]
+    for thing, _ in cuts:
+        pair, back = (thing, "0"), ("0", thing)
+        if pair in bounds and back in bounds and bounds[pair] + bounds[back] < 0:
+            return True
+    return False
 
 
 def rows_of(cuts):
