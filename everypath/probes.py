@@ -46,7 +46,7 @@ class Probe:
 
     notes: for each reason behind the rows either None, for a split, or (row, unknown, reasons of the ends that the
     others in the row have); gone: what was made of all parts so far, in their order: ("split", unknown, integer) or
-    a Leaf; values: what is found.
+    a Leaf; found: the values, as soon as there are some.
     """
 
     def __init__(self, ranges, rows):
@@ -60,14 +60,14 @@ class Probe:
         self.notes = []
         self.gone = []
         self.looks = 0
-        self.values = None
+        self.found = None
         low_by = [len(rows) + 2 * at for at in range(len(ranges))]
         self.parts = [Part([low for low, _ in ranges], [high for _, high in ranges], low_by,
                            [reason + 1 for reason in low_by], list(range(len(rows))), [])]
 
     def is_settled(self, looks):
         """Goes on until values are found or all is refuted; False if more rows than that have to be looked at."""
-        while self.parts and self.values is None:
+        while self.parts and self.found is None:
             if self.looks > looks:
                 return False
             self.visit(self.parts.pop())
@@ -84,9 +84,9 @@ class Probe:
         if fault is not None:
             self.gone.append(Leaf(part.splits, fault, self.ends_at(part, fault)))
         elif at is None:
-            self.values = part.low
+            self.found = part.low
         else:
-            self.split(part, at)
+            self.halve(part, at)
 
     def narrow_all(self, part):
         """Narrows the ranges by all rows that wait; the number of a row that cannot be met, None if there is none."""
@@ -131,7 +131,7 @@ class Probe:
         """The reasons of those ends of the unknowns of a row at which its sum is least."""
         return [part.low_by[at] if factor > 0 else part.high_by[at] for at, factor in self.rows[number][0]]
 
-    def split(self, part, at):
+    def halve(self, part, at):
         """Parts a part in the middle of the range of an unknown."""
         middle = (part.low[at] + part.high[at]) // 2
         self.gone.append(("split", at, middle))
@@ -194,7 +194,7 @@ def probed_values(ranges, rows, looks):
     probe = Probe(ranges, rows)
     if not probe.is_settled(looks):
         return None
-    if probe.values is not None:
-        return "values", probe.values
+    if probe.found is not None:
+        return "values", probe.found
     items = probe.told_items()
     return None if items is None else ("none", items)

@@ -26,7 +26,7 @@ class Refuted:
     """Items that refute the system of these facts, and those facts that they use."""
 
     def __init__(self, items, facts, used):
-        self.items = items
+        self.proof = items
         self.facts = facts
         self.used = used
 
@@ -122,7 +122,7 @@ class Denial:
         missing = [fact for fact in part.refutation.used if fact not in facts]
         if missing:
             return self.deny_all(part, taken, self.owner(part, taken, missing[0]))
-        return ("rows", lifted(self.table, part.refutation.items, part.refutation.facts, facts))
+        return ("rows", lifted(self.table, part.refutation.proof, part.refutation.facts, facts))
 
     def deny_all(self, part, taken, index):
         """The refutation by all alternatives of a condition."""

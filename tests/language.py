@@ -27,6 +27,11 @@ BARRED_NODES = (ast.GeneratorExp, ast.Yield, ast.YieldFrom, ast.NamedExpr, ast.A
                 ast.Global, ast.Nonlocal, ast.With, ast.Try, ast.Match, ast.Assert)
 
 
+# what no attribute may be called: what builtin values have, but for these
+TAKEN_NAMES = {name for kind in (str, int, list, dict, set, bytes) for name in dir(kind)} - {
+    "count", "index", "title", "find", "get", "join", "lower", "upper", "split", "strip", "copy", "add"}
+
+
 def package_files():
     return sorted(name for name in os.listdir(FOLDER) if name != "__pycache__")
 
@@ -57,6 +62,8 @@ def faults_of_package():
     methods = own_methods(trees)
     for name in sorted(methods & attributes(trees)):
         found.append(f"{name} is a method and an attribute")
+    for name in sorted(attributes(trees) & TAKEN_NAMES):
+        found.append(f"{name} is a method of builtin values and an attribute")
     for name in unlike_methods(trees):
         found.append(f"methods called {name} take unlike many arguments")
     for module, tree in trees.items():
