@@ -20,10 +20,13 @@ class Closing:
 
     def is_emptied(self):
         """Whether one of the deeds says that it is empty."""
-        for _ in range(2):
-            if not self.rounds_bounds() or not self.sums_bounds() or not self.sharpens_rests():
-                return True
-        return False
+        before = self.rests
+        if not self.rounds_bounds() or not self.sums_bounds() or not self.sharpens_rests():
+            return True
+        # where only this holds the deeds change nothing when they are done again
+        if self.rests == before and all([rest[0] <= 1 for rest in before]):
+            return False
+        return not self.rounds_bounds() or not self.sums_bounds() or not self.sharpens_rests()
 
     def rounds_bounds(self):
         """Deed A; False if it is empty."""

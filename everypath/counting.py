@@ -1,4 +1,9 @@
-"""Counting: how many lists of integers meet conditions, unknowns that do not hang together being counted apart."""
+"""Counting: how many lists of integers meet conditions, unknowns that do not hang together being counted apart.
+
+A FRACTION is a pair of integers without a common divisor, the second one above 0.
+"""
+
+from math import gcd
 
 from everypath.choices import clauses_of, facts_in, is_true
 from everypath.deciding import check_conditions, check_ranges, grounds_of
@@ -41,3 +46,26 @@ def put_together(lots, columns):
             merged = sorted([*lots[columns[0]], *lots[column]])
             for each in merged:
                 lots[each] = merged
+
+
+def fraction(n, d):
+    """n over d in lowest terms, d being above 0."""
+    common = gcd(n, d)
+    return n // common, d // common
+
+
+def added_chances(chances):
+    """The sum of fractions."""
+    n, d = 0, 1
+    for more, by in chances:
+        n, d = fraction(n * by + more * d, d * by)
+    return n, d
+
+
+def chance_by(grounds):
+    """The chance that the conditions of some grounds are met by integers drawn from their ranges."""
+    clauses = [clause for tree in grounds.trees for clause in clauses_of(tree)]
+    width = 1
+    for low, high in grounds.table.ranges:
+        width *= high - low + 1
+    return fraction(count_clauses(grounds.table, clauses), width)

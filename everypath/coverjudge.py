@@ -6,20 +6,27 @@ from everypath.kinds import are_integers, is_list_of
 
 def cover_fault(branch, thing):
     """The first list of sides at which it is no cover of all that goes on from a branch; None if it is one."""
+    return judged_branches(branch, thing)[0]
+
+
+def judged_branches(branch, thing):
+    """The fault of a cover, and the branches that go no further, as far as they were gone through."""
     if not is_node_there(branch, thing):
-        return list(branch.trail.sides)
+        return list(branch.trail.sides), []
+    found = [] if branch.trail.wants_side() else [branch]
     waiting = parts_to_judge(branch, thing)
     while waiting:
         fork, part = waiting.pop()
         if is_list_of(part, 2) and part[0] == "never":
             if not refutes(fork.grounds.table, fork.grounds.trees, {}, part[1]):
-                return list(fork.trail.sides)
+                return list(fork.trail.sides), found
         else:
             behind = fork.gone_on()
             if not is_node_there(behind, part):
-                return list(fork.trail.sides)
+                return list(fork.trail.sides), found
+            found.extend([] if behind.trail.wants_side() else [behind])
             waiting.extend(parts_to_judge(behind, part))
-    return None
+    return None, found
 
 
 def parts_to_judge(branch, node):

@@ -45,7 +45,17 @@ def broken(program, steps, many):
 
 def checked_gathering(program, steps, many):
     """The gathering of all paths, None for too many, behind the refusals."""
+    check_paths(program, steps, many)
+    return all_paths(program, steps, many)
+
+
+def check_paths(program, steps, many):
+    """The refusals of a program, a number of steps and one of paths."""
     check_program(program)
     check_steps(steps)
     check_many(many)
+
+
+def all_paths(program, steps, many):
+    """The gathering of all paths, None for too many."""
     return gathered(branch_at_first(program, steps), many)

@@ -2,6 +2,7 @@
 
 from everypath.closing import close
 from everypath.folds import with_names
+from everypath.graphs import functions_reached
 from everypath.kinds import is_integer, is_text, tupled
 from everypath.mosts import View
 from everypath.papers import is_by_function, start_thing
@@ -81,21 +82,6 @@ class Costs:
 def added_up(costs):
     """The sum of costs, None if one of them is not told."""
     return None if None in costs else sum(costs)
-
-
-def functions_reached(program):
-    """For each function a dict of those that it calls, at once or through others."""
-    called = {f: [edge[2][2] for edge in program.edges[f] if edge[2][0] == "call"] for f in program.edges}
-    found = {}
-    for f in called:
-        found[f] = {}
-        waiting = list(called[f])
-        while waiting:
-            g = waiting.pop()
-            if g not in found[f]:
-                found[f][g] = True
-                waiting.extend(called[g])
-    return found
 
 
 def judged_depths(program, paper, depths):

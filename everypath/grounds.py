@@ -63,13 +63,17 @@ class Grounds:
         """
         if is_true(self.trees[index], self.table, self.table.worths(self.inputs)):
             return None
+        return self.meet_toward(index, many, {})
+
+    def meet_toward(self, index, many, toward):
+        """As meet_condition, but with the sum of unknowns times the factors toward, by columns, least first of all."""
         active = self.hanging_together(index, many)
-        pursuit = Pursuit(self.table, self.trees, active, {})
+        pursuit = Pursuit(self.table, self.trees, active, toward)
         numbers = pursuit.least()
         if numbers is None:
             return pursuit
-        for index in active:
-            for column in self.reads[index]:
+        for at in active:
+            for column in self.reads[at]:
                 self.inputs[column] = numbers[column]
         return None
 

@@ -4,60 +4,88 @@ from everypath.trees import told_statement
 
 
 class Layout:
-    """The places and edges of a function while its statements are laid one behind another, and its loops by heads."""
+    """The places and edges of a function while its statements are laid one behind another.
+
+    spots: those of its statements, loops: its loops by heads.
+    """
 
     def __init__(self):
         self.places = 2
         self.edges = []
+        self.spots = []
         self.loops = {}
 
     def new_place(self):
         self.places += 1
         return self.places - 1
 
-    def lay_edge(self, start, end, action):
+    def lay_edge(self, start, end, action, spot):
+        spot.numbers.append(len(self.edges))
         self.edges.append((start, end, action))
 
-    def lay_on(self, start, action):
+    def lay_on(self, start, action, spot):
         """Lays an edge to a new place and tells this place."""
         end = self.new_place()
-        self.lay_edge(start, end, action)
+        self.lay_edge(start, end, action, spot)
         return end
 
-    def lay_all(self, statements, place):
-        """Lays them from this place on and tells the place at which they end."""
+    def lay_all(self, statements, place, spots):
+        """Lays them from this place on, puts their spots behind the others, and tells the place at which they end."""
         for statement in statements:
-            place = self.lay(statement, place)
+            spot = Spot(statement, place)
+            spots.append(spot)
+            place = self.lay(spot)
         return place
 
-    def lay(self, statement, place):
-        word = statement[0]
+    def lay(self, spot):
+        word = spot.statement[0]
         if word == "return":
-            self.lay_edge(place, 1, statement)
+            self.lay_edge(spot.place, 1, spot.statement, spot)
             return self.new_place()
         if word == "if":
-            return self.lay_if(statement, place)
+            return self.lay_if(spot)
         if word == "while":
-            return self.lay_while(statement, place)
-        return self.lay_on(place, statement)
+            return self.lay_while(spot)
+        return self.lay_on(spot.place, spot.statement, spot)
 
-    def lay_if(self, statement, place):
-        condition = statement[1]
-        one = self.lay_all(statement[2], self.lay_on(place, ("when", condition)))
-        other = self.lay_all(statement[3], self.lay_on(place, ("when", ("not", condition))))
-        behind = self.lay_on(one, ("skip",))
-        self.lay_edge(other, behind, ("skip",))
+    def lay_if(self, spot):
+        _, condition, ones, others = spot.statement
+        one = self.lay_all(ones, self.lay_on(spot.place, ("when", condition), spot), spot.new_list())
+        not_so = ("when", ("not", condition))
+        other = self.lay_all(others, self.lay_on(spot.place, not_so, spot), spot.new_list())
+        behind = self.lay_on(one, ("skip",), spot)
+        self.lay_edge(other, behind, ("skip",), spot)
         return behind
 
-    def lay_while(self, statement, place):
-        condition = statement[1]
-        head = self.lay_on(place, ("skip",))
-        loop = Loop(head, statement)
+    def lay_while(self, spot):
+        _, condition, statements = spot.statement
+        head = self.lay_on(spot.place, ("skip",), spot)
+        spot.asked_at = head
+        loop = Loop(head, spot.statement)
         self.loops[head] = loop
-        loop.last = self.lay_all(statement[2], self.lay_on(head, ("when", condition)))
-        self.lay_edge(loop.last, head, ("skip",))
-        loop.behind = self.lay_on(head, ("when", ("not", condition)))
+        loop.last = self.lay_all(statements, self.lay_on(head, ("when", condition), spot), spot.new_list())
+        self.lay_edge(loop.last, head, ("skip",), spot)
+        loop.behind = self.lay_on(head, ("when", ("not", condition)), spot)
         return loop.behind
+
+
+class Spot:
+    """Where a statement stands: the place from which it is laid, the one at which it asks or reads, its edges.
+
+    numbers: those of its own edges, in the order in which they are made; inner: the spots of each list within it.
+    """
+
+    def __init__(self, statement, place):
+        self.statement = statement
+        self.place = place
+        self.asked_at = place
+        self.numbers = []
+        self.inner = []
+
+    def new_list(self):
+        """One list of spots more within it."""
+        self.inner.append([])
+        return self.inner[-1]
 
 
 class Loop:
@@ -78,8 +106,8 @@ class Loop:
 def laid_out(statements):
     """The layout of a function with these statements."""
     layout = Layout()
-    last = layout.lay_all(statements, 0)
-    layout.lay_edge(last, 1, ("return", ("number", 0)))
+    last = layout.lay_all(statements, 0, layout.spots)
+    layout.edges.append((last, 1, ("return", ("number", 0))))
     return layout
 
 

@@ -1,13 +1,13 @@
 """Programs: functions that fit together."""
 
-from everypath.errors import BadFunctions, BadName, BadProgram
-from everypath.kinds import is_list, is_list_of, is_text, tupled
+from everypath.errors import BadFunctions, BadName, BadPlace, BadProgram
+from everypath.kinds import is_integer, is_list, is_list_of, is_text, tupled
 from everypath.layouts import laid_out, starting
 from everypath.trees import is_name, is_tree, leaves_of, statements_in, told_statements
 
 
 class Program:
-    """Functions, kept as tuples throughout, with what is made of them once: names, places, edges, loops."""
+    """Functions, kept as tuples throughout, with what is made of them once: names, places, edges, loops, spots."""
 
     def __init__(self, functions):
         index = first_fault(functions)
@@ -20,11 +20,13 @@ class Program:
         self.edges = {}
         self.starts = {}
         self.loops = {}
+        self.spots = {}
         for name, params, statements in self.trees:
             self.params[name] = params
             self.names[name] = [*params, *other_names(params, statements)]
             layout = laid_out(statements)
             self.places[name], self.edges[name], self.loops[name] = layout.places, layout.edges, layout.loops
+            self.spots[name] = layout.spots
             self.starts[name] = starting(layout.places, layout.edges)
 
     def functions(self):
@@ -54,6 +56,12 @@ def check_function(program, f):
     check_program(program)
     if not is_function_of(program, f):
         raise BadName(f)
+
+
+def check_place(program, f, place):
+    """The refusal of what is no place of this right function."""
+    if not is_integer(place) or not 0 <= place < program.places[f]:
+        raise BadPlace(place)
 
 
 def first_fault(functions):

@@ -11,7 +11,7 @@ BUILTINS = ("len range enumerate zip min max sum abs sorted reversed int str boo
             "repr any all divmod ValueError KeyError True False None").split()
 METHODS = ("append clear copy count endswith extend find get index insert isalnum isalpha isdigit items join keys "
            "lower lstrip partition pop remove replace reverse rfind rstrip setdefault split startswith strip update "
-           "upper values bit_length").split()
+           "upper values zfill isupper bit_length").split()
 BARRED_NAMES = ("register mro elements open input law version_info attrgetter breakpoint builtins compile copyright "
                 "credits delattr dir eval exec exit gc getattr globals hasattr help id importlib license locals os "
                 "methodcaller quit setattr super type vars sys format args").split()
