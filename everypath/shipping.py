@@ -114,6 +114,8 @@ def shipping_of(bounds, terms, nodes):
 def cost_of(bounds, terms):
     """The cost of terms, pairs (thing, factor); None if there is none."""
     sources, sinks = balanced(terms)
+    if len(sources) == 2 and len(sinks) == 2:
+        return cost_of_four(bounds, sources, sinks)
     if len(sources) > 1 and len(sinks) > 1:
         return shipping_of(bounds, terms, ["0", *[thing for thing, _ in terms]]).cost()
     total = 0
@@ -123,6 +125,20 @@ def cost_of(bounds, terms):
                 return None
             total += min(units, asked) * bounds[(at, to)]
     return total
+
+
+def cost_of_four(bounds, sources, sinks):
+    """The cost from two things to two others: with as much as can be, or as little, from the first to the first."""
+    (one, units), (two, more) = sources
+    (first, asked), (second, left) = sinks
+    costs = []
+    for part in (min(units, asked), max(0, units - left)):
+        shipped = {(one, first): part, (one, second): units - part, (two, first): asked - part}
+        shipped[(two, second)] = more - asked + part
+        used = [pair for pair in shipped if shipped[pair] > 0]
+        if all([pair in bounds for pair in used]):
+            costs.append(sum([shipped[pair] * bounds[pair] for pair in used]))
+    return min(costs, default=None)
 
 
 def balanced(terms):

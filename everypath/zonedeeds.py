@@ -116,20 +116,53 @@ def hold_at_most(zone, one, other):
 
 
 def sharpen(zone, form):
-    """Lessens the bounds of a closed zone by those that follow from the form being at least 0."""
+    """Lessens the bounds of a closed zone by those that follow from the form, whose most is not below 0, being so."""
     end = high_end(form)
-    if end is None:
-        return
     terms = name_terms(form)
-    times = sorted(set([1, *[abs(factor) for _, factor in terms]]))
+    if end is None or not terms:
+        return
     bounds = {pair: zone[1][pair] for pair in zone[1]}
     nodes = ["0", *zone[0]]
+    ends = difference_of(terms)
+    found = by_difference(bounds, nodes, ends, end) if ends is not None else by_shipping(bounds, nodes, terms, end)
+    for pair in found:
+        zone[1][pair] = min(found[pair], bounds.get(pair, found[pair]))
+
+
+def difference_of(terms):
+    """The things (x, y), or "0", of which terms are the difference x - y; None if they are none."""
+    ends = {1: "0", -1: "0"}
+    for thing, factor in terms:
+        if ends.get(factor) != "0":
+            return None
+        ends[factor] = thing
+    return ends[1], ends[-1]
+
+
+def by_difference(bounds, nodes, ends, end):
+    """The bounds of pairs (u, v) if x - y is at least -end: u goes to y and x to v, as all else is no less."""
+    x, y = ends
+    found = {}
+    for u in nodes:
+        first = 0 if u == y else bounds.get((u, y))
+        for v in nodes:
+            second = 0 if v == x else bounds.get((x, v))
+            if u != v and first is not None and second is not None:
+                found[(u, v)] = end + first + second
+    return found
+
+
+def by_shipping(bounds, nodes, terms, end):
+    """The bounds of pairs (u, v) if terms and end together are at least 0."""
+    times = sorted(set([1, *[abs(factor) for _, factor in terms]]))
     shipped = shipping_of(bounds, terms, nodes)
+    found = {}
     for u in nodes:
         for v in nodes:
             bound = None if u == v else least_by(shipped.copied(), u, v, times, end)
             if bound is not None:
-                zone[1][(u, v)] = min(bound, bounds.get((u, v), bound))
+                found[(u, v)] = bound
+    return found
 
 
 def least_by(shipping, u, v, times, end):
