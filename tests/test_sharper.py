@@ -85,7 +85,7 @@ class SharperTest(unittest.TestCase):
         paper[3]["main"][3] = {(): (["x"], {}, {"x": (1, 0)})}
         paper[2]["main"] = (["="], {}, {"=": (1, 0)})
         self.assertIsNone(judged(NEVER, paper))
-        found = narrowed(NEVER, paper, 3)
+        found = narrowed(NEVER, paper, 5)
         self.assertEqual((found[2]["f"], found[2]["main"], found[3]["main"][2]), (None, None, {}))
 
     def test_every_run_lies_in_narrowed_ones(self):
