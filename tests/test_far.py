@@ -15,7 +15,7 @@ from everypath.paths import followed
 from everypath.programs import Program
 from everypath.refusals import BadLeaps, BadMany
 from everypath.runs import played
-from tests.helpers import X, add, any_objects, lt, name, no, num, p_program, program_of, refused, shape, sub, times, told
+from tests.helpers import X, add, any_objects, lt, name, no, num, p_program, program_of, refused, shape, times, told
 from tests.samples import any_range
 from tests.test_covers import nodes, put
 from tests.test_forms import value_of

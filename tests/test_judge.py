@@ -13,7 +13,7 @@ from everypath.programs import Program
 from everypath.runs import played
 from everypath.zones import closed, is_below, is_in, met
 from everypath.zonesteps import stepped
-from tests.helpers import X, any_objects, num, program_of, refused, shape, told, tupled_all
+from tests.helpers import X, any_objects, refused, shape, told, tupled_all
 from tests.samples import all_runs, empty, taken_paper
 from tests.test_paths import random_program
 from tests.texts import main_of, program_in

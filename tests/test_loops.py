@@ -6,7 +6,7 @@ import unittest
 
 from everypath.callsteps import come_back
 from everypath.errors import BadLadder, BadName, BadPaper, BadProgram
-from everypath.graphs import edges, places
+from everypath.graphs import edges
 from everypath.judge import judged
 from everypath.ladders import rounded
 from everypath.loops import heads, inner_places, leads
@@ -19,7 +19,7 @@ from everypath.runs import played
 from everypath.zonemath import join_zones
 from everypath.zones import closed, is_below, renamed
 from everypath.zonesteps import drawn, most, stepped, when
-from tests.helpers import X, add, any_objects, name, num, p_program, refused, shape, sub, times, told
+from tests.helpers import X, any_objects, name, num, p_program, refused, shape, sub, times, told
 from tests.samples import all_runs, empty, taken_paper
 from tests.test_judge import parted
 from tests.test_ladders import NOT_LADDERS

@@ -10,7 +10,7 @@ from everypath.papertexts import paper_text, read_paper
 from everypath.programs import Program
 from tests.helpers import any_objects, refused, shape, told
 from tests.samples import empty
-from tests.test_judge import CALLS, LADDER, SMALL, small_paper
+from tests.test_judge import CALLS, SMALL, small_paper
 from tests.test_loops import paper_of
 from tests.zonesamples import random_zone
 from tests.texts import main_of, program_in

@@ -11,10 +11,10 @@ from everypath.programs import Program
 from everypath.refusals import BadRounds, NotTaken
 from everypath.runs import played
 from everypath.sharper import is_sharper, narrowed, rows_at, stands_from, uncut
-from tests.helpers import any_objects, p_program, refused, shape, told
+from tests.helpers import any_objects, refused, shape, told
 from tests.samples import all_runs, empty
-from tests.test_judge import CALLS, LADDER, SMALL, small_paper
-from tests.test_leastpapers import CASES, NEVER, Q, RECURS, joined_words, lies_within, random_cuts, wheres, zone_at
+from tests.test_judge import CALLS, SMALL, small_paper
+from tests.test_leastpapers import CASES, NEVER, Q, joined_words, lies_within, random_cuts, wheres, zone_at
 from tests.test_paths import random_program
 
 NOT_ROUNDS = [thing for thing in any_objects() if type(thing) is not int] + [-1, -7, True, False, "2", [2]]

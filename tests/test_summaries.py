@@ -12,7 +12,7 @@ from everypath.reading import read
 from everypath.refusals import BadMany, BadNumbers
 from everypath.runs import played, printed
 from everypath.summaries import followed_from, row_met, summary
-from tests.helpers import any_objects, eq, le, lt, name, no, num, p_program, refused, shape, told
+from tests.helpers import any_objects, eq, lt, name, no, num, p_program, refused, shape, told
 from tests.test_layers import NOT_MANY
 from tests.test_paths import NOT_SIDES, random_program
 from tests.test_runs import NOT_INPUTS, NOT_STEPS

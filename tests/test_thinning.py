@@ -14,7 +14,7 @@ from everypath.slices import is_closed, slice_of
 from everypath.thinning import sliced
 from everypath.verdicts import verdict
 from everypath.writing import written
-from tests.helpers import any_objects, listed, refused, shape, told
+from tests.helpers import any_objects, listed, refused, shape
 from tests.layings import Laying, names_in, set_by, used
 from tests.test_feeds import NOT_EDGES, OFTEN, TWO, anys
 from tests.test_slices import RETURNS, all_edges, programs
