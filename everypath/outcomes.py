@@ -12,7 +12,7 @@ from everypath.programs import check_program
 from everypath.refusals import BadSome, BadWhy
 from everypath.rewriting import put_in
 from everypath.runs import check_steps
-from everypath.stripmath import reduce_strip
+from everypath.stripmath import multiple, reduce_strip
 from everypath.trails import gone_along, trail_at_first, unknown
 from everypath.trees import is_condition_over
 
@@ -129,28 +129,38 @@ def outcome_toward(gathering, way):
     """(value, sides, inputs) of the outcome that is least, or greatest; () if there is none, None for no gathering."""
     if gathering is None:
         return None
-    best = ()
-    for branch in branches_that_end(gathering):
-        ends = ends_of(branch)
-        if best == () or way * ends[0 if way == LEAST else 1] < way * best[0]:
-            value, inputs = outcome_along(branch, ends, way)
-            if best == () or way * value < way * best[0]:
-                best = value, list(branch.trail.sides), inputs
-    return best
+    branches = branches_that_end(gathering)
+    spans = [worths_of(branch, way) for branch in branches]
+    best = None
+    # those that may be best by their ranges alone come first, since then most others need not be looked at
+    for index in sorted(range(len(spans)), key=lambda at: spans[at]):
+        low, high = spans[index]
+        if best is not None:
+            high = min(high, best[0] if index < best[1] else best[0] - 1)
+        found = None if low > high else least_worth(branches[index], low, high, way)
+        if found is not None:
+            best = found[0], index, found[1]
+    if best is None:
+        return ()
+    return way * best[0], list(branches[best[1]].trail.sides), best[2]
 
 
-def ends_of(branch):
-    """Between what integers the value of a branch lies by the ranges alone."""
+def worths_of(branch, way):
+    """Between what integers way times the value of a branch lies by the ranges alone."""
     ranges = branch.trail.ranges
     strips = {unknown(at): reduce_strip(low, high, 1, 0) for at, (low, high) in enumerate(ranges)}
-    return strip_over(branch.trail.why[1], strips)[:2]
+    return multiple(way, strip_over(branch.trail.why[1], strips))[:2]
 
 
-def outcome_along(branch, ends, way):
-    """(value, inputs) of the least, or greatest, outcome along a branch, as one unknown more that equals it."""
+def least_worth(branch, low, high, way):
+    """(worth, inputs) of the least from low to high that way times the value of a branch comes to; None if none is.
+
+    The worth is one unknown more, behind the inputs.
+    """
     grounds = branch.grounds.copied()
     number = len(grounds.table.ranges)
-    grounds.add_unknown(ends[0], ends[1])
-    last = grounds.add_condition(("eq", branch.trail.why[1], ("name", unknown(number))))
-    grounds.meet_toward(last, last + 1, {number: way})
+    grounds.add_unknown(low, high)
+    last = grounds.add_condition(("eq", ("times", way, branch.trail.why[1]), ("name", unknown(number))))
+    if grounds.meet_toward(last, last + 1, {number: 1}) is not None:
+        return None
     return grounds.inputs[number], grounds.inputs[:number]

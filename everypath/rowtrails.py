@@ -27,17 +27,19 @@ class RowTrail(Trail):
         self.events.append(event)
         self.moments.append(self.taken)
 
-    def side_of(self, condition):
-        side = Trail.side_of(self, condition)
-        if side is not None:
-            self.met.append(("side", self.taken, side, self.conditions[-1]))
-        return side
+    def meet_condition_of(self, side):
+        self.conditions.append(self.condition_of(side))
+        self.met.append(("side", self.taken, side, self.conditions[-1]))
 
     def is_parted(self):
         """Whether it goes on in more than one way."""
         return self.wants_side()
 
     def ways_on(self, steps):
+        """What comes of it in all these ways."""
+        return self.by_sides()
+
+    def by_sides(self):
         """What comes of it by the sides that may hold."""
         found = []
         for side in (0, 1):
@@ -82,7 +84,7 @@ class CallerTrail(RowTrail):
     def ways_on(self, steps):
         """What comes of it by the sides that may hold, or by the rows of the function that is called."""
         if self.wants_side():
-            return RowTrail.ways_on(self, steps)
+            return self.by_sides()
         _, _, g, expressions = self.edge_here()[2]
         sums = {}
         for param, expression in zip(self.program.params[g], expressions):

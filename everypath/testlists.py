@@ -16,11 +16,8 @@ class TouchTrail(Trail):
         self.touched = {}
         Trail.__init__(self, program)
 
-    def act(self, action, f, number):
-        goes_on = Trail.act(self, action, f, number)
-        if goes_on or self.why is not None and self.why[0] == "ends":
-            self.touched[(f, number)] = True
-        return goes_on
+    def touch(self, f, number):
+        self.touched[(f, number)] = True
 
 
 def touched(program, sides, steps):

@@ -67,8 +67,12 @@ class Trail(Walk):
         """The side that is taken next, with its condition put behind the others; None if it is not told yet."""
         side = self.next_side(condition, (0, 1))
         if side is not None:
-            self.conditions.append(self.condition_of(side))
+            self.meet_condition_of(side)
         return side
+
+    def meet_condition_of(self, side):
+        """Puts the condition of a side that is taken behind the others."""
+        self.conditions.append(self.condition_of(side))
 
     def next_side(self, condition, lets):
         """The side that is taken next, of those that are let; None if it is not told yet."""

@@ -42,10 +42,16 @@ class Walk:
             return
         f = self.frames[-1][0]
         edge = self.program.edges[f][number]
-        if self.act(edge[2], f, number):
+        goes_on = self.act(edge[2], f, number)
+        if goes_on or self.why is not None and self.why[0] == "ends":
+            self.touch(f, number)
+        if goes_on:
             self.taken += 1
             if edge[2][0] not in ("call", "return"):
                 self.frames[-1][1] = edge[1]
+
+    def touch(self, f, number):
+        """Is told each edge that is taken, and that by which it ends; beneath they may be noted."""
 
     def edge_taken(self):
         """The number of the edge that is taken from here, None if a side is wanted and there is none."""

@@ -194,7 +194,10 @@ class OutcomesTest(unittest.TestCase):
         self.assertEqual(told(self, ending, program=WIDE, steps=20, many=9, condition=condition), ("met", [0], [47, 0, 0, 0]))
         self.assertEqual(chances(WIDE, 20, 9)[0], (1000000, 4000001))
         self.assertEqual(added(chances(WIDE, 20, 9)), (1, 1))
-        self.assertEqual(told(self, chance_ending, program=WIDE, steps=20, many=9, condition=lt(num(2000000), OUT)), (0, 1))
+        narrow = read("def main() { b = any(-4000000, 0); c = any(0, 99); d = any(0, 99); if c mod 7 == d mod 7 { b = b + c; } return b; }")
+        self.assertEqual(told(self, chance_ending, program=narrow, steps=20, many=9, condition=lt(num(99), OUT)), (0, 1))
+        expected = sum(c for c in range(100) for d in range(100) if c % 7 == d % 7)
+        self.assertEqual(chance_ending(narrow, 20, 9, lt(num(0), OUT)), added([(expected, 4000001 * 10000)]))
 
     def test_more_than_many(self):
         for function, behind in ((chances, ()), (chance_of, (("going",),)), (chance_ending, (le(num(0), num(0)),)),
