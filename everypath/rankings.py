@@ -1,5 +1,7 @@
 """Rankings of loops: ranks that fall with each round, and zones that show it; what a ranking demands of its zones."""
 
+from heapq import heappop, heappush
+
 from everypath.callsteps import go_on
 from everypath.cuts import is_row, with_sides
 from everypath.demanding import parts_of_zone
@@ -114,27 +116,33 @@ class RankedLoop:
         return step(zone, action)
 
     def least_cells(self, ladder):
-        """The least cells by a ladder: pushed from none on until nothing changes."""
+        """The least cells by a ladder: what is demanded is put there, the first places first, until nothing changes."""
         cells = [{} for _ in self.loop.inner_places()]
-        known = {}
-        while True:
-            more = self.pushed_cells(cells, known, ladder)
-            if more == cells:
-                return cells
-            cells = more
+        shares = {}
+        queue = [(self.loop.head, origin) for origin in self.origins(cells)]
+        due = {origin: True for _, origin in queue}
+        while queue:
+            _, origin = heappop(queue)
+            if origin not in due:
+                continue
+            del due[origin]
+            for place, sides, part in self.demanded(origin, self.zone_from(cells, origin)):
+                shares.setdefault((place, sides), {})[origin] = part
+                zone = self.rounded_join(list(shares[(place, sides)].values()), sides, ladder)
+                rows = cells[place - self.loop.head - 1]
+                if zone != rows.get(sides):
+                    rows[sides] = zone
+                    for number in self.program.starts[self.f][place]:
+                        due[("step", number, sides)] = True
+                        heappush(queue, (place, ("step", number, sides)))
+        return cells
 
-    def pushed_cells(self, cells, known, ladder):
-        """What is demanded, joined, rounded up and met with its sides; known tells what is demanded of which zones."""
-        found = [{} for _ in cells]
-        for origin in self.origins(cells):
-            zone = self.zone_from(cells, origin)
-            if origin not in known or known[origin][0] != zone:
-                known[origin] = (zone, self.demanded(origin, zone))
-            for place, sides, part in known[origin][1]:
-                rows = found[place - self.loop.head - 1]
-                rows[sides] = join_zones(rows.get(sides), part)
-        cuts = self.paper[0][self.f]
-        return [{sides: with_sides(round_up(rows[sides], ladder), cuts, sides) for sides in rows} for rows in found]
+    def rounded_join(self, zones, sides, ladder):
+        """The join of what is demanded on a row of sides, rounded up and met with its sides."""
+        whole = None
+        for zone in zones:
+            whole = join_zones(whole, zone)
+        return with_sides(round_up(whole, ladder), self.paper[0][self.f], sides)
 
 
 def is_ranking(program, paper, f, head, thing):
