@@ -355,6 +355,38 @@ class WholeTest(unittest.TestCase):
         self.assertIs(is_parting(program, more, [2], 20), False)
         self.assertEqual(unlike_from(program, more, 20, 9), 5)
 
+    def test_alike_goes_on_from_one_to_the_next(self):
+        one = read("def main() { x = any(0, 9); if x < 3 { print 2 * x; } else { print x - 1; } return x mod 3; }")
+        two = read("def f(k) { return k - k // 3 * 3; } def main() { y = any(0, 9); if y >= 3 { print y - 1; } else { print y + y; } "
+                   "z = f(y); return z; }".replace("k // 3 * 3", "3 * (k // 3)"))
+        three = read("def main() { x = any(0, 9); y = x; if x <= 2 { y = 2 * x; } else { y = x - 1; } print y; while x > 2 { x = x - 3; } "
+                     "return x; }")
+        for a, b in ((one, two), (two, three), (one, three), (three, one)):
+            self.assertEqual(compared(a, b, 60, 60)[0], "alike")
+            self.assertIsNone(unlike_from(a, b, 60, 60))
+            for n in range(10):
+                self.assertIs(is_parting(a, b, [n], 60), False)
+
+    def test_more_steps_than_the_longest_tell_all(self):
+        source = random.Random(5)
+        words = []
+        programs = []
+        while len(programs) < 8:
+            program = random_program(source)
+            if not any(heads(program, f) for f, _, _ in program.functions()):
+                programs.append(program)
+        for program, other in zip(programs, programs[1:] + programs[:1]):
+            steps = []
+            for one in (program, other):
+                functions = [f for f, _, _ in one.functions()]
+                paper = least_paper(one, [0], {f: [] for f in functions})
+                steps.append(longest(one, paper, {}, {f: num(0) for f in functions}))
+            for a, b in ((program, other), (program, program)):
+                found = compared(a, b, max(steps) + 1, 90)
+                words.append(found and found[0])
+        self.assertNotIn("so far", words)
+        self.assertGreater(words.count("alike"), 2)
+
     def test_examples_of_paths(self):
         self.assertEqual(shape(told(self, paths, program=P, steps=9, many=10)), shape([
             ([0, 0, 0], ("going",), [16]), ([0, 1], ("breaks", "main", 7), [18]), ([1, 0, 0], ("going",), [5]),
