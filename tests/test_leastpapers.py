@@ -187,6 +187,24 @@ class LeastPapersTest(unittest.TestCase):
         begun = wanted(SMALL, begun)
         self.assertEqual(list(begun[3]["main"][0]), [(1,)])
 
+    def test_what_nothing_demands_is_not_wanted(self):
+        paper = least_paper(RECURS, [0, 4], {"down": [], "up": [], "main": [], "lone": []})
+        paper[1]["lone"] = (["a"], {}, {"a": (1, 0)})
+        paper[2]["lone"] = (["=", "a0"], {}, {"=": (1, 0), "a0": (1, 0)})
+        found = wanted(RECURS, paper)
+        self.assertEqual((found[1]["lone"], found[2]["lone"]), (None, None))
+        self.assertEqual(list(found[3]["lone"][0]), [()])
+        self.assertEqual(found, wanted_words(RECURS, paper))
+        paper[1]["lone"] = None
+        self.assertEqual(wanted(RECURS, paper), wanted_words(RECURS, paper))
+        paper[1]["lone"], paper[2]["lone"], paper[3]["lone"] = (["a"], {}, {"a": (1, 0)}), None, [{}, {}, {}]
+        self.assertIsNone(wanted(RECURS, paper)[1]["lone"])
+        self.assertEqual(wanted(RECURS, paper), wanted_words(RECURS, paper))
+        paper = empty_paper(RECURS, paper[0])
+        paper[2]["up"] = (["=", "k0", "n0"], {}, {"=": (1, 0), "k0": (1, 0), "n0": (1, 0)})
+        self.assertEqual(wanted(RECURS, paper), wanted_words(RECURS, paper))
+        self.assertIsNone(pushed(RECURS, [0], paper)[2]["up"])
+
     def test_taken_just_if_what_is_wanted_lies_within(self):
         source = random.Random(3)
         seen = set()

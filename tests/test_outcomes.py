@@ -186,6 +186,21 @@ class OutcomesTest(unittest.TestCase):
         self.assertEqual(told(self, least_outcome, program=NONE, steps=9, many=9), ())
         self.assertEqual(told(self, greatest_outcome, program=STUCK, steps=2, many=9), ())
 
+    def test_paths_with_the_same_outcome(self):
+        """The least path counts, though by the ranges alone another one might come to less, or to more."""
+        text = """def main() { x = any(0, 9); y = any(0, 9); if x < 2 { return A; } if x < 5 { assume y >= x + 3; assume y <= x + 5;
+                  return y - x; } return B; }"""
+        for one, other, least, greatest in ((3, 3, (3, [0], [0, 0]), (5, [1, 0, 0, 0], [2, 7])),
+                                            (4, 2, (2, [1, 1], [5, 0]), (5, [1, 0, 0, 0], [2, 7])),
+                                            (4, 3, (3, [1, 0, 0, 0], [2, 5]), (5, [1, 0, 0, 0], [2, 7])),
+                                            (5, 6, (3, [1, 0, 0, 0], [2, 5]), (6, [1, 1], [5, 0])),
+                                            (5, 5, (3, [1, 0, 0, 0], [2, 5]), (5, [0], [0, 0])),
+                                            (2, 2, (2, [0], [0, 0]), (5, [1, 0, 0, 0], [2, 7])),
+                                            (4, 5, (3, [1, 0, 0, 0], [2, 5]), (5, [1, 0, 0, 0], [2, 7]))):
+            program = read(text.replace("A", str(one)).replace("B", str(other)))
+            self.assertEqual(least_outcome(program, 30, 9), least)
+            self.assertEqual(greatest_outcome(program, 30, 9), greatest)
+
     def test_great_ranges(self):
         self.assertEqual(told(self, least_outcome, program=WIDE, steps=20, many=9),
                          (-12000000, [0], [0, -4000000, 0, 0]))

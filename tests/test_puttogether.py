@@ -142,6 +142,18 @@ class PutTogetherTest(unittest.TestCase):
         self.assertIsNone(together(program, "main", {"f": rows}, 30, 3))
         self.assertEqual(together(program, "f", {}, 3, 1), [([], 0, ("ends", A))])
 
+    def test_of_equal_rows_the_first_one_stands(self):
+        program = read("def f() { return 1; } def main() { y = f(); return y; }")
+        c, d = lt(A, num(3)), le(A, num(3))
+        one = ([("side", 0, 1, c), ("print", 1, A), ("side", 2, 0, c)], 3, ("ends", num(1)))
+        others = [([("side", 0, 1, d), *one[0][1:]], 3, one[2]), ([one[0][0], ("print", 1, U0), one[0][2]], 3, one[2]),
+                  ([*one[0][:2], ("side", 2, 0, d)], 3, one[2]), (one[0], 4, one[2]), (one[0], 3, ("ends", num(2))),
+                  ([*one[0], ("print", 2, A)], 3, one[2]), (one[0], 3, ("breaks", "f", 1)), (one[0], 3, ("breaks", "f", 2)),
+                  (one[0], 3, ("breaks", "g", 1)), (one[0], 3, ("barred", "f", 1))]
+        rows = [one, *others, one, *others[::-1]]
+        found = together(program, "main", {"f": rows}, 40, 40)
+        self.assertEqual(found, [together(program, "main", {"f": [row]}, 40, 40)[0] for row in [one, *others]])
+
     def test_no_steps(self):
         for program in (F, LOOPS):
             for f, _, _ in program.functions():

@@ -146,6 +146,22 @@ class MostTest(unittest.TestCase):
             if at % 3 != 0:
                 self.assertEqual(most(zone, expression), reached)
 
+    def test_few_units_from_two_to_two(self):
+        source = random.Random(12)
+        told_ones = []
+        for _ in range(1500):
+            zone = random_zone(source, ("w", "x", "y", "z"), source.choice((0.3, 0.5, 0.9)), (1,))
+            shut = closed(zone)
+            terms = [(thing, source.choice((-3, -2, -1, 1, 2, 3))) for thing in source.sample("wxyz", source.randrange(2, 5))]
+            if shut is not None:
+                expression = num(0)
+                for thing, factor in terms:
+                    expression = add(expression, times(factor, name(thing)))
+                told_ones.append(most(zone, expression))
+                self.assertEqual(told_ones[-1], unit_cost(shut[1], terms))
+        self.assertGreater(len([one for one in told_ones if one is not None]), 100)
+        self.assertIn(None, told_ones)
+
     def test_many_units(self):
         bounds = {("a", "0"): 7, ("b", "0"): 5, ("0", "c"): -1, ("0", "d"): 4, ("a", "c"): 3, ("b", "c"): 1,
                   ("a", "d"): 12, ("b", "d"): 6}
