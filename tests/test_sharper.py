@@ -4,7 +4,7 @@ import random
 import unittest
 
 from everypath.errors import BadName, BadOther, BadPaper, BadPlace, BadProgram
-from everypath.judge import judged, lies
+from everypath.judge import judged, lies, met_papers
 from everypath.leastpapers import empty_paper, least_paper, wanted
 from everypath.papers import is_paper
 from everypath.programs import Program
@@ -94,6 +94,19 @@ class SharperTest(unittest.TestCase):
             found = narrowed(program, paper, 3)
             for inputs, _, _ in (all_runs(program, 40, 300) or [])[::9]:
                 for state in played(program, inputs, 40)[1]:
+                    self.assertIs(lies(program, found, state), True)
+
+    def test_met_papers_are_taken(self):
+        source = random.Random(7)
+        for program, ladder, cuts in CASES + [(random_program(source), [-4, 0, 1, 6], None) for _ in range(8)]:
+            cuts = random_cuts(program, source) if cuts is None else cuts
+            one = narrowed(program, least_paper(program, ladder, cuts), source.randrange(3))
+            other = least_paper(program, sorted(source.sample(range(-9, 12), 3)), cuts)
+            found = met_papers(program, one, other)
+            self.assertIsNone(judged(program, found))
+            self.assertIsNone(judged(program, met_papers(program, found, one)))
+            for inputs, _, _ in (all_runs(program, 30, 200) or [])[::9]:
+                for state in played(program, inputs, 30)[1]:
                     self.assertIs(lies(program, found, state), True)
 
     def test_rows_at(self):
