@@ -309,6 +309,18 @@ class ReadingTest(unittest.TestCase):
             else:
                 self.assertIn(self.place_of(P_TEXT[:at]), [at, *cut])
 
+    def test_a_sign_that_begins_no_token_at_each_place(self):
+        for sign in "#!/.X_%\t\u00e9":
+            for at in range(len(P_TEXT) + 1):
+                cut = [place for place, token in tokens(P_TEXT) if place < at < place + len(token)]
+                text = P_TEXT[:at] + sign + P_TEXT[at:]
+                whole = {"!": text[at:at + 2] == "!=", "/": "//" in text[max(0, at - 1):at + 2]}.get(sign, False)
+                if not whole:
+                    # a word that is cut may be refused itself
+                    self.assertIn(self.place_of(text), [at, *cut], (sign, at))
+                    if not cut:
+                        self.assertEqual(self.place_of(text), at, (sign, at))
+
     def place_of(self, text):
         with self.assertRaises(BadText) as caught:
             read(text)

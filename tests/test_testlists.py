@@ -95,6 +95,12 @@ class TestListsTest(unittest.TestCase):
                          [("lone", 0), ("lone", 1), ("main", 19), ("main", 24), ("main", 25)])
         self.assertEqual([edges(MANY, "main")[number][2][0] for number in (19, 24, 25)], ["skip", "print", "return"])
 
+    def test_sides_that_nobody_takes(self):
+        program = read("def main() { x = any(0, 3); if x < 9 { return 1; } print x; return 2; }")
+        self.assertEqual(told(self, touched, program=program, sides=[1], steps=9), [("main", k) for k in (0, 3, 5, 6, 7)])
+        self.assertEqual(untested(program, 9, 9), [("main", k) for k in range(3, 9)])
+        self.assertEqual(tests(program, 9, 9), [[0]])
+
     def test_tests_by_going_through_all_lots(self):
         for program, steps in self.programs(2):
             told_paths = paths(program, steps, 10 ** 6)
