@@ -130,11 +130,9 @@ def outcome_toward(gathering, way):
     if gathering is None:
         return None
     branches = branches_that_end(gathering)
-    spans = [worths_of(branch, way) for branch in branches]
     best = None
     # those that may be best by their ranges alone come first, since then most others need not be looked at
-    for index in sorted(range(len(spans)), key=lambda at: spans[at]):
-        low, high = spans[index]
+    for (low, high), index in sorted([(worths_of(branch, way), index) for index, branch in enumerate(branches)]):
         if best is not None:
             high = min(high, best[0] if index < best[1] else best[0] - 1)
         found = None if low > high else least_worth(branches[index], low, high, way)
